@@ -1,0 +1,1 @@
+"""Macroasm: an assembler with macros and forward references."""
