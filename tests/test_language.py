@@ -1,0 +1,205 @@
+"""The rules for the code that can be seen in its files."""
+
+import ast
+import builtins
+import pathlib
+import re
+import unittest
+
+FOLDER = pathlib.Path(__file__).resolve().parent.parent / "macroasm"
+FILES = {path.stem: path.read_text(encoding="utf-8") for path in sorted(FOLDER.glob("*.py"))}
+TREES = {name: ast.parse(text) for name, text in FILES.items()}
+BUILTINS = """
+len range enumerate zip min max sum abs sorted reversed int str bool list tuple dict set isinstance ord repr any all
+divmod super property staticmethod classmethod Exception ValueError TypeError KeyError IndexError LookupError
+ZeroDivisionError ArithmeticError OverflowError RuntimeError NotImplementedError NotImplemented
+""".split()
+METHODS = """
+append clear count endswith extend find get index insert isalnum isalpha isdigit islower isspace isupper items join
+keys ljust lower lstrip partition pop remove replace reverse rfind rjust rpartition rsplit rstrip setdefault split
+splitlines startswith strip update upper values zfill bit_length
+""".split()
+BARRED = """
+type typing typing_extensions enum Enum IntEnum StrEnum Flag IntFlag Generic Protocol ABC ABCMeta namedtuple
+NamedTuple TypedDict TYPE_CHECKING abstractmethod Meta
+""".split()
+BARRED_NAMES = """
+mro elements open input law version_info with_traceback add_note register attrgetter breakpoint compile delattr dir eval
+exec exit gc getattr globals hasattr help importlib locals methodcaller os setattr vars
+""".split()
+LISTS_ALONE = ("any", "all", "sum", "min", "max", "sorted")
+
+
+def nodes(kind):
+    """Pairs of a file and a node, for all nodes of a kind."""
+    return [(name, node) for name, tree in TREES.items() for node in ast.walk(tree) if isinstance(node, kind)]
+
+
+def functions():
+    """All functions and methods, with their files."""
+    return nodes(ast.FunctionDef)
+
+
+def bound_in(function):
+    """The names of the parameters and local variables of a function."""
+    told = [node.arg for node in ast.walk(function) if isinstance(node, ast.arg)]
+    told += [node.id for node in ast.walk(function) if isinstance(node, ast.Name) and isinstance(node.ctx, ast.Store)]
+    return told + [node.name for node in ast.walk(function) if isinstance(node, ast.ExceptHandler) and node.name]
+
+
+def imported_by(name):
+    """Pairs of a file and a name that a file imports from it."""
+    found = [node for node in TREES[name].body if isinstance(node, ast.ImportFrom)]
+    return [(node.module.split(".")[-1], alias.name) for node in found for alias in node.names]
+
+
+def defined_in(name):
+    """The names that a file defines itself."""
+    told = [node.name for node in TREES[name].body if isinstance(node, (ast.FunctionDef, ast.ClassDef))]
+    return told + [node.targets[0].id for node in TREES[name].body if isinstance(node, ast.Assign)]
+
+
+class Files(unittest.TestCase):
+    def test_sizes_and_characters(self):
+        for name, text in FILES.items():
+            self.assertRegex(name, r"^[a-z][a-z0-9]*$|^__init__$")
+            self.assertLess(len(text.split("\n")), 400, name)
+            for line in text.split("\n"):
+                self.assertRegex(line, r"^[ -~]{0,120}$", name)
+                self.assertEqual(line, line.rstrip(), name)
+        for name, node in functions():
+            self.assertLessEqual(node.end_lineno - node.lineno + 1, 40, (name, node.name))
+
+    def test_nothing_else_is_there(self):
+        for path in FOLDER.iterdir():
+            self.assertTrue(path.suffix == ".py" or path.name == "__pycache__", path)
+
+    def test_module_level(self):
+        for name, tree in TREES.items():
+            self.assertEqual(len(defined_in(name)), len(set(defined_in(name))), name)
+            for node in tree.body:
+                self.assertIsInstance(node, (ast.Expr, ast.ImportFrom, ast.FunctionDef, ast.ClassDef, ast.Assign))
+                if isinstance(node, ast.Expr):
+                    self.assertIsInstance(node.value.value, str)
+
+    def test_imports_name_the_file_that_defines(self):
+        self.assertEqual(nodes(ast.Import), [])
+        for name, node in nodes(ast.ImportFrom):
+            self.assertRegex(node.module, r"^macroasm\.[a-z]+$")
+            self.assertEqual(node.level, 0)
+            for alias in node.names:
+                self.assertIsNone(alias.asname)
+                self.assertIn(alias.name, defined_in(node.module.split(".")[1]), name)
+
+    def test_all_that_is_imported_is_used(self):
+        for name, text in FILES.items():
+            for _, word in imported_by(name):
+                self.assertGreater(len(re.findall(rf"\b{word}\b", text)), 1, (name, word))
+
+    def test_imports_go_one_way(self):
+        done = []
+        while len(done) < len(FILES):
+            free = [name for name in FILES if name not in done and {file for file, _ in imported_by(name)} <= set(done)]
+            self.assertTrue(free, done)
+            done += free
+
+
+class Names(unittest.TestCase):
+    def test_plain_names(self):
+        for name, node in nodes((ast.Name, ast.arg, ast.FunctionDef, ast.ClassDef, ast.Attribute)):
+            word = getattr(node, "id", None) or getattr(node, "arg", None) or getattr(node, "attr", None) or node.name
+            self.assertNotIn(word, BARRED_NAMES, name)
+            self.assertRegex(word, r"^_?[A-Za-z][A-Za-z0-9_]*$|^_$|^__[a-z]+__$", name)
+            if not isinstance(node, ast.FunctionDef):
+                self.assertRegex(word, r"^(?!__)|^__init__$", name)
+
+    def test_barred_words(self):
+        for name, text in FILES.items():
+            for word in BARRED:
+                self.assertIsNone(re.search(rf"\b{word}\b", text), (name, word))
+
+    def test_names_mean_one_thing(self):
+        for name, function in functions():
+            barred = [word for _, word in imported_by(name)]
+            barred += [node.name for node in TREES[name].body if isinstance(node, ast.ClassDef)]
+            for word in bound_in(function):
+                self.assertNotIn(word, barred, (name, function.name))
+                self.assertFalse(hasattr(builtins, word), (name, word))
+        for name in FILES:
+            for word in defined_in(name):
+                self.assertFalse(hasattr(builtins, word), (name, word))
+
+    def test_generators_have_names_of_their_own(self):
+        told = [node.name for _, node in functions()]
+        for name, node in functions():
+            if any(isinstance(part, (ast.Yield, ast.YieldFrom)) for part in ast.walk(node)):
+                self.assertEqual(told.count(node.name), 1, (name, node.name))
+
+    def test_properties_are_no_attributes_or_methods(self):
+        properties = [node.name for _, node in functions() if decorators(node) == ["property"]]
+        methods = [node.name for _, node in functions() if decorators(node) != ["property"]]
+        stored = [node.attr for _, node in nodes(ast.Attribute) if isinstance(node.ctx, ast.Store)]
+        for word in properties:
+            self.assertNotIn(word, stored)
+            self.assertNotIn(word, methods + METHODS)
+        for word in methods:
+            self.assertNotIn(word, stored)
+
+
+def decorators(node):
+    """The names over a function."""
+    return [one.id for one in node.decorator_list]
+
+
+class Statements(unittest.TestCase):
+    def test_what_is_not_used(self):
+        barred = (
+            ast.AsyncFunctionDef, ast.Await, ast.Global, ast.Nonlocal, ast.With, ast.Lambda, ast.Set, ast.SetComp,
+            ast.AnnAssign, ast.Delete, ast.Div, ast.Pow, ast.Mod, ast.Match, ast.NamedExpr,
+        )
+        for name, node in nodes(barred):
+            is_limit = name == "scanning" and isinstance(node, ast.Pow)
+            self.assertTrue(is_limit, (name, node, getattr(node, "lineno", None)))
+
+    def test_constants(self):
+        for name, node in nodes(ast.Constant):
+            self.assertNotIsInstance(node.value, (float, complex, bytes), name)
+            if isinstance(node.value, str):
+                self.assertNotIn("%", node.value, name)
+
+    def test_decorators(self):
+        for name, node in functions():
+            self.assertIn(decorators(node), ([], ["property"], ["classmethod"], ["staticmethod"]), (name, node.name))
+        for _, node in nodes(ast.ClassDef):
+            self.assertEqual(node.decorator_list, [])
+
+    def test_builtins(self):
+        for name, node in nodes(ast.Name):
+            if hasattr(builtins, node.id):
+                self.assertIn(node.id, BUILTINS, (name, node.lineno))
+
+    def test_methods(self):
+        own = [node.name for _, node in functions()]
+        for name, node in nodes(ast.Call):
+            if isinstance(node.func, ast.Attribute):
+                self.assertIn(node.func.attr, METHODS + own, (name, node.lineno))
+
+    def test_is(self):
+        for name, node in nodes(ast.Compare):
+            for sign, other in zip(node.ops, node.comparators):
+                if isinstance(sign, (ast.Is, ast.IsNot)):
+                    self.assertIsInstance(other, ast.Constant, (name, node.lineno))
+
+    def test_generator_expressions(self):
+        for name, node in nodes(ast.Call):
+            for given in node.args:
+                if isinstance(given, ast.GeneratorExp):
+                    self.assertNotIn(getattr(node.func, "id", None), LISTS_ALONE, (name, node.lineno))
+
+    def test_handlers_and_raises(self):
+        for name, node in nodes(ast.ExceptHandler):
+            told = node.type.elts if isinstance(node.type, ast.Tuple) else [node.type]
+            for one in told:
+                self.assertIn(one.id, defined_in("errors"), (name, node.lineno))
+        for name, node in nodes(ast.Raise):
+            self.assertIsInstance(node.exc, ast.Call, (name, node.lineno))
