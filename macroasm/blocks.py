@@ -49,8 +49,8 @@ def _is_well_written(line):
     label, word, behind = head_parts(line)
     if label != "" or line[behind:behind + 1] == "$":
         return False
-    rest = line[behind:].strip(" ")
-    return word not in BARE or rest == "" or rest.startswith(";")
+    operands = line[behind:].strip(" ")
+    return word not in BARE or operands == "" or operands.startswith(";")
 
 
 class Block:

@@ -26,7 +26,8 @@ class Expander:
         lines = program_lines(text)
         blocks = found_blocks(lines)
         known = _checked_library(library)
-        self._macros = {**known, **defined_macros(lines, blocks, source, known)}
+        self._macros = dict(known)
+        self._macros.update(defined_macros(lines, blocks, source, known))
         self._plans = {name: _plan_of(macro) for name, macro in self._macros.items()}
         self._frames = [Frame(lines, Plan(lines, blocks), (source, 1), ())]
         self._pairs = ((source, 1),)
@@ -153,11 +154,13 @@ class Expander:
         self._waiting = (word, line)
         return None if label == "" else self._plain(label + ":")
 
-    def _is_call(self, label, word, rest):
+    def _is_call(self, label, word, behind):
+        """Whether a line calls a macro, by its label, its word and what stands behind that."""
         if word not in self._macros:
             return False
-        is_longer = row_end(rest, 0, BARRED_BEHIND, 1) > 0 or rest.startswith(".") and not rest.startswith("..")
-        sign = rest.lstrip(" ")[:2]
+        # A path or a made name reaches further than the word, which is no operation then.
+        is_longer = row_end(behind, 0, BARRED_BEHIND, 1) > 0 or behind.startswith(".") and not behind.startswith("..")
+        sign = behind.lstrip(" ")[:2]
         is_equation = label == "" and sign.startswith("=") and sign != "=="
         return not is_longer and not is_equation
 

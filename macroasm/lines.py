@@ -118,8 +118,7 @@ class Line:
             self._operands = _sides_of(text, found)
         else:
             self._label = _label_of(found)
-            self._operation = _operation_of(found, self._label)
-            self._operands = _behind(text, found, self._label)
+            self._operation, self._operands = _action_of(text, found if self._label == "" else found[2:])
         self._parts = (self._label, self._operation, self._operands)
 
     @property
@@ -173,17 +172,11 @@ def _label_of(found):
     return value if is_label and found[1][2] == column + len(value) else ""
 
 
-def _operation_of(found, label):
-    rest = found if label == "" else found[2:]
-    if not rest:
-        return ""
-    if not _is_single(rest[0]) or "@" in rest[0][1]:
-        raise BadLine(rest[0][2])
-    return rest[0][1]
-
-
-def _behind(text, found, label):
-    rest = found if label == "" else found[2:]
-    if not rest:
-        return ()
-    return split_operands(text, rest[0][2] + len(rest[0][1]))
+def _action_of(text, found):
+    """The operation and the operands of a line, by its tokens behind the label."""
+    if not found:
+        return "", ()
+    _, value, column = found[0]
+    if not _is_single(found[0]) or "@" in value:
+        raise BadLine(column)
+    return value, split_operands(text, column + len(value))

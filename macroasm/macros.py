@@ -38,7 +38,7 @@ def defined_macros(lines, blocks, source, library):
     macros = {}
     for block in blocks:
         if block.word == "macro":
-            macro = _defined(lines, block, source, [*library, *macros])
+            macro = _defined(lines, block, source, list(library) + list(macros))
             macros[macro.macro_name] = macro
     return macros
 
