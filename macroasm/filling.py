@@ -19,11 +19,15 @@ def check_own_names(line):
             raise BadLine(at)
 
 
+def body_line(line):
+    """A line of a body without its comment; the blanks at the ends stay."""
+    return line[:bare_part(line, loose_end)[1]]
+
+
 def check_body_line(line, names):
-    """BadLine for a `$` or an `@` of a body that is not known, names being those of the parameters."""
-    stop = bare_part(line, loose_end)[1]
+    """BadLine for a `$` or an `@` that is not known in a line of body_line, names being those of the parameters."""
     at = line.find("$")
-    while 0 <= at < stop:
+    while at >= 0:
         end = _marked_end(line, at)
         mark = line[at + 1:end]
         if mark not in IN_ALL_LINES and mark not in IN_BODIES and mark not in names:

@@ -4,7 +4,7 @@ from macroasm.blocks import check_lengths, found_blocks, program_lines
 from macroasm.brackets import split_operands
 from macroasm.directives import is_free_name
 from macroasm.errors import BadLine, BadName, BadOperands, StateTrouble, Taken, TextError, Trouble
-from macroasm.filling import check_body_line, filled_line
+from macroasm.filling import body_line, check_body_line, filled_line
 from macroasm.lines import is_name, operands_of, unbraced, uncommented
 from macroasm.origins import Origin, is_text_name
 from macroasm.scanning import head_parts
@@ -57,7 +57,7 @@ def _defined(lines, block, source, taken):
 
 def _check_defined_line(line, names, origin):
     try:
-        check_body_line(line, names)
+        check_body_line(body_line(line), names)
     except BadLine as cause:
         raise Trouble(origin, cause) from cause
 
@@ -134,13 +134,16 @@ class Macro:
         _check_parameters(parameters)
         _check_body(body)
         names = [name for name, _ in parameters]
-        for text in body:
+        bare = tuple([body_line(text) for text in body])
+        for text in bare:
             check_body_line(text, names)
         check_lengths(body)
         found_blocks(body, line + 1, in_macro=True)
         self._macro_name = macro_name
         self._parameters = parameters
         self._body = body
+        # The lines without their comments, in which nothing is filled in.
+        self._bare = bare
         self._place = (source, line)
         self._parts = (macro_name, parameters, body)
 
@@ -188,7 +191,7 @@ class Macro:
         texts = {name: arguments[index] for index, (name, _) in enumerate(self._parameters)}
         texts["#"] = str(len(self._further(operands)))
         texts["@"] = str(number)
-        return tuple([filled_line(line, texts) for line in self._body])
+        return tuple([filled_line(line, texts) for line in self._bare])
 
     def _has_rest(self):
         return len(self._parameters) > 0 and self._parameters[-1][1] == REST

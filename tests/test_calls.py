@@ -3,6 +3,7 @@
 from helpers import LIMIT, Case
 from macroasm.errors import BadLine, BadOperands, DividedByZero, NoName, TooLarge
 from macroasm.expanding import Expander
+from macroasm.macros import Macro, macros_of
 
 MACRO = "macro m a, b = d\n$a-$b\nendmacro\n"
 
@@ -35,6 +36,16 @@ class Calls(Case):
             ("m 1 ; 2, 3, 4", "1-d"),
         ):
             self.assertEqual([text for text, _ in Expander(MACRO + line).rest()][-1], wanted)
+
+    def test_comments_of_bodies(self):
+        body = "byte $p ; $p$p$p\n  ; $p @ $q\nif 1 ; $p$p$p\nc \";$p\"\nendif ; $p\n"
+        text = "macro m p\n" + body + "endmacro\n"
+        line = "m " + "x" * 150
+        wanted = ["byte " + "x" * 150, "c \";" + "x" * 150 + "\""]
+        self.expands(wanted, text + line)
+        self.expands(wanted, line, library=macros_of(text))
+        self.expands(wanted, line, library={"m": Macro("m", (("p", None),), tuple(body.split("\n")))})
+        self.expands(["byte \";\""], "macro m p\nbyte $p ; $p\nendmacro\nm \";\"")
 
     def test_macros_are_known_everywhere(self):
         self.expands(["b"], "one\nmacro one\ntwo\nendmacro\nmacro two\nb\nendmacro")

@@ -234,9 +234,22 @@ class Filling(Case):
         self.fills("x:", "$a:")
 
     def test_everywhere(self):
-        self.fills("  x: \"1\" 'x' ; x $b 7 ", "  $a: \"$ab\" '$a' ; $a $b $@ ")
+        self.fills("  x: \"1\" 'x' 7 ", "  $a: \"$ab\" '$a' $@ ")
         self.fills("$(x + 1)", "$($a + 1)")
         self.fills("$|if x", "$|if $a")
+
+    def test_comments_are_cut(self):
+        self.fills("byte x ", "byte $a ; of $a $ @ $q")
+        self.fills("", "; $a")
+        self.fills(" ", " ;")
+        self.fills("\";x\" ';' ", "\";$a\" ';' ;\"")
+        self.fills("x'y ", "$a'y ; $a'")
+        self.fills("\"y ", "\"y ; $a")
+        self.fills("\";\" 1", "$a $ab", ("\";\"", "1"))
+        macro = Macro("m", (("a", None),), ("$a", "b ;" + "$a" * 100, ""))
+        self.assertEqual(macro.filled(("x" * 100,), 1), ("x" * 100, "b ", ""))
+        self.assertEqual(macro.body[1], "b ;" + "$a" * 100)
+        self.assertEqual(macros_of("macro m a\n $a ; $a $b\nendmacro")["m"].filled(("1",), 1), (" 1 ",))
 
     def test_once(self):
         macro = Macro("m", (("a", None), ("b", None)), ("$a$b",))
