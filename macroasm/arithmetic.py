@@ -6,30 +6,36 @@ from macroasm.scanning import LARGEST
 MOST_SHIFTED = 64
 
 
+def is_number(value):
+    """Whether a value is an integer; True and False are none."""
+    return isinstance(value, int) and not isinstance(value, bool)
+
+
 def is_value(value):
     """Whether a value is an integer that an expression can have."""
-    return isinstance(value, int) and not isinstance(value, bool) and -LARGEST <= value <= LARGEST
+    return is_number(value) and -LARGEST <= value <= LARGEST
+
+
+def bounded(value):
+    """An integer; TooLarge if no expression can have it."""
+    if not -LARGEST <= value <= LARGEST:
+        raise TooLarge(LARGEST)
+    return value
 
 
 def signed_value(sign, one):
     """The value of a sign in front of a value."""
     if sign == "-":
-        return _bounded(-one)
+        return bounded(-one)
     if sign == "~":
-        return _bounded(-one - 1)
+        return bounded(-one - 1)
     return _told(one == 0)
 
 
 def joined_value(one, sign, other):
     """The value of an operator between two values."""
     action = OPERATIONS[sign]
-    return _bounded(action(one, other))
-
-
-def _bounded(value):
-    if not -LARGEST <= value <= LARGEST:
-        raise TooLarge(LARGEST)
-    return value
+    return bounded(action(one, other))
 
 
 def _told(is_so):

@@ -17,7 +17,7 @@ ZeroDivisionError ArithmeticError OverflowError RuntimeError NotImplementedError
 METHODS = """
 append clear count endswith extend find get index insert isalnum isalpha isdigit islower isspace isupper items join
 keys ljust lower lstrip partition pop remove replace reverse rfind rjust rpartition rsplit rstrip setdefault split
-splitlines startswith strip update upper values zfill bit_length
+splitlines startswith strip update upper values zfill bit_length isascii
 """.split()
 BARRED = """
 type typing typing_extensions enum Enum IntEnum StrEnum Flag IntFlag Generic Protocol ABC ABCMeta namedtuple
@@ -146,6 +146,27 @@ class Names(unittest.TestCase):
             self.assertNotIn(word, stored)
 
 
+class Classes(unittest.TestCase):
+    def test_what_has_items_is_not_iterated(self):
+        for name, node in nodes(ast.ClassDef):
+            told = [part.name for part in node.body if isinstance(part, ast.FunctionDef)]
+            self.assertEqual("__getitem__" in told, "__iter__" in told, (name, node.name))
+            self.assertEqual(len(told), len(set(told)), (name, node.name))
+
+    def test_reflected_methods_stand_alone(self):
+        bases = [base.id for _, node in nodes(ast.ClassDef) for base in node.bases]
+        for name, node in nodes(ast.ClassDef):
+            told = [part.name for part in node.body if isinstance(part, ast.FunctionDef)]
+            if "__radd__" in told:
+                self.assertEqual((node.bases, node.name in bases), ([], False), name)
+
+    def test_lengths(self):
+        for name, node in functions():
+            if node.name == "__len__":
+                told = [part for part in node.body if not isinstance(part, ast.Expr)]
+                self.assertEqual((len(told), told[0].value.func.id), (1, "len"), name)
+
+
 def decorators(node):
     """The names over a function."""
     return [one.id for one in node.decorator_list]
@@ -158,8 +179,16 @@ class Statements(unittest.TestCase):
             ast.AnnAssign, ast.Delete, ast.Div, ast.Pow, ast.Mod, ast.Match, ast.NamedExpr,
         )
         for name, node in nodes(barred):
-            is_limit = name == "scanning" and isinstance(node, ast.Pow)
-            self.assertTrue(is_limit, (name, node, getattr(node, "lineno", None)))
+            self.assertIsInstance(node, ast.Pow, (name, getattr(node, "lineno", None)))
+        for name, node in nodes(ast.BinOp):
+            if isinstance(node.op, ast.Pow):
+                self.assertIn(node, [getattr(limit, "value", None) for limit in TREES[name].body], (name, node.lineno))
+                self.assertLessEqual(node.right.value, 64)
+
+    def test_steps_are_literal(self):
+        for name, node in nodes(ast.AugAssign):
+            self.assertIsInstance(node.value, ast.Constant, (name, node.lineno))
+            self.assertIsInstance(node.value.value, int, (name, node.lineno))
 
     def test_constants(self):
         for name, node in nodes(ast.Constant):
