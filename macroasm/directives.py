@@ -2,12 +2,7 @@
 
 from macroasm.errors import BadOperands
 from macroasm.expressions import tree_of, value_of
-from macroasm.lines import is_name, is_reserved, unbraced
-
-
-def is_free_name(value):
-    """Whether a value is a name that is not reserved."""
-    return is_name(value) and not is_reserved(value)
+from macroasm.lines import is_free_name, unbraced
 
 
 def condition(operands, variables):

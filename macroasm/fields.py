@@ -1,11 +1,11 @@
-"""The fields of instructions, and the operands that fit them."""
+"""The fields of instructions: which operands fit them, and the cells that they have."""
 
 from macroasm.arithmetic import is_number, is_value
 from macroasm.errors import BadName, BadNumber
 
 LAST_ADDRESS = 2 ** 40
 LAST_CELL = 255
-# The numbers of the cells that the fields have.
+# The numbers of the cells that fields have; a pair has none.
 WIDTHS = {"u1": 1, "u2": 2, "u4": 4, "s1": 1, "s2": 2, "s4": 4, "r1": 1, "r2": 2, "r4": 4}
 
 
@@ -26,6 +26,11 @@ def is_field(value):
     return isinstance(value, str) and value in WIDTHS
 
 
+def width_of(field):
+    """The number of the cells that a field has."""
+    return 0 if isinstance(field, tuple) else WIDTHS[field]
+
+
 def field_bounds(field, behind=0):
     """The least and the greatest operand that fits a field; behind: the address behind the instruction."""
     if not is_field(field):
@@ -42,5 +47,39 @@ def bounds_at(field, behind):
     half = 1 << 8 * WIDTHS[field] - 1
     if field[0] == "u":
         return 0, 2 * half - 1
-    start = behind if field[0] == "r" else 0
+    start = start_of(field, behind)
     return start - half, start + half - 1
+
+
+def start_of(field, behind):
+    """What is taken off an operand when it is written: the address behind for an r field, nothing for others."""
+    return behind if field[0] == "r" else 0
+
+
+def unfit_index(fields, operands, behind, moving):
+    """The index of the first operand that does not fit its field, None without one."""
+    for index, field in enumerate(fields):
+        least, most = bounds_at(field, behind)
+        is_moved = isinstance(field, tuple) and index in moving
+        if is_moved or not least <= operands[index] <= most:
+            return index
+    return None
+
+
+def number_cells(number, many):
+    """The cells of a number, the lowest one first; below 0 they are those of endlessly many ones in front."""
+    return tuple([number >> 8 * place & LAST_CELL for place in range(many)])
+
+
+def operand_cells(field, operand, behind):
+    """The cells of an operand that fits a field."""
+    return number_cells(operand - start_of(field, behind), width_of(field))
+
+
+def read_operand(field, cells, behind):
+    """The operand that is written in the cells of a field."""
+    if isinstance(field, tuple):
+        return field[1]
+    number = sum([cell << 8 * place for place, cell in enumerate(cells)])
+    is_below = field[0] != "u" and cells[-1] > LAST_CELL // 2
+    return number + start_of(field, behind) - (1 << 8 * len(cells) if is_below else 0)

@@ -28,6 +28,11 @@ def is_reserved(value):
     return isinstance(value, str) and value in RESERVED
 
 
+def is_free_name(value):
+    """Whether a value is a name that is not reserved."""
+    return is_name(value) and not is_reserved(value)
+
+
 def is_used(value):
     """Whether a value is a path or a local name of a plain line."""
     if not isinstance(value, str):

@@ -2,10 +2,9 @@
 
 from macroasm.blocks import check_lengths, found_blocks, program_lines
 from macroasm.brackets import split_operands
-from macroasm.directives import is_free_name
 from macroasm.errors import BadLine, BadName, BadOperands, StateTrouble, Taken, TextError, Trouble
 from macroasm.filling import body_line, check_body_line, filled_line
-from macroasm.lines import is_name, operands_of, unbraced, uncommented
+from macroasm.lines import is_free_name, is_name, operands_of, unbraced, uncommented
 from macroasm.origins import Origin, is_text_name
 from macroasm.scanning import head_parts
 

@@ -2,8 +2,14 @@
 
 import unittest
 
+from macroasm.decoding import sweep
 from macroasm.expressions import tree_of, value_of
+from macroasm.fragments import Choice, Gap, Section
+from macroasm.layout import Layout
+from macroasm.linear import Linear
 from macroasm.lines import tokens
+from macroasm.names import Names
+from macroasm.tables import Table
 
 
 class Examples(unittest.TestCase):
@@ -20,3 +26,24 @@ class Examples(unittest.TestCase):
 
     def test_depth(self):
         self.assertEqual(tree_of("-(~a + b)").text, "-(~a + b)")
+
+    def test_names(self):
+        names = Names()
+        full = [names.add_label("f"), names.add_label(".x"), names.add_equation("e", tree_of("2 * .x - 4 / 2 + f"))]
+        told = (full, names.place, names.resolved()["e"].constant, names.resolved()["e"].pairs)
+        self.assertEqual(told, (["f", "f.x", "e"], ("", "f"), -2, (("f", 1), ("f.x", 2))))
+
+    def test_tables(self):
+        load = ("load", (((1,), (("n", 0),)), ((2,), ("u1",)), ((3, 0), ("s2",))))
+        table = Table(load, ("jump", (((4,), ("r1",)), ((5,), ("r4",)))))
+        told = (table("load", (-2,)), list(sweep(table, (2, 7, 4, 254, 1), base=10)))
+        self.assertEqual(told, (
+            (3, 0, 254, 255), [(0, "load", 1, (7,)), (2, "jump", 0, (12,)), (4, "load", 0, (0,))],
+        ))
+
+    def test_layouts(self):
+        table = Table(("jump", (((1,), ("r1",)), ((2,), ("r4",)))))
+        section = Section("main", Choice("jump", (Linear.single("far"),)), Gap(128))
+        layout = Layout((section,), {"far": ("main", 2)}, table, base=16)
+        self.assertEqual((layout("far"), layout.form_of("main", 0)), (149, 1))
+        self.assertEqual((layout.cells_of("main", 0), list(layout.passes())), ((2, 128, 0, 0, 0), [(0,), (1,)]))

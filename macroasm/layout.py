@@ -1,0 +1,246 @@
+"""The layout of sections: the addresses of their fragments and the forms of their choices."""
+
+from macroasm.arithmetic import is_number
+from macroasm.errors import (
+    BadName, BadNumber, BadObject, BadOperands, NoInstruction, NoName, OutOfRange, TooLarge,
+)
+from macroasm.fields import number_cells
+from macroasm.fragments import PATCHES, Choice, Data, Section
+from macroasm.linear import is_unknown
+from macroasm.placing import Ground, Standing
+
+LAST_BASE = 2 ** 32
+
+
+class Layout:
+    """Sections with the addresses of their fragments and the forms of their choices."""
+
+    MOST_CHOICES = 300
+    MOST_CELLS = 65536
+
+    def __init__(self, sections, labels, table, *, base=0):
+        _check_sections(sections)
+        self._numbers = {section.name: number for number, section in enumerate(sections)}
+        self._places = _places_of(labels, sections, self._numbers)
+        if not is_number(base) or not 0 <= base <= LAST_BASE:
+            raise BadNumber(base)
+        _check_fragments(sections, labels, table)
+        self._sections = sections
+        self._base = base
+        self._ground = Ground(sections, self._places, table, base)
+        if len(self._ground.choosers) > self.MOST_CHOICES:
+            raise TooLarge(self.MOST_CHOICES)
+        self._choice_numbers = {
+            chooser.place_of_choice: number for number, chooser in enumerate(self._ground.choosers)
+        }
+        self._all_forms = self._forms_by_passes()
+        self._standing = Standing(self._ground, self._all_forms[-1])
+        self._check_choices()
+        self._check_patches()
+
+    @property
+    def sections(self):
+        """The tuple of the sections."""
+        return self._sections
+
+    @property
+    def base(self):
+        """The address from which the sections stand."""
+        return self._base
+
+    def __call__(self, label):
+        if label not in self:
+            raise NoName(label)
+        return self._address_at(self._places[label])
+
+    def __contains__(self, label):
+        return isinstance(label, str) and label in self._places
+
+    def spot(self, name, index):
+        """The address of a fragment, or of the end of a section for the number of its fragments."""
+        number = self._section_number(name)
+        _check_index(index, len(self._sections[number]) + 1)
+        return self._address_at((number, index))
+
+    def form_of(self, name, index):
+        """The number of the form that a choice has."""
+        place = (self._section_number(name), index)
+        _check_index(index, len(self._sections[place[0]]))
+        if place not in self._choice_numbers:
+            raise BadNumber(index)
+        return self._all_forms[-1][self._choice_numbers[place]]
+
+    def cells_of(self, name, index):
+        """The tuple of the cells of a fragment."""
+        number = self._section_number(name)
+        _check_index(index, len(self._sections[number]))
+        return self._cells_at((number, index))
+
+    def passes(self):
+        """Yield the tuple of all forms at the beginning of each pass."""
+        yield from self._all_forms
+
+    def parts(self):
+        """Yield the name, the address and the cells of each section."""
+        for number, section in enumerate(self._sections):
+            cells = []
+            for index in range(len(section)):
+                cells.extend(self._cells_at((number, index)))
+            yield section.name, self._address_at((number, 0)), tuple(cells)
+
+    def fits(self, forms):
+        """Whether a value is a tuple with a form for each choice, in which all choices fit."""
+        choosers = self._ground.choosers
+        if not isinstance(forms, tuple) or len(forms) != len(choosers):
+            return False
+        for number, form in enumerate(forms):
+            if not is_number(form) or not choosers[number].has_form(form):
+                return False
+        return Standing(self._ground, forms).first_unfit() is None
+
+    def grown(self, order):
+        """All forms if the choices grow one at a time, each time the first one in an order that has to."""
+        many = len(self._ground.choosers)
+        if not isinstance(order, tuple) or not _is_order(order, many):
+            raise BadNumber(order)
+        forms = [0] * many
+        standing = Standing(self._ground, forms)
+        number = standing.first_growing(order)
+        while number is not None:
+            forms[number] = standing.next_form(number)
+            standing = Standing(self._ground, forms)
+            number = standing.first_growing(order)
+        return tuple(forms)
+
+    def _forms_by_passes(self):
+        found = []
+        forms = tuple([0] * len(self._ground.choosers))
+        while not found or forms != found[-1]:
+            found.append(forms)
+            standing = Standing(self._ground, forms)
+            if standing.total() > self.MOST_CELLS:
+                raise TooLarge(self.MOST_CELLS)
+            forms = standing.next_forms()
+        return found
+
+    def _check_choices(self):
+        number = self._standing.first_unfit()
+        if number is not None:
+            section, index = self._ground.choosers[number].place_of_choice
+            raise OutOfRange(self._sections[section].name, index)
+
+    def _check_patches(self):
+        for number, section in enumerate(self._sections):
+            for index, fragment in enumerate(section.fragments):
+                if isinstance(fragment, Data) and not all(self._fitting_patches(fragment)):
+                    raise OutOfRange(section.name, index)
+
+    def _fitting_patches(self, data):
+        """For each patch whether its value fits."""
+        patches = [item for item in data.contents if isinstance(item, tuple)]
+        return [is_in_field(self._value(form), PATCHES[field]) for field, form in patches]
+
+    def _value(self, form):
+        return form.unbounded({label: self(label) for label in form.unknowns})
+
+    def _section_number(self, name):
+        if not isinstance(name, str) or name not in self._numbers:
+            raise BadName(name)
+        return self._numbers[name]
+
+    def _address_at(self, place):
+        number, index = place
+        return self._standing.addresses_now[number][index]
+
+    def _cells_at(self, place):
+        number, index = place
+        fragment = self._sections[number][index]
+        if isinstance(fragment, Choice):
+            return self._standing.choice_cells(self._choice_numbers[place])
+        if isinstance(fragment, Data):
+            return self._data_cells(fragment)
+        return (fragment.fill,) * (self._address_at((number, index + 1)) - self._address_at(place))
+
+    def _data_cells(self, data):
+        cells = []
+        for item in data.contents:
+            if isinstance(item, tuple):
+                cells.extend(number_cells(self._value(item[1]), PATCHES[item[0]]))
+            else:
+                cells.append(item)
+        return tuple(cells)
+
+
+def is_in_field(value, many):
+    """Whether a value can be written in a number of cells, with a sign or without one."""
+    most = 1 << 8 * many
+    return -most // 2 <= value < most
+
+
+def _check_sections(sections):
+    if not isinstance(sections, tuple):
+        raise BadObject(None)
+    names = []
+    for index, section in enumerate(sections):
+        if not isinstance(section, Section) or section.name in names:
+            raise BadObject(index)
+        names.append(section.name)
+
+
+def _places_of(labels, sections, numbers):
+    """A dict from labels to pairs of the number of a section and the index of a fragment."""
+    if not isinstance(labels, dict):
+        raise BadName(labels)
+    places = {}
+    for label, place in labels.items():
+        if not is_unknown(label) or not _is_place(place, sections, numbers):
+            raise BadName(labels)
+        places[label] = (numbers[place[0]], place[1])
+    return places
+
+
+def _is_place(place, sections, numbers):
+    if not isinstance(place, tuple) or len(place) != 2:
+        return False
+    name, index = place
+    if not isinstance(name, str) or name not in numbers or not is_number(index):
+        return False
+    return 0 <= index <= len(sections[numbers[name]])
+
+
+def _check_fragments(sections, labels, table):
+    for section in sections:
+        for fragment in section.fragments:
+            if isinstance(fragment, Choice):
+                _check_choice(fragment, table)
+                _check_labels(fragment.operands, labels)
+            elif isinstance(fragment, Data):
+                _check_labels([item[1] for item in fragment.contents if isinstance(item, tuple)], labels)
+
+
+def _check_choice(choice, table):
+    if choice.name not in table:
+        raise NoInstruction(choice.name)
+    many = len(choice.operands)
+    if many != len(table[choice.name][0][1]):
+        raise BadOperands(many)
+
+
+def _check_labels(forms, labels):
+    for form in forms:
+        for unknown in form.unknowns:
+            if unknown not in labels:
+                raise NoName(unknown)
+
+
+def _check_index(index, many):
+    if not is_number(index) or not 0 <= index < many:
+        raise BadNumber(index)
+
+
+def _is_order(order, many):
+    """Whether a tuple has the numbers of all choices, and nothing else."""
+    for number in order:
+        if not is_number(number) or not 0 <= number < many:
+            return False
+    return len(set(order)) == many
