@@ -27,27 +27,25 @@ def check_lengths(lines):
             raise TooLarge(MOST_IN_LINE)
 
 
-def directive_of(line):
-    """The word of a line that is a directive, `""` for any other line."""
-    word = head_parts(line)[1]
-    return word if word in DIRECTIVES else ""
-
-
-def found_blocks(lines, first=1, *, in_macro=False):
-    """The Block of each block, by first lines; first: the number of the first of the lines."""
+def plan_of(lines, first=1, *, in_macro=False):
+    """The Plan of lines; BadBlock where blocks do not fit, first being the number of the first of the lines."""
     finder = BlockFinder(in_macro)
+    words = []
     for at, line in enumerate(lines):
-        word = directive_of(line)
-        if word != "" and not (_is_well_written(line) and finder.takes(word, at)):
+        label, word, behind = head_parts(line)
+        if word not in DIRECTIVES:
+            words.append("")
+            continue
+        words.append(word)
+        if label != "" or not _is_well_written(line, word, behind) or not finder.takes(word, at):
             raise BadBlock(first + at)
     if finder.waiting:
         raise BadBlock(first + finder.waiting[-1].begin)
-    return finder.found
+    return Plan(tuple(words), finder.found)
 
 
-def _is_well_written(line):
-    label, word, behind = head_parts(line)
-    if label != "" or line[behind:behind + 1] == "$":
+def _is_well_written(line, word, behind):
+    if line[behind:behind + 1] == "$":
         return False
     operands = line[behind:].strip(" ")
     return word not in BARE or operands == "" or operands.startswith(";")
@@ -105,13 +103,14 @@ class BlockFinder:
 
 
 class Plan:
-    """The directives of lines, by their indexes, and where they lead.
+    """The directives of lines, by their indexes, the blocks, and where the directives lead.
 
     A repeat leads to its end, an if or an else behind the lines that are left out, a macro behind its end.
     """
 
-    def __init__(self, lines, blocks):
-        self.words = tuple([directive_of(line) for line in lines])
+    def __init__(self, words, blocks):
+        self.words = words
+        self.blocks = blocks
         self.targets = {}
         for block in blocks:
             self._lead(block)

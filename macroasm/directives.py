@@ -1,14 +1,13 @@
 """The operands of directives."""
 
 from macroasm.errors import BadOperands
-from macroasm.expressions import tree_of, value_of
 from macroasm.lines import is_free_name, unbraced
 
 
-def condition(operands, variables):
+def condition(operands, reader, variables):
     """Whether the condition of an if holds."""
     _check_count(operands, 1, 1)
-    return expression_value(operands[0], variables) != 0
+    return reader.value_of_text(operands[0], variables) != 0
 
 
 def sameness(operands):
@@ -17,28 +16,23 @@ def sameness(operands):
     return unbraced(operands[0]) == unbraced(operands[1])
 
 
-def setting(operands, variables):
+def setting(operands, reader, variables):
     """The name and the value of a set."""
     _check_count(operands, 1, 1)
     name, sign, expression = operands[0].partition("=")
     # The sign `==` reaches further than `=`, so with it this is not the form of a set.
     if sign == "" or expression.startswith("=") or not is_free_name(name.strip(" ")):
         raise BadOperands(0)
-    return name.strip(" "), expression_value(expression.strip(" "), variables)
+    return name.strip(" "), reader.value_of_text(expression.strip(" "), variables)
 
 
-def repeating(operands, variables):
+def repeating(operands, reader, variables):
     """The number of the rounds of a repeat, and the name that counts them, None without one."""
     _check_count(operands, 1, 2)
     counter = operands[1] if len(operands) == 2 else None
     if counter is not None and not is_free_name(counter):
         raise BadOperands(1)
-    return expression_value(operands[0], variables), counter
-
-
-def expression_value(text, variables):
-    """The value of an expression that knows variables alone."""
-    return value_of(tree_of(text), variables)
+    return reader.value_of_text(operands[0], variables), counter
 
 
 def _check_count(operands, least, most):

@@ -1,16 +1,16 @@
 """The expansion of a text to plain lines."""
 
-from macroasm.blocks import DIRECTIVES, Plan, check_lengths, found_blocks, program_lines
+from macroasm.blocks import DIRECTIVES, check_lengths, plan_of, program_lines
 from macroasm.directives import condition, repeating, sameness, setting
 from macroasm.errors import (
     BadCall, LimitTrouble, LookupTrouble, Ring, StateTrouble, TextError, TooLarge, Trouble, ValueTrouble,
 )
-from macroasm.filling import check_own_names, numbered, substituted
-from macroasm.frames import Call, Frame, Rounds
-from macroasm.lines import operands_of, uncommented
+from macroasm.filling import check_own_names, numbered
+from macroasm.frames import Call, Frame, OpenCalls, Rounds
 from macroasm.macros import Macro, check_source, defined_macros
 from macroasm.origins import Origin
-from macroasm.scanning import BARRED_BEHIND, MOST_IN_LINE, head_parts, row_end
+from macroasm.readers import Reader
+from macroasm.scanning import BARRED_BEHIND, MOST_IN_LINE, row_end
 
 MOST_OPEN = 100
 MOST_STEPS = 10000
@@ -24,13 +24,16 @@ class Expander:
     def __init__(self, text, *, source="text", library=None):
         check_source(source)
         lines = program_lines(text)
-        blocks = found_blocks(lines)
+        plan = plan_of(lines)
         known = _checked_library(library)
         self._macros = dict(known)
-        self._macros.update(defined_macros(lines, blocks, source, known))
-        self._plans = {name: _plan_of(macro) for name, macro in self._macros.items()}
-        self._frames = [Frame(lines, Plan(lines, blocks), (source, 1), ())]
-        self._pairs = ((source, 1),)
+        self._macros.update(defined_macros(lines, plan, source, known))
+        self._reader = Reader()
+        self._frames = [Frame(lines, plan, (source, 1), None)]
+        self._calls = OpenCalls()
+        # Where the line stands that was reached last, as Frame.here_at tells it.
+        self._here = self._frames[0].here_at(0)
+        # The name of a macro and the line that calls it, None if no call is to begin.
         self._waiting = None
         self._variables = {}
         self._calls_begun = 0
@@ -60,7 +63,7 @@ class Expander:
 
     def open_calls(self):
         """A tuple of the macros of the open calls, outermost first."""
-        return tuple([call.called for call in self._calls()])
+        return self._calls.macro_names()
 
     def copy(self):
         """An Expander that goes on from here by itself."""
@@ -74,7 +77,7 @@ class Expander:
             try:
                 return self._next_line()
             except (TextError, ValueTrouble, LookupTrouble, StateTrouble, LimitTrouble) as cause:
-                self._trouble = (Origin.of(self._pairs), cause)
+                self._trouble = (self._origin(), cause)
         raise Trouble(self._trouble[0], self._trouble[1])
 
     def rest(self):
@@ -86,9 +89,10 @@ class Expander:
 
     def _give_state(self, twin):
         twin._macros = self._macros
-        twin._plans = self._plans
+        twin._reader = self._reader
         twin._frames = [frame.twin() for frame in self._frames]
-        twin._pairs = self._pairs
+        twin._calls = self._calls.twin()
+        twin._here = self._here
         twin._waiting = self._waiting
         twin._variables = dict(self._variables)
         twin._calls_begun = self._calls_begun
@@ -115,8 +119,10 @@ class Expander:
     def _leave(self, frame):
         if frame.rounds is not None and frame.rounds.done < frame.rounds.many:
             self._begin_round(frame)
-        else:
-            self._frames.pop()
+            return
+        if frame.is_call:
+            self._calls.take_off()
+        self._frames.pop()
 
     def _reach(self, frame):
         """Go on with the next line of a frame; the plain line that it gives, or None."""
@@ -126,75 +132,69 @@ class Expander:
         if word in ("macro", "else", "endif"):
             frame.at = frame.plan.targets.get(at, at + 1)
             return None
-        self._pairs = frame.pairs_at(at)
+        self._here = frame.here_at(at)
         self._count_step()
         line = self._written_line(frame, at)
         if word == "":
             return self._take(line)
-        self._direct(word, at, operands_of(line))
+        self._direct(word, at, self._reader.operands_of_line(line))
         return None
 
     def _written_line(self, frame, at):
         """A reached line behind all that is written into it."""
-        line = uncommented(frame.lines[at])
+        line = self._reader.bare_line(frame.lines[at])
         # Lines of bodies were looked at when they were defined; arguments may have brought made names since.
         if frame.call_number == 0:
             check_own_names(line)
-        line = numbered(substituted(line, self._variables), frame.call_number)
+        line = numbered(self._reader.substituted(line, self._variables), frame.call_number)
         check_lengths((line,))
         return line
 
     def _take(self, line):
         """Go on with a line that is no directive; the plain line that it gives, or None."""
-        label, word, behind = head_parts(line)
+        label, word, behind = self._reader.head_of_line(line)
         if word in DIRECTIVES:
             raise BadCall(word)
-        if not self._is_call(label, word, line[behind:]):
+        if word not in self._macros or not _is_call(label, line[behind:]):
             return None if line.strip(" ") == "" else self._plain(line.strip(" "))
         self._waiting = (word, line)
         return None if label == "" else self._plain(label + ":")
-
-    def _is_call(self, label, word, behind):
-        """Whether a line calls a macro, by its label, its word and what stands behind that."""
-        if word not in self._macros:
-            return False
-        # A path or a made name reaches further than the word, which is no operation then.
-        is_longer = row_end(behind, 0, BARRED_BEHIND, 1) > 0 or behind.startswith(".") and not behind.startswith("..")
-        sign = behind.lstrip(" ")[:2]
-        is_equation = label == "" and sign.startswith("=") and sign != "=="
-        return not is_longer and not is_equation
 
     def _plain(self, text):
         if self._many_plain == MOST_PLAIN_LINES:
             raise TooLarge(MOST_PLAIN_LINES)
         self._many_plain += 1
-        return text, Origin.of(self._pairs)
+        return text, self._origin()
+
+    def _origin(self):
+        return Origin.inside(self._here[0], self._here[1])
 
     def _direct(self, word, at, operands):
         if word == "set":
-            name, value = setting(operands, self._variables)
+            name, value = setting(operands, self._reader, self._variables)
             self._set(name, value)
         elif word == "repeat":
             self._begin_repeat(at, operands)
-        else:
-            holds = sameness(operands) if word == "ifsame" else condition(operands, self._variables)
-            if not holds:
-                frame = self._frames[-1]
-                frame.at = frame.plan.targets[at]
+        elif not self._holds(word, operands):
+            frame = self._frames[-1]
+            frame.at = frame.plan.targets[at]
+
+    def _holds(self, word, operands):
+        return sameness(operands) if word == "ifsame" else condition(operands, self._reader, self._variables)
 
     def _begin_repeat(self, at, operands):
-        many, counter = repeating(operands, self._variables)
+        many, counter = repeating(operands, self._reader, self._variables)
         frame = self._frames[-1]
         stop = frame.plan.targets[at]
         frame.at = stop + 1
         if many > 0:
             self._check_open()
-            inner = frame.repeated(Rounds(many, counter, at + 1), stop, self._pairs)
+            inner = frame.repeated(Rounds(many, counter, at + 1), stop, self._here)
             self._frames.append(inner)
             self._begin_round(inner)
 
     def _begin_round(self, frame):
-        self._pairs = frame.outward
+        self._here = frame.opened
         self._count_step()
         rounds = frame.rounds
         if rounds.counter is not None:
@@ -206,37 +206,32 @@ class Expander:
         word, line = self._waiting
         self._waiting = None
         macro = self._macros[word]
-        operands = operands_of(line)
-        call = Call(word, macro.arguments(operands), dict(self._variables))
-        self._check_ring(call)
+        operands = self._reader.operands_of_line(line)
+        arguments = macro.arguments(operands)
+        call = Call(word, arguments, dict(self._variables))
+        ring = self._calls.ring_with(call)
+        if ring != ():
+            raise Ring(ring)
         self._check_open()
         self._count_step()
         self._calls_begun += 1
         self._note_call(word)
-        self._push_call(call, macro, macro.written(operands, self._calls_begun))
+        self._push_call(call, macro, macro.written(operands, arguments, self._calls_begun))
 
     def _push_call(self, call, macro, lines):
         source, line = macro.place
-        frame = Frame(lines, self._plans[macro.macro_name], (source, line + 1), self._pairs)
-        frame.call = call
+        frame = Frame(lines, macro.plan_of_body(), (source, line + 1), self._here)
+        frame.is_call = True
         frame.call_number = self._calls_begun
         for at, text in enumerate(lines):
             if len(text) > MOST_IN_LINE:
-                self._pairs = frame.pairs_at(at)
+                self._here = frame.here_at(at)
                 raise TooLarge(MOST_IN_LINE)
         self._frames.append(frame)
+        self._calls.push(call)
 
     def _note_call(self, word):
         """Called for each call that begins, for what a class below counts."""
-
-    def _calls(self):
-        return [frame.call for frame in self._frames if frame.call is not None]
-
-    def _check_ring(self, call):
-        calls = self._calls()
-        for index, other in enumerate(calls):
-            if call.is_like(other):
-                raise Ring(tuple([one.called for one in calls[index:]]))
 
     def _check_open(self):
         if len(self._frames) > MOST_OPEN:
@@ -281,8 +276,13 @@ def expanded(text, *, source="text", library=None):
     return tuple(expander.rest())
 
 
-def _plan_of(macro):
-    return Plan(macro.body, found_blocks(macro.body, in_macro=True))
+def _is_call(label, behind):
+    """Whether a line calls the macro of its word, by its label and by what stands behind that word."""
+    # A path or a made name reaches further than the word, which is no operation then.
+    is_longer = row_end(behind, 0, BARRED_BEHIND, 1) > 0 or behind.startswith(".") and not behind.startswith("..")
+    sign = behind.lstrip(" ")[:2]
+    is_equation = label == "" and sign.startswith("=") and sign != "=="
+    return not is_longer and not is_equation
 
 
 def _checked_library(library):

@@ -1,8 +1,7 @@
 """What is written into lines: arguments, values of expressions, numbers of calls."""
 
 from macroasm.errors import BadLine
-from macroasm.expressions import tree_of, value_of
-from macroasm.scanning import LETTERS, NAME_SIGNS, bare_part, loose_end, row_end
+from macroasm.scanning import LETTERS, NAME_SIGNS, bare_columns, comment_column, loose_end, row_end
 
 # What may stand behind a `$` without being the name of a parameter.
 IN_ALL_LINES = ("(", "$", "|")
@@ -11,9 +10,10 @@ IN_BODIES = ("#", "@")
 
 def check_own_names(line):
     """BadLine for an `@` that begins no own name; the line is looked at up to its comment."""
-    columns = bare_part(line, loose_end)[0]
-    for at in columns:
-        if line[at] != "@" or _is_behind(line, at, "$"):
+    if "@" not in line:
+        return
+    for at in bare_columns(line, "@", loose_end):
+        if _is_behind(line, at, "$"):
             continue
         if at > 0 and line[at - 1] in NAME_SIGNS or not _is_named(line, at):
             raise BadLine(at)
@@ -21,7 +21,7 @@ def check_own_names(line):
 
 def body_line(line):
     """A line of a body without its comment; the blanks at the ends stay."""
-    return line[:bare_part(line, loose_end)[1]]
+    return line[:comment_column(line, loose_end)]
 
 
 def check_body_line(line, names):
@@ -36,40 +36,62 @@ def check_body_line(line, names):
     check_own_names(line)
 
 
-def filled_line(line, texts):
-    """A line of a body with texts in the places of what stands behind `$`; all else stays."""
+def body_pieces(line, names):
+    """A line of body_line as pairs of a text and the mark behind it, the name of a parameter, `#` or `@`.
+
+    The last pair has the mark "".
+    """
     pieces = []
     begin = 0
     at = line.find("$")
     while at >= 0:
         end = _marked_end(line, at)
         mark = line[at + 1:end]
-        if mark in texts:
-            pieces.append(line[begin:at] + texts[mark])
+        if mark in IN_BODIES or mark in names:
+            pieces.append((line[begin:at], mark))
             begin = end
         at = line.find("$", end)
-    return "".join(pieces) + line[begin:]
+    pieces.append((line[begin:], ""))
+    return tuple(pieces)
 
 
-def substituted(line, variables):
-    """A reached line with values in the places of `$(EXPR)`, and without `$$` and `$|`."""
+def filled_line(pieces, texts):
+    """The line of body_pieces with texts in the places of the marks."""
+    if len(pieces) == 1:
+        return pieces[0][0]
+    return "".join([text + texts[mark] for text, mark in pieces])
+
+
+def value_pieces(line):
+    """A reached line as pairs of a text and the expression behind it, None without one.
+
+    Beside them stands the column of the first `$` that nothing knows, None without one.
+    """
     pieces = []
     begin = 0
     at = line.find("$")
     while at >= 0:
-        text, end = _substitute(line, at, variables)
-        pieces.append(line[begin:at] + text)
+        mark = line[at + 1:at + 2]
+        end = _closing_column(line, at + 2) + 1 if mark == "(" else at + 2
+        if mark not in IN_ALL_LINES or end > len(line):
+            return tuple(pieces), at
+        # Blanks behind an expression stay, so that an end that comes too early is told by the whole length.
+        expression = line[at + 2:end - 1].lstrip(" ") if mark == "(" else None
+        pieces.append((line[begin:at] + ("$" if mark == "$" else ""), expression))
         begin = end
         at = line.find("$", end)
-    return "".join(pieces) + line[begin:]
+    pieces.append((line[begin:], None))
+    return tuple(pieces), None
 
 
 def numbered(line, number):
     """A reached line with made names in the places of own ones; number: of the call, 0 outside of calls."""
+    if "@" not in line:
+        return line
     pieces = []
     begin = 0
-    for at in bare_part(line, loose_end)[0]:
-        if line[at] != "@" or not _is_named(line, at):
+    for at in bare_columns(line, "@", loose_end):
+        if not _is_named(line, at):
             continue
         if number == 0:
             raise BadLine(at)
@@ -91,23 +113,6 @@ def _marked_end(line, at):
     """The end of what a `$` stands in front of: a row of a name's signs, or one other sign."""
     end = row_end(line, at + 1, NAME_SIGNS, len(line))
     return end if end > at + 1 else at + 2
-
-
-def _substitute(line, at, variables):
-    """What becomes of the `$` at a column, and the column behind."""
-    mark = line[at + 1:at + 2]
-    if mark == "$":
-        return "$", at + 2
-    if mark == "|":
-        return "", at + 2
-    if mark != "(":
-        raise BadLine(at)
-    end = _closing_column(line, at + 2)
-    if end == len(line):
-        raise BadLine(at)
-    # Blanks behind stay, so that an end that comes too early is told by the whole length.
-    tree = tree_of(line[at + 2:end].lstrip(" "))
-    return str(value_of(tree, variables)), end + 1
 
 
 def _closing_column(line, start):

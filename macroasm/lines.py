@@ -3,8 +3,8 @@
 from macroasm.brackets import bracket_ends, split_operands
 from macroasm.errors import BadLine
 from macroasm.scanning import (
-    DIGITS, MOST_IN_MADE, MOST_IN_PATH, bare_part, blanks_end, check_line, head_parts, name_end, quoted_end, row_end,
-    token_at,
+    DIGITS, MOST_IN_MADE, MOST_IN_NAME, MOST_IN_PATH, blanks_end, check_line, comment_column, head_parts, quoted_end,
+    row_end, token_at,
 )
 
 RESERVED = (
@@ -20,7 +20,7 @@ FIRST_PRINTED = 32
 
 def is_name(value):
     """Whether a value is a name."""
-    return isinstance(value, str) and value != "" and name_end(value, 0) == len(value)
+    return isinstance(value, str) and value.isascii() and value.isidentifier() and len(value) <= MOST_IN_NAME
 
 
 def is_reserved(value):
@@ -84,8 +84,7 @@ def _escaped(text, quote):
 def uncommented(line):
     """A line without its comment and the blanks at its ends."""
     check_line(line)
-    stop = bare_part(line, quoted_end)[1]
-    return line[:stop].strip(" ")
+    return line[:comment_column(line, quoted_end)].strip(" ")
 
 
 def head_of(line):
@@ -160,7 +159,7 @@ def _begins_equation(found):
 def _sides_of(text, found):
     start = found[1][2] + 1
     bracket_ends(text, start)
-    stop = bare_part(text, quoted_end)[1]
+    stop = comment_column(text, quoted_end)
     return found[0][1], text[start:stop].strip(" ")
 
 

@@ -1,9 +1,9 @@
 """Blocks and macros of a text."""
 
-from macroasm.blocks import check_lengths, found_blocks, program_lines
+from macroasm.blocks import check_lengths, plan_of, program_lines
 from macroasm.brackets import split_operands
 from macroasm.errors import BadLine, BadName, BadOperands, StateTrouble, Taken, TextError, Trouble
-from macroasm.filling import body_line, check_body_line, filled_line
+from macroasm.filling import body_line, body_pieces, check_body_line, filled_line
 from macroasm.lines import is_free_name, is_name, operands_of, unbraced, uncommented
 from macroasm.origins import Origin, is_text_name
 from macroasm.scanning import head_parts
@@ -15,15 +15,15 @@ NO_PARAMETER = ("", None)
 
 def blocks_of(text):
     """Tuples (word, first line, last line) for the blocks of a text, by first lines."""
-    blocks = found_blocks(program_lines(text))
-    return [(block.word, block.begin + 1, block.end + 1) for block in blocks]
+    plan = plan_of(program_lines(text))
+    return [(block.word, block.begin + 1, block.end + 1) for block in plan.blocks]
 
 
 def macros_of(text, *, source="text"):
     """A dict of the Macros of a text by their names, in order."""
     check_source(source)
     lines = program_lines(text)
-    return defined_macros(lines, found_blocks(lines), source, {})
+    return defined_macros(lines, plan_of(lines), source, {})
 
 
 def check_source(source):
@@ -32,10 +32,10 @@ def check_source(source):
         raise BadName(source)
 
 
-def defined_macros(lines, blocks, source, library):
-    """The Macros that blocks of lines define, by their names; library: those that are known beside them."""
+def defined_macros(lines, plan, source, library):
+    """The Macros that lines define, by their names; library: those that are known beside them."""
     macros = {}
-    for block in blocks:
+    for block in plan.blocks:
         if block.word == "macro":
             macro = _defined(lines, block, source, list(library) + list(macros))
             macros[macro.macro_name] = macro
@@ -137,12 +137,12 @@ class Macro:
         for text in bare:
             check_body_line(text, names)
         check_lengths(body)
-        found_blocks(body, line + 1, in_macro=True)
+        self._plan = plan_of(body, line + 1, in_macro=True)
         self._macro_name = macro_name
         self._parameters = parameters
         self._body = body
-        # The lines without their comments, in which nothing is filled in.
-        self._bare = bare
+        # Nothing is filled in in comments, so the lines are kept without them.
+        self._pieces = tuple([body_pieces(text, names) for text in bare])
         self._place = (source, line)
         self._parts = (macro_name, parameters, body)
 
@@ -180,17 +180,21 @@ class Macro:
 
     def filled(self, operands, number):
         """The lines of the body, filled for the operands and the number of a call."""
-        lines = self.written(operands, number)
+        lines = self.written(operands, self.arguments(operands), number)
         check_lengths(lines)
         return lines
 
-    def written(self, operands, number):
-        """As filled, but however long the lines have become."""
-        arguments = self.arguments(operands)
+    def written(self, operands, arguments, number):
+        """As filled, with the arguments for the operands, and however long the lines have become."""
         texts = {name: arguments[index] for index, (name, _) in enumerate(self._parameters)}
         texts["#"] = str(len(self._further(operands)))
         texts["@"] = str(number)
-        return tuple([filled_line(line, texts) for line in self._bare])
+        texts[""] = ""
+        return tuple([filled_line(pieces, texts) for pieces in self._pieces])
+
+    def plan_of_body(self):
+        """The Plan of the lines of the body."""
+        return self._plan
 
     def _has_rest(self):
         return len(self._parameters) > 0 and self._parameters[-1][1] == REST

@@ -60,6 +60,13 @@ class Origin:
             pairs.append((name, int(digits)))
         return cls(*pairs)
 
+    @classmethod
+    def inside(cls, pair, outward):
+        """The origin of a pair inside of others, which are known to be right."""
+        origin = cls(pair)
+        origin._pairs = (pair, *outward)
+        return origin
+
     def within(self, name, line):
         """This origin with one more pair outward."""
         return Origin(*self._pairs, (name, line))

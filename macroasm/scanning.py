@@ -33,20 +33,24 @@ def check_line(line):
 
 def row_end(line, at, signs, most):
     """The end of the longest row of these signs that begins at a column."""
+    stop = min(len(line), at + most)
     end = at
-    while end < len(line) and end - at < most and line[end] in signs:
+    while end < stop and line[end] in signs:
         end += 1
     return end
 
 
 def blanks_end(line, at):
     """The first column from this one on that is no blank."""
+    if line[at:at + 1] != " ":
+        return at
     return row_end(line, at, " ", len(line))
 
 
 def name_end(line, at):
     """The end of the longest name that begins at a column, or this column."""
-    if row_end(line, at, LETTERS, 1) == at:
+    # The empty text behind the end of a line is among the digits, too.
+    if line[at:at + 1] in DIGITS:
         return at
     return row_end(line, at, NAME_SIGNS, MOST_IN_NAME)
 
@@ -96,17 +100,34 @@ def loose_end(line, at):
         return at + 1
 
 
-def bare_part(line, end_of_quoted):
-    """The columns outside of strings and characters, and the column of the comment or the length."""
+def has_quotes(text):
+    """Whether a string or a character may stand in a text."""
+    return "\"" in text or "'" in text
+
+
+def comment_column(line, end_of_quoted):
+    """The column of the comment, or the length of the line."""
+    if not has_quotes(line):
+        at = line.find(";")
+        return len(line) if at < 0 else at
+    at = 0
+    while at < len(line) and line[at] != ";":
+        at = end_of_quoted(line, at) if line[at] in "\"'" else at + 1
+    return at
+
+
+def bare_columns(line, signs, end_of_quoted):
+    """The columns of signs outside of strings and characters and in front of the comment."""
     columns = []
     at = 0
     while at < len(line) and line[at] != ";":
         if line[at] in "\"'":
             at = end_of_quoted(line, at)
-        else:
+            continue
+        if line[at] in signs:
             columns.append(at)
-            at += 1
-    return columns, at
+        at += 1
+    return columns
 
 
 def unescaped(text):
@@ -123,22 +144,23 @@ def unescaped(text):
 def head_parts(line):
     """The label of a line, its word, and the column behind both."""
     at = blanks_end(line, 0)
-    end = _label_end(line, at)
-    label = line[at:end]
-    if label != "":
-        at = blanks_end(line, end + 1)
-    behind = name_end(line, at)
-    return label, line[at:behind], behind
+    end = name_end(line, at)
+    stop = _label_end(line, at, end)
+    if stop == at:
+        return "", line[at:end], end
+    start = blanks_end(line, stop + 1)
+    behind = name_end(line, start)
+    return line[at:stop], line[start:behind], behind
 
 
-def _label_end(line, at):
-    is_prefixed = line[at:at + 1] in (".", "@")
-    start = at + 1 if is_prefixed else at
-    end = name_end(line, start)
-    if end == start:
-        return at
-    if not is_prefixed:
+def _label_end(line, at, end):
+    """The end of the label that begins at a column, or this column; end: that of the name there."""
+    if end > at:
         end = made_end(line, end)
+    elif line[at:at + 1] in (".", "@"):
+        end = name_end(line, at + 1)
+        if end == at + 1:
+            return at
     return end if line[end:end + 1] == ":" else at
 
 

@@ -17,7 +17,7 @@ ZeroDivisionError ArithmeticError OverflowError RuntimeError NotImplementedError
 METHODS = """
 append clear count endswith extend find get index insert isalnum isalpha isdigit islower isspace isupper items join
 keys ljust lower lstrip partition pop remove replace reverse rfind rjust rpartition rsplit rstrip setdefault split
-splitlines startswith strip update upper values zfill bit_length isascii
+splitlines startswith strip update upper values zfill bit_length isascii isidentifier
 """.split()
 BARRED = """
 type typing typing_extensions enum Enum IntEnum StrEnum Flag IntFlag Generic Protocol ABC ABCMeta namedtuple
