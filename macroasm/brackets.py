@@ -11,15 +11,13 @@ def has_brackets(text):
     return "(" in text or ")" in text or "{" in text or "}" in text
 
 
-def bracket_ends(line, start=0):
+def bracket_ends(line):
     """A dict from the column of each opening bracket to that of the one that closes it."""
     ends = {}
     if not has_brackets(line) and not has_quotes(line):
         return ends
     waiting = []
     for at in bare_columns(line, "(){}", quoted_end):
-        if at < start:
-            continue
         if line[at] in "({":
             waiting.append(at)
         elif not waiting or CLOSED_BY[line[waiting[-1]]] != line[at]:
@@ -31,9 +29,9 @@ def bracket_ends(line, start=0):
     return ends
 
 
-def split_operands(line, start=0):
-    """The operands that stand from a column on, up to the comment."""
-    ends = bracket_ends(line, start)
+def split_operands(line, start):
+    """The operands that stand from a column on, up to the comment; no bracket stands in front of it."""
+    ends = bracket_ends(line)
     stop = comment_column(line, quoted_end)
     if line[start:stop].strip(" ") == "":
         return ()

@@ -22,7 +22,7 @@ def is_cell(value):
 def is_field(value):
     """Whether a value is a field."""
     if isinstance(value, tuple):
-        return len(value) == 2 and isinstance(value[0], str) and value[0] == "n" and is_value(value[1])
+        return len(value) == 2 and value[0] == "n" and is_value(value[1])
     return isinstance(value, str) and value in WIDTHS
 
 

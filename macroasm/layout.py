@@ -1,9 +1,7 @@
 """The layout of sections: the addresses of their fragments and the forms of their choices."""
 
 from macroasm.arithmetic import is_number
-from macroasm.errors import (
-    BadName, BadNumber, BadObject, BadOperands, NoInstruction, NoName, OutOfRange, TooLarge,
-)
+from macroasm.errors import BadName, BadNumber, BadObject, BadOperands, NoName, OutOfRange, TooLarge
 from macroasm.fields import number_cells
 from macroasm.fragments import PATCHES, Choice, Data, Section
 from macroasm.linear import is_unknown
@@ -59,22 +57,20 @@ class Layout:
     def spot(self, name, index):
         """The address of a fragment, or of the end of a section for the number of its fragments."""
         number = self._section_number(name)
-        _check_index(index, len(self._sections[number]) + 1)
+        if not is_number(index) or not 0 <= index <= len(self._sections[number]):
+            raise BadNumber(index)
         return self._address_at((number, index))
 
     def form_of(self, name, index):
         """The number of the form that a choice has."""
-        place = (self._section_number(name), index)
-        _check_index(index, len(self._sections[place[0]]))
-        if place not in self._choice_numbers:
+        number = self._section_number(name)
+        if not isinstance(self._sections[number][index], Choice):
             raise BadNumber(index)
-        return self._all_forms[-1][self._choice_numbers[place]]
+        return self._all_forms[-1][self._choice_numbers[number, index]]
 
     def cells_of(self, name, index):
         """The tuple of the cells of a fragment."""
-        number = self._section_number(name)
-        _check_index(index, len(self._sections[number]))
-        return self._cells_at((number, index))
+        return self._cells_at((self._section_number(name), index))
 
     def passes(self):
         """Yield the tuple of all forms at the beginning of each pass."""
@@ -219,10 +215,10 @@ def _check_fragments(sections, labels, table):
 
 
 def _check_choice(choice, table):
-    if choice.name not in table:
-        raise NoInstruction(choice.name)
     many = len(choice.operands)
-    if many != len(table[choice.name][0][1]):
+    # A name that is not in the table is refused by it with NoInstruction.
+    fields = table[choice.name][0][1]
+    if many != len(fields):
         raise BadOperands(many)
 
 
@@ -231,11 +227,6 @@ def _check_labels(forms, labels):
         for unknown in form.unknowns:
             if unknown not in labels:
                 raise NoName(unknown)
-
-
-def _check_index(index, many):
-    if not is_number(index) or not 0 <= index < many:
-        raise BadNumber(index)
 
 
 def _is_order(order, many):

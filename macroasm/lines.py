@@ -158,7 +158,7 @@ def _begins_equation(found):
 
 def _sides_of(text, found):
     start = found[1][2] + 1
-    bracket_ends(text, start)
+    bracket_ends(text)
     stop = comment_column(text, quoted_end)
     return found[0][1], text[start:stop].strip(" ")
 

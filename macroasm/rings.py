@@ -32,6 +32,7 @@ def least_ring_in(uses):
     if len(ordered) == len(uses):
         return ()
     users = users_in(uses)
+    # A ring through a name that has none of the names ahead of it in a ring begins with this name.
     for name in sorted(uses):
         if name not in ordered:
             ring = _ring_from(name, uses, users)
@@ -41,7 +42,7 @@ def least_ring_in(uses):
 
 
 def _ring_from(first, uses, users):
-    """The least ring that has this name as its least one, () without one."""
+    """The least row of names that begins with this name and leads back to it, () without one."""
     ring = [first]
     while first not in uses[ring[-1]]:
         leading = _leading_to(first, users, ring)
@@ -53,14 +54,14 @@ def _ring_from(first, uses, users):
 
 
 def _leading_to(first, users, ring):
-    """The greater names from which uses lead to a name, beside the beginning of a ring, as a dict."""
+    """The names from which uses lead to a name, beside the beginning of a ring, as a dict."""
     barred = {name: True for name in ring}
     leading = {}
     waiting = [first]
     while waiting:
         name = waiting.pop()
         for user in users[name]:
-            if user > first and user not in barred and user not in leading:
+            if user not in barred and user not in leading:
                 leading[user] = True
                 waiting.append(user)
     return leading

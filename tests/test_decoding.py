@@ -64,6 +64,9 @@ class Sweeps(Case):
         self.assertEqual(list(sweep(TABLE, (2, 7, 4, 254, 1), base=10)), [
             (0, "load", 1, (7,)), (2, "jump", 0, (12,)), (4, "load", 0, (0,)),
         ])
+        self.assertEqual(list(sweep(TABLE, (2, 7, 4, 254, 1))), [
+            (0, "load", 1, (7,)), (2, "jump", 0, (2,)), (4, "load", 0, (0,)),
+        ])
         self.assertEqual(list(sweep(TABLE, (2, 7, 4, 254, 1), 3)), [])
         self.assertEqual(list(sweep(TABLE, (2, 7, 4, 254, 1), 5)), [])
         self.assertEqual(list(sweep(TABLE, (2, 7, 0, 6), 0)), [(0, "load", 1, (7,))])
@@ -112,6 +115,11 @@ class Sweeps(Case):
             ((6, 5, 125, 0, 0, 0), LAST, True), ((5, 124, 255, 255, 255), LAST, True), ((5, 125, 255, 255, 255), 0, False),
         ):
             self.assertEqual(is_least(TABLE, cells, base=base), wanted, cells)
+
+    def test_is_least_at_0(self):
+        near = Table(("a", (((1,), ("u1", "s1")), ((2,), ("u2", "r1")))))
+        self.assertTrue(is_least(near, (2, 0, 0, 124)))
+        self.assertFalse(is_least(near, (2, 0, 0, 123)))
 
     def test_long_rows(self):
         for cells, many in (((6,) * 65536, 65536), ((2,) * 65536, 32768), ((5,) * 65535, 13107)):

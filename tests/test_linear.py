@@ -41,7 +41,7 @@ class Making(Case):
         for unknown in ("a", "Z", "9", "_", ".", "@", "!", "a" * 500, "1!a.b@2", "..", "mod"):
             self.assertEqual(Linear.single(unknown).unknowns, (unknown,))
             self.assertEqual(Linear(0, (unknown, 1)).unknowns, (unknown,))
-        for wrong in ("", "a" * 501, "a b", "a-b", "a\n", "$", "a:", None, 5, True, ("a",), ["a"], {}):
+        for wrong in ("", "a" * 501, "a b", "a-b", "a\n", "$", "a:", "\u00e9", "a\u0661", None, 5, True, ("a",), ["a"], {}):
             self.refused(BadName, (wrong,), Linear.single, wrong)
             self.refused(BadObject, ((wrong, 1),), Linear, 0, (wrong, 1))
 

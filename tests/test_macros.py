@@ -244,6 +244,7 @@ class Filling(Case):
         self.fills(" ", " ;")
         self.fills("\";x\" ';' ", "\";$a\" ';' ;\"")
         self.fills("x'y ", "$a'y ; $a'")
+        self.fills("'", "'; $a")
         self.fills("\"y ", "\"y ; $a")
         self.fills("\";\" 1", "$a $ab", ("\";\"", "1"))
         macro = Macro("m", (("a", None),), ("$a", "b ;" + "$a" * 100, ""))

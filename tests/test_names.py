@@ -17,7 +17,7 @@ class Names(unittest.TestCase):
             self.assertIs(is_name(name), True, name)
 
     def test_no_names(self):
-        for name in ("", "9", "9a", "a b", " a", "a ", "a.b", ".a", "@a", "a@1", "a-b", "a\n", "a" * 41, "a:"):
+        for name in ("", "9", "9a", "a b", " a", "a ", "a.b", ".a", "@a", "a@1", "a-b", "a\n", "a" * 41, "a:", "\u00e9", "a\u0661"):
             self.assertIs(is_name(name), False, name)
 
     def test_no_strings(self):

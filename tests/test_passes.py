@@ -207,7 +207,7 @@ class Growing(Case):
 
     def test_wrong_orders(self):
         layout = laid(jump("a"), jump("a"), labels={"a": 0})
-        for wrong in (None, 5, [0, 1], (), (0,), (1, 1), (0, 1, 2), (0, 1, -1), (0, True), (False, True), (0, None), ("0", 1), "01"):
+        for wrong in (None, 5, [0, 1], (), (0,), (1, 1), (0, 2), (-1, 0), (0, 1, 2), (0, 1, -1), (0, True), (False, True), (0, None), ("0", 1), "01"):
             self.refused(BadNumber, (wrong,), layout.grown, wrong)
         self.refused(BadNumber, ((0,),), laid(Data(1), labels={}).grown, (0,))
 

@@ -93,7 +93,7 @@ class OwnNames(Case):
 
     def test_wrong_ones(self):
         for line, column in (
-            ("a@b", 1), (" a @", 2), ("a @ b", 2), ("@5", 0), ("@@a", 0), ("9@a", 1), ("_@a", 1), ("a @b, c@d", 7),
+            ("a@b", 1), (" a @", 2), ("a @ b", 2), ("@5", 0), ("@5 $$", 0), ("@@a", 0), ("9@a", 1), ("_@a", 1), ("a @b, c@d", 7),
             ("x@1", 1), ("a $|@5", 4),
         ):
             self.in_trouble("text:1", BadLine, (column,), line)
