@@ -137,7 +137,7 @@ class Layout:
         return [is_in_field(self._value(form), PATCHES[field]) for field, form in patches]
 
     def _value(self, form):
-        return form.unbounded({label: self(label) for label in form.unknowns})
+        return form.unbounded({label: self._address_at(self._places[label]) for label in form.unknowns})
 
     def _section_number(self, name):
         if not isinstance(name, str) or name not in self._numbers:
