@@ -86,22 +86,34 @@ class Linear:
         return _times(self, -1)
 
     def __add__(self, other):
-        return _sum(self, other, 1) if _is_side(other) else NotImplemented
+        if not _is_side(other):
+            return NotImplemented
+        return _sum(self, other, 1)
 
     def __radd__(self, other):
-        return _sum(other, self, 1) if _is_side(other) else NotImplemented
+        if not _is_side(other):
+            return NotImplemented
+        return _sum(other, self, 1)
 
     def __sub__(self, other):
-        return _sum(self, other, -1) if _is_side(other) else NotImplemented
+        if not _is_side(other):
+            return NotImplemented
+        return _sum(self, other, -1)
 
     def __rsub__(self, other):
-        return _sum(other, self, -1) if _is_side(other) else NotImplemented
+        if not _is_side(other):
+            return NotImplemented
+        return _sum(other, self, -1)
 
     def __mul__(self, other):
-        return _product(self, other) if _is_side(other) else NotImplemented
+        if not _is_side(other):
+            return NotImplemented
+        return _product(self, other)
 
     def __rmul__(self, other):
-        return _product(other, self) if _is_side(other) else NotImplemented
+        if not _is_side(other):
+            return NotImplemented
+        return _product(other, self)
 
     def __call__(self, values):
         for unknown, _ in self._pairs:

@@ -27,6 +27,11 @@ BARRED_NAMES = """
 mro elements open input law version_info with_traceback add_note register attrgetter breakpoint compile delattr dir eval
 exec exit gc getattr globals hasattr help importlib locals methodcaller os setattr vars
 """.split()
+# Comparisons, and arithmetic methods with their reflected and in-place forms.
+ANSWERING = [f"__{word}__" for word in "eq ne lt le gt ge".split()] + [
+    f"__{side}{word}__" for side in ("", "r", "i")
+    for word in "add sub mul floordiv mod pow and or xor lshift rshift".split()
+]
 LISTS_ALONE = ("any", "all", "sum", "min", "max", "sorted")
 
 
@@ -212,6 +217,17 @@ class Statements(unittest.TestCase):
         for name, node in nodes(ast.Call):
             if isinstance(node.func, ast.Attribute):
                 self.assertIn(node.func.attr, METHODS + own, (name, node.lineno))
+
+    def test_not_implemented(self):
+        for name, tree in TREES.items():
+            alone = []
+            for function in ast.walk(tree):
+                if isinstance(function, ast.FunctionDef) and function.name in ANSWERING:
+                    returned = [node.value for node in ast.walk(function) if isinstance(node, ast.Return)]
+                    alone += [value for value in returned if isinstance(value, ast.Name)]
+            for node in ast.walk(tree):
+                if isinstance(node, ast.Name) and node.id == "NotImplemented":
+                    self.assertIn(node, alone, (name, node.lineno))
 
     def test_is(self):
         for name, node in nodes(ast.Compare):
