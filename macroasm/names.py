@@ -82,6 +82,8 @@ class Names:
 
     def search(self, path, place):
         """The full name that a path or a local name stands for at a place."""
+        if not is_used(path):
+            raise NoName(path)
         return found_name(path, place, self._known)
 
     def uses_of(self, path):
@@ -132,7 +134,7 @@ class Names:
     def _found_in(self, full):
         """A dict from the names in the tree of an equation to the full names that they stand for."""
         tree, place = self._known[full]
-        return {name: self.search(name, place) for name in tree.used}
+        return {name: found_name(name, place, self._known) for name in tree.used}
 
     def _all_found(self):
         """A dict from the equations, as they were added, to what is found in them."""

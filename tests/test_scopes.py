@@ -276,3 +276,20 @@ class Searching(Case):
         self.assertEqual(names.search(".x", ("q.r", "f")), "f.x")
         self.refused(NoName, (".x",), names.search, ".x", ("", None))
         self.assertEqual(names.search("f.x", ("", None)), "f.x")
+
+    def test_search_for_what_is_no_path(self):
+        names = Names()
+        for part in "abcdefgh":
+            names.open_scope(part)
+        names.add_label("x")
+        names.add_label(".y")
+        place = names.place
+        self.assertEqual((names.search("x", place), names.search(".y", place)), ("a.b.c.d.e.f.g.h.x", "a.b.c.d.e.f.g.h.x.y"))
+        for given in (
+            None, 5, True, False, ("x",), ["x"], [], {}, "", "1", "x@", "x@0", " x", "x ", ".x.y", "..y", "x..y", ".", "x.",
+            "a.b.c.d.e.f.g.h.x", "a.b.c.d.e.f.g.h.x.y",
+        ):
+            self.refused(NoName, (given,), names.search, given, place)
+            self.refused(NoName, (given,), names.search, given, ("", None))
+        for given in ("mod", "byte", "a.mod", ".mod"):
+            self.refused(NoName, (given,), names.search, given, place)
