@@ -2,7 +2,7 @@
 
 from macroasm.arithmetic import is_number
 from macroasm.errors import BadNumber, NoInstruction
-from macroasm.fields import is_address, is_cell, read_operand, width_of
+from macroasm.fields import are_cells, is_address, read_operand, width_of
 
 MOST_IN_ROW = 65536
 
@@ -70,16 +70,24 @@ def is_least(table, cells, *, base=0):
     _check_base(base)
     at = 0
     while at < len(cells):
-        found = _read_at(table, cells, at, base)
-        if found is None or table.first_fitting(found[0], found[2], base + at) != found[1]:
+        found = table.begun_at(cells, at)
+        if found is None or not _is_first(table, found, cells, at, base):
             return False
-        at = at + found[3]
+        at = at + found[2]
     return True
 
 
+def _is_first(table, found, cells, at, base):
+    """Whether what begins at an index has the first form of its instruction that fits."""
+    name, number, length, form = found
+    if number == 0:
+        return True
+    operands = _read_operands(form, cells, at, base + at + length)
+    return table.first_fitting(name, operands, base + at) == number
+
+
 def _check_row(cells, indexes):
-    is_row = isinstance(cells, tuple) and len(cells) <= MOST_IN_ROW
-    if not is_row or not all([is_cell(cell) for cell in cells]):
+    if not isinstance(cells, tuple) or len(cells) > MOST_IN_ROW or not are_cells(cells):
         raise BadNumber(cells)
     for index in indexes:
         if not is_number(index) or not 0 <= index <= len(cells):
@@ -101,12 +109,17 @@ def _read_at(table, cells, at, base):
     found = table.begun_at(cells, at)
     if found is None:
         return None
-    name, number, length = found
-    opcode, fields = table[name][number]
+    name, number, length, form = found
+    return name, number, _read_operands(form, cells, at, base + at + length), length
+
+
+def _read_operands(form, cells, at, behind):
+    """The operands of a form that begins at an index; behind: the address behind it."""
+    opcode, fields = form
     operands = []
     begin = at + len(opcode)
     for field in fields:
         end = begin + width_of(field)
-        operands.append(read_operand(field, cells[begin:end], base + at + length))
+        operands.append(read_operand(field, cells[begin:end], behind))
         begin = end
-    return name, number, tuple(operands), length
+    return tuple(operands)

@@ -117,7 +117,12 @@ class Expander:
         return None
 
     def _leave(self, frame):
-        if frame.rounds is not None and frame.rounds.done < frame.rounds.many:
+        rounds = frame.rounds
+        if rounds is not None and rounds.done < rounds.many:
+            if rounds.begin == frame.stop:
+                # Of rounds without lines only the last one leaves something behind.
+                self._count_steps(rounds.many - 1 - rounds.done)
+                rounds.done = rounds.many - 1
             self._begin_round(frame)
             return
         if frame.is_call:
@@ -133,7 +138,7 @@ class Expander:
             frame.at = frame.plan.targets.get(at, at + 1)
             return None
         self._here = frame.here_at(at)
-        self._count_step()
+        self._count_steps(1)
         line = self._written_line(frame, at)
         if word == "":
             return self._take(line)
@@ -195,7 +200,7 @@ class Expander:
 
     def _begin_round(self, frame):
         self._here = frame.opened
-        self._count_step()
+        self._count_steps(1)
         rounds = frame.rounds
         if rounds.counter is not None:
             self._set(rounds.counter, rounds.done)
@@ -213,7 +218,7 @@ class Expander:
         if ring != ():
             raise Ring(ring)
         self._check_open()
-        self._count_step()
+        self._count_steps(1)
         self._calls_begun += 1
         self._note_call(word)
         self._push_call(call, macro, macro.written(operands, arguments, self._calls_begun))
@@ -237,10 +242,10 @@ class Expander:
         if len(self._frames) > MOST_OPEN:
             raise TooLarge(MOST_OPEN)
 
-    def _count_step(self):
-        if self._steps_done == MOST_STEPS:
+    def _count_steps(self, many):
+        if self._steps_done + many > MOST_STEPS:
             raise TooLarge(MOST_STEPS)
-        self._steps_done += 1
+        self._steps_done = self._steps_done + many
 
     def _set(self, name, value):
         if name not in self._variables and len(self._variables) == MOST_VARIABLES:

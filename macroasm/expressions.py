@@ -5,8 +5,9 @@ from macroasm.errors import BadLine, BadNumber, BadTree, NoName, NotPlain, TooLa
 from macroasm.lines import tokens
 from macroasm.trees import COMPARING, LEVELS, MOST_DEPTH, MOST_TOKENS, SIGNS, Joined, Named, Number, Signed, Tree
 
-BRACKET = ("sign", "(")
-CLOSING = ("sign", ")")
+# What waits in an expression beside operators, which have their levels.
+OPENED = 0
+IN_FRONT = -1
 
 
 def tree_of(text):
@@ -23,13 +24,15 @@ def tree_of(text):
 class Reading:
     """An expression that is read from the left, token by token.
 
-    What waits for the tree behind it is kept as pairs: an opening bracket, ("in front", sign) or
-    ("between", operator). All of them but operators make what stands behind them deeper.
+    What waits for the tree behind it is kept as pairs of a level and a sign: operators with their levels, opening
+    brackets, and signs in front of what comes. All of them but operators make what stands behind them deeper.
     """
 
     def __init__(self):
         self._trees = []
-        self._waiting = []
+        # The expression itself waits for its end like an opening bracket.
+        self._waiting = [(OPENED, "")]
+        self._many_open = 0
         self._depth = 0
         self._wants_atom = True
 
@@ -37,38 +40,43 @@ class Reading:
         """Go on with a token; BadLine if it cannot stand here."""
         if self._wants_atom:
             self._take_front(sort, value, column)
-        elif sort == "sign" and value in LEVELS:
+        elif sort != "sign":
+            raise BadLine(column)
+        elif value in LEVELS:
             self._take_operator(value, column)
-        elif (sort, value) == CLOSING and BRACKET in self._waiting:
-            self._join_stronger(0)
-            self._take_off()
-            self._take_signs()
+        elif value == ")" and self._many_open > 0:
+            self._close()
         else:
             raise BadLine(column)
 
     def finished(self, length):
         """The whole tree; BadLine with the length of the text if it is not complete."""
-        if self._wants_atom or BRACKET in self._waiting:
+        if self._wants_atom or self._many_open > 0:
             raise BadLine(length)
-        self._join_stronger(0)
+        self._join_inner()
         return self._trees[0]
 
     def _take_front(self, sort, value, column):
-        if sort in ("number", "character"):
-            self._take_atom(Number(value))
-        elif sort in ("name", "local"):
+        if sort == "name" or sort == "local":
             self._take_atom(Named(value))
-        elif (sort, value) == BRACKET:
-            self._deepen(BRACKET)
+        elif sort == "number" or sort == "character":
+            self._take_atom(Number(value))
+        elif sort == "sign" and value == "(":
+            self._deepen((OPENED, value))
+            self._many_open += 1
         elif sort == "sign" and value in SIGNS:
-            self._deepen(("in front", value))
+            self._deepen((IN_FRONT, value))
         else:
             raise BadLine(column)
 
     def _take_atom(self, tree):
-        self._trees.append(tree)
+        """Go on with an atom, behind the signs that stand in front of it."""
+        taken = tree
+        while self._waiting[-1][0] == IN_FRONT:
+            self._depth -= 1
+            taken = Signed(self._waiting.pop()[1], taken)
+        self._trees.append(taken)
         self._wants_atom = False
-        self._take_signs()
 
     def _deepen(self, pair):
         if self._depth == MOST_DEPTH:
@@ -76,41 +84,31 @@ class Reading:
         self._depth += 1
         self._waiting.append(pair)
 
-    def _take_off(self):
+    def _close(self):
+        self._join_inner()
+        self._waiting.pop()
         self._depth -= 1
-        return self._waiting.pop()[1]
-
-    def _take_signs(self):
-        """Signs take the atom that has become complete behind them."""
-        while self._waiting and self._waiting[-1][0] == "in front":
-            sign = self._take_off()
-            self._trees.append(Signed(sign, self._trees.pop()))
+        self._many_open -= 1
+        self._take_atom(self._trees.pop())
 
     def _take_operator(self, sign, column):
         level = LEVELS[sign]
-        self._join_stronger(level)
-        if level == COMPARING and self._last_level() == COMPARING:
-            raise BadLine(column)
-        if self._last_level() == level:
+        while self._waiting[-1][0] >= level:
+            if self._waiting[-1][0] == level == COMPARING:
+                raise BadLine(column)
             self._join()
-        self._waiting.append(("between", sign))
+        self._waiting.append((level, sign))
         self._wants_atom = True
 
-    def _last_level(self):
-        """The level of the operator that waits last, 0 if it is none."""
-        if not self._waiting or self._waiting[-1][0] != "between":
-            return 0
-        return LEVELS[self._waiting[-1][1]]
-
-    def _join_stronger(self, level):
-        while self._last_level() > level:
+    def _join_inner(self):
+        """Join all that stands behind the innermost bracket that is open."""
+        while self._waiting[-1][0] != OPENED:
             self._join()
 
     def _join(self):
-        sign = self._waiting.pop()[1]
         right = self._trees.pop()
         left = self._trees.pop()
-        self._trees.append(Joined(left, sign, right))
+        self._trees.append(Joined(left, self._waiting.pop()[1], right))
 
 
 class Ways:

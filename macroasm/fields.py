@@ -7,6 +7,12 @@ LAST_ADDRESS = 2 ** 40
 LAST_CELL = 255
 # The numbers of the cells that fields have; a pair has none.
 WIDTHS = {"u1": 1, "u2": 2, "u4": 4, "s1": 1, "s2": 2, "s4": 4, "r1": 1, "r2": 2, "r4": 4}
+# The least and the greatest number that is written in a field.
+BOUNDS = {
+    "u1": (0, 255), "u2": (0, 65535), "u4": (0, 4294967295),
+    "s1": (-128, 127), "s2": (-32768, 32767), "s4": (-2147483648, 2147483647),
+    "r1": (-128, 127), "r2": (-32768, 32767), "r4": (-2147483648, 2147483647),
+}
 
 
 def is_address(value):
@@ -17,6 +23,14 @@ def is_address(value):
 def is_cell(value):
     """Whether a value is a cell."""
     return is_number(value) and 0 <= value <= LAST_CELL
+
+
+def are_cells(values):
+    """Whether all of many values are cells; so many that each is looked at without a call."""
+    for value in values:
+        if not isinstance(value, int) or value is True or value is False or not 0 <= value <= LAST_CELL:
+            return False
+    return True
 
 
 def is_field(value):
@@ -37,18 +51,11 @@ def field_bounds(field, behind=0):
         raise BadName(field)
     if not is_address(behind):
         raise BadNumber(behind)
-    return bounds_at(field, behind)
-
-
-def bounds_at(field, behind):
-    """As field_bounds, for an address that may also be above the last one."""
     if isinstance(field, tuple):
         return field[1], field[1]
-    half = 1 << 8 * WIDTHS[field] - 1
-    if field[0] == "u":
-        return 0, 2 * half - 1
+    least, most = BOUNDS[field]
     start = start_of(field, behind)
-    return start - half, start + half - 1
+    return least + start, most + start
 
 
 def start_of(field, behind):
@@ -57,12 +64,19 @@ def start_of(field, behind):
 
 
 def unfit_index(fields, operands, behind, moving):
-    """The index of the first operand that does not fit its field, None without one."""
+    """The index of the first operand that does not fit its field, None without one.
+
+    behind: the address behind the instruction; moving: the indexes of operands that depend on labels.
+    """
     for index, field in enumerate(fields):
-        least, most = bounds_at(field, behind)
-        is_moved = isinstance(field, tuple) and index in moving
-        if is_moved or not least <= operands[index] <= most:
-            return index
+        if isinstance(field, tuple):
+            if operands[index] != field[1] or index in moving:
+                return index
+        else:
+            least, most = BOUNDS[field]
+            start = behind if field[0] == "r" else 0
+            if not least <= operands[index] - start <= most:
+                return index
     return None
 
 

@@ -28,8 +28,7 @@ class Linear:
             if not _is_pair(pair):
                 raise BadObject(pair)
         self._constant = bounded(constant)
-        self._pairs = _bounded_pairs(_summed(pairs))
-        self._multiples = dict(self._pairs)
+        self._pairs = _bounded_pairs(_summed(pairs)) if pairs else ()
 
     @classmethod
     def of(cls, constant, pairs):
@@ -45,7 +44,7 @@ class Linear:
         """The form that is one unknown."""
         if not is_unknown(unknown):
             raise BadName(unknown)
-        return cls(0, (unknown, 1))
+        return _form_of(0, {unknown: 1})
 
     @property
     def constant(self):
@@ -71,10 +70,10 @@ class Linear:
         return len(self._pairs)
 
     def __contains__(self, unknown):
-        return isinstance(unknown, str) and unknown in self._multiples
+        return isinstance(unknown, str) and unknown in self.unknowns
 
     def __getitem__(self, unknown):
-        return self._multiples.get(unknown, 0) if isinstance(unknown, str) else 0
+        return dict(self._pairs).get(unknown, 0) if isinstance(unknown, str) else 0
 
     def __iter__(self):
         raise TypeError("a linear form is read by its pairs")
@@ -136,10 +135,10 @@ class Linear:
             if unknown in forms:
                 form = forms[unknown]
                 total = total + multiple * form.constant
-                found.extend(_multiplied(form.pairs, multiple))
+                found.extend([(name, multiple * number) for name, number in form.pairs])
             else:
                 found.append((unknown, multiple))
-        return Linear(total, *found)
+        return _form_of(total, _summed(found))
 
 
 class LinearWays(Ways):
@@ -192,6 +191,14 @@ def _is_side(value):
     return isinstance(value, Linear) or is_number(value)
 
 
+def _form_of(constant, sums):
+    """The form of a constant and a dict from unknowns, which are known to be right, to their multiples."""
+    form = Linear()
+    form._constant = bounded(constant)
+    form._pairs = _bounded_pairs(sums)
+    return form
+
+
 def _summed(pairs):
     """A dict from the unknowns of pairs to the sums of their multiples."""
     sums = {}
@@ -208,10 +215,6 @@ def _bounded_pairs(sums):
     return pairs
 
 
-def _multiplied(pairs, number):
-    return tuple([(unknown, multiple * number) for unknown, multiple in pairs])
-
-
 def _constant_of(side):
     """The constant of a form or an integer."""
     return side.constant if isinstance(side, Linear) else side
@@ -223,14 +226,16 @@ def _pairs_of(side):
 
 
 def _times(side, number):
-    pairs = _multiplied(_pairs_of(side), number)
-    return Linear(_constant_of(side) * number, *pairs)
+    pairs = {unknown: multiple * number for unknown, multiple in _pairs_of(side)}
+    return _form_of(_constant_of(side) * number, pairs)
 
 
 def _sum(one, other, number):
     """The sum of one side and a number of times the other one."""
-    pairs = _pairs_of(one) + _multiplied(_pairs_of(other), number)
-    return Linear(_constant_of(one) + number * _constant_of(other), *pairs)
+    sums = dict(_pairs_of(one))
+    for unknown, multiple in _pairs_of(other):
+        sums[unknown] = sums.get(unknown, 0) + number * multiple
+    return _form_of(_constant_of(one) + number * _constant_of(other), sums)
 
 
 def _product(one, other):

@@ -37,6 +37,8 @@ def is_used(value):
     """Whether a value is a path or a local name of a plain line."""
     if not isinstance(value, str):
         return False
+    if is_name(value):
+        return True
     if value.startswith("."):
         return is_name(value[1:])
     parts = value.split(".")

@@ -1,13 +1,10 @@
 """Where fragments stand once the choices have forms."""
 
-from macroasm.fields import unfit_index
-from macroasm.fragments import PATCHES, Alignment, Choice, Data
-from macroasm.tables import form_cells, length_of
+from itertools import accumulate
 
-# What is done to an address by a fragment: a number is added, it is raised to a multiple, a choice is added.
-ADDED = 0
-RAISED = 1
-CHOSEN = 2
+from macroasm.fields import unfit_index
+from macroasm.fragments import PATCHES, Alignment, Choice, Data, Gap
+from macroasm.tables import form_cells, length_of
 
 
 def raised(address, amount):
@@ -25,14 +22,16 @@ class Chooser:
 
     def __init__(self, place, choice, forms):
         self.place_of_choice = place
-        self._asked = choice.operands
+        self._asked = [(form.constant, form.pairs) for form in choice.operands]
         self._forms = forms
+        self._fields = [fields for _, fields in forms]
         self._lengths = [length_of(form) for form in forms]
+        self.last_form = len(forms) - 1
         self._moving = tuple([index for index, form in enumerate(choice.operands) if not form.is_plain])
 
-    def length(self, number):
-        """The number of the cells of a form."""
-        return self._lengths[number]
+    def lengths_of_forms(self):
+        """A list of the numbers of the cells of the forms."""
+        return list(self._lengths)
 
     def has_form(self, number):
         """Whether there is a form with a number."""
@@ -40,20 +39,29 @@ class Chooser:
 
     def unknowns_asked(self):
         """A list of the labels in the operands."""
-        return [unknown for form in self._asked for unknown in form.unknowns]
+        return [unknown for _, pairs in self._asked for unknown, _ in pairs]
 
     def operand_values(self, labels):
-        """The values of the operands, however great, by the addresses of labels."""
-        return tuple([form.unbounded(labels) for form in self._asked])
+        """A list of the values of the operands, however great, by the addresses of labels."""
+        values = []
+        for constant, pairs in self._asked:
+            total = constant
+            for unknown, multiple in pairs:
+                total = total + multiple * labels[unknown]
+            values.append(total)
+        return values
 
     def unfit_operand(self, number, address, values):
         """The index of the first operand that does not fit a form, None without one."""
-        return unfit_index(self._forms[number][1], values, address + self._lengths[number], self._moving)
+        return unfit_index(self._fields[number], values, address + self._lengths[number], self._moving)
 
-    def next_form(self, number, address, values):
+    def fitting_form(self, number, address, labels):
         """The form that follows in a pass: this one, or the first later one that fits, or the last one."""
-        last = len(self._forms) - 1
-        while number < last and self.unfit_operand(number, address, values) is not None:
+        values = self.operand_values(labels)
+        while number < self.last_form:
+            behind = address + self._lengths[number]
+            if unfit_index(self._fields[number], values, behind, self._moving) is None:
+                return number
             number += 1
         return number
 
@@ -68,8 +76,7 @@ class Ground:
     def __init__(self, sections, places, table, base):
         self.choosers = []
         self._base = base
-        self._alignments = [section.alignment for section in sections]
-        self._rows = [self._actions(number, section, table) for number, section in enumerate(sections)]
+        self._rows = [self._row_of(number, section, table) for number, section in enumerate(sections)]
         asked = {label: True for chooser in self.choosers for label in chooser.unknowns_asked()}
         self._places = {label: places[label] for label in asked}
 
@@ -77,9 +84,8 @@ class Ground:
         """For each section the addresses of its fragments and of its end, by the forms of the choices."""
         found = []
         at = self._base
-        for number, row in enumerate(self._rows):
-            at = raised(at, self._alignments[number])
-            found.append(self._row_from(row, at, forms))
+        for row in self._rows:
+            found.append(row.addresses_from(at, forms))
             at = found[-1][-1]
         return found
 
@@ -87,33 +93,54 @@ class Ground:
         """A dict from the labels that choices ask for to their addresses."""
         return {label: addresses[number][index] for label, (number, index) in self._places.items()}
 
-    def _actions(self, number, section, table):
-        """What the fragments of a section do to an address; its choices are added to the choosers."""
-        actions = []
+    def _row_of(self, number, section, table):
+        """The Row of a section; its choices are added to the choosers."""
+        row = Row(section)
         for index, fragment in enumerate(section.fragments):
             if isinstance(fragment, Choice):
-                actions.append((CHOSEN, len(self.choosers)))
-                self.choosers.append(Chooser((number, index), fragment, table[fragment.name]))
-            elif isinstance(fragment, Alignment):
-                actions.append((RAISED, fragment.amount))
-            elif isinstance(fragment, Data):
-                actions.append((ADDED, data_length(fragment)))
-            else:
-                actions.append((ADDED, fragment.amount))
-        return actions
+                chooser = Chooser((number, index), fragment, table[fragment.name])
+                row.add_choice(index, len(self.choosers), chooser.lengths_of_forms())
+                self.choosers.append(chooser)
+        return row
 
-    def _row_from(self, row, start, forms):
+
+class Row:
+    """The lengths of the fragments of a section."""
+
+    def __init__(self, section):
+        self._alignment = section.alignment
+        self._lengths = [_fixed_length(fragment) for fragment in section.fragments]
+        # Alignments above 1, by their indexes: the lengths of these depend on addresses.
+        self._raising = {
+            index: fragment.amount for index, fragment in enumerate(section.fragments)
+            if isinstance(fragment, Alignment) and fragment.amount > 1
+        }
+        self._choices = []
+
+    def add_choice(self, index, number, lengths):
+        """Add a choice: its index here, its number, and the lengths of its forms."""
+        self._choices.append((index, number, lengths))
+
+    def addresses_from(self, address, forms):
+        """The addresses of the fragments and of the end, behind an address at which another section ends."""
+        lengths = list(self._lengths)
+        for index, number, own in self._choices:
+            lengths[index] = own[forms[number]]
+        start = raised(address, self._alignment)
+        if not self._raising:
+            return list(accumulate([start, *lengths]))
         found = [start]
-        at = start
-        for action, amount in row:
-            if action == ADDED:
-                at = at + amount
-            elif action == RAISED:
-                at = raised(at, amount)
-            else:
-                at = at + self.choosers[amount].length(forms[amount])
-            found.append(at)
+        for index, length in enumerate(lengths):
+            amount = self._raising.get(index, 1)
+            found.append(raised(found[-1], amount) + length)
         return found
+
+
+def _fixed_length(fragment):
+    """The number of the cells of a fragment, as far as neither addresses nor forms tell it."""
+    if isinstance(fragment, Data):
+        return data_length(fragment)
+    return fragment.amount if isinstance(fragment, Gap) else 0
 
 
 class Standing:
@@ -132,11 +159,17 @@ class Standing:
     def next_form(self, number):
         """The form that a choice has behind a pass at these addresses."""
         chooser = self._choosers[number]
-        return chooser.next_form(self._forms[number], self.address_of(number), self.values_of(number))
+        if self._forms[number] == chooser.last_form:
+            return chooser.last_form
+        return chooser.fitting_form(self._forms[number], self.address_of(number), self._labels)
 
     def next_forms(self):
         """The forms of all choices behind a pass at these addresses."""
-        return tuple([self.next_form(number) for number in range(len(self._choosers))])
+        found = list(self._forms)
+        for number, chooser in enumerate(self._choosers):
+            if found[number] < chooser.last_form:
+                found[number] = chooser.fitting_form(found[number], self.address_of(number), self._labels)
+        return tuple(found)
 
     def first_unfit(self):
         """The number of the first choice that does not fit, None without one."""

@@ -33,11 +33,8 @@ def check_line(line):
 
 def row_end(line, at, signs, most):
     """The end of the longest row of these signs that begins at a column."""
-    stop = min(len(line), at + most)
-    end = at
-    while end < stop and line[end] in signs:
-        end += 1
-    return end
+    row = line[at:at + most]
+    return at + len(row) - len(row.lstrip(signs))
 
 
 def blanks_end(line, at):
@@ -185,9 +182,12 @@ def token_at(line, at, made):
 
 
 def _check_behind(line, end):
-    if row_end(line, end, BARRED_BEHIND, 1) > end:
+    sign = line[end:end + 1]
+    if sign == "" or sign == " ":
+        return
+    if sign in BARRED_BEHIND:
         raise BadLine(end)
-    if line[end:end + 1] == "." and line[end + 1:end + 2] != ".":
+    if sign == "." and line[end + 1:end + 2] != ".":
         raise BadLine(end + 1)
 
 

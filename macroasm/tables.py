@@ -2,7 +2,7 @@
 
 from macroasm.arithmetic import is_number, is_value
 from macroasm.errors import BadNumber, BadOperands, BadTable, NoInstruction
-from macroasm.fields import is_address, is_cell, is_field, operand_cells, unfit_index, width_of
+from macroasm.fields import are_cells, is_address, is_field, operand_cells, unfit_index, width_of
 from macroasm.lines import is_free_name
 
 MOST_ROWS = 100
@@ -26,6 +26,8 @@ class Table:
         self._rows = rows
         self._forms = {name: forms for name, forms in rows}
         self._opcodes = _opcodes_of(rows)
+        self._short = {opcode[0]: found for opcode, found in self._opcodes.items() if len(opcode) == 1}
+        self._longer_sizes = sorted(set([len(opcode) for opcode in self._opcodes if len(opcode) > 1]))
 
     @classmethod
     def of(cls, rows):
@@ -101,11 +103,19 @@ class Table:
         return _cells_of(form, operands, address)
 
     def begun_at(self, cells, at):
-        """The name, the number and the length of the form that begins at an index, None without one."""
-        for many in range(1, MOST_IN_OPCODE + 1):
+        """The form that begins at an index, as _opcodes_of tells it, None without one."""
+        if at == len(cells):
+            return None
+        found = self._short.get(cells[at])
+        if found is None and self._longer_sizes:
+            found = self._begun_by_more(cells, at)
+        return found if found is None or at + found[2] <= len(cells) else None
+
+    def _begun_by_more(self, cells, at):
+        for many in self._longer_sizes:
             found = self._opcodes.get(cells[at:at + many])
             if found is not None:
-                return found if at + found[2] <= len(cells) else None
+                return found
         return None
 
     def free_opcodes(self, length):
@@ -140,17 +150,18 @@ def _check_rows(rows):
     """BadTable for the first row or form that cannot stand where it stands."""
     if len(rows) > MOST_ROWS:
         raise BadTable(None, None)
-    names = []
-    opcodes = []
+    names = {}
+    # The opcodes so far, and what they begin with, lead to whether it is an opcode itself.
+    begun = {}
     for row, given in enumerate(rows):
         if not _is_row(given) or given[0] in names:
             raise BadTable(row, None)
-        names.append(given[0])
+        names[given[0]] = True
         forms = given[1]
         for number, form in enumerate(forms):
-            if not _is_form(form) or not _may_follow(form, forms[:number]) or _is_met(form[0], opcodes):
+            if not _is_form(form) or not _may_follow(form, forms[:number]) or _is_met(form[0], begun):
                 raise BadTable(row, number)
-            opcodes.append(form[0])
+            _add_opcode(form[0], begun)
 
 
 def _is_row(value):
@@ -167,7 +178,7 @@ def _is_form(value):
         return False
     if not 1 <= len(opcode) <= MOST_IN_OPCODE or len(fields) > MOST_OPERANDS:
         return False
-    return all([is_cell(cell) for cell in opcode]) and all([is_field(field) for field in fields])
+    return are_cells(opcode) and all([is_field(field) for field in fields])
 
 
 def _may_follow(form, earlier):
@@ -177,17 +188,28 @@ def _may_follow(form, earlier):
     return len(form[1]) == len(earlier[-1][1]) and length_of(form) > length_of(earlier[-1])
 
 
-def _is_met(opcode, opcodes):
-    """Whether an opcode begins or equals one of others, or one of them begins it."""
-    return any([opcode[:len(other)] == other[:len(opcode)] for other in opcodes])
+def _is_met(opcode, begun):
+    """Whether an opcode begins or equals an earlier one, or one of them begins it."""
+    if opcode in begun:
+        return True
+    for many in range(1, len(opcode)):
+        if begun.get(opcode[:many], False):
+            return True
+    return False
+
+
+def _add_opcode(opcode, begun):
+    for many in range(1, len(opcode)):
+        begun[opcode[:many]] = False
+    begun[opcode] = True
 
 
 def _opcodes_of(rows):
-    """A dict from the opcodes to the name, the number and the length of their forms."""
+    """A dict from the opcodes to the name, the number and the length of their forms, and the forms."""
     found = {}
     for name, forms in rows:
         for number, form in enumerate(forms):
-            found[form[0]] = (name, number, length_of(form))
+            found[form[0]] = (name, number, length_of(form), form)
     return found
 
 

@@ -19,17 +19,17 @@ MOST_DEPTH = 20
 class Tree:
     """An expression: a Number, a Named, a Signed or a Joined."""
 
-    def __init__(self, text, parts, depth, branches, level):
-        if len(parts) > MOST_TOKENS:
+    def __init__(self, shown, branches, level, used):
+        text, many, depth = shown
+        if many > MOST_TOKENS:
             raise TooLarge(MOST_TOKENS)
         if depth > MOST_DEPTH:
             raise TooLarge(MOST_DEPTH)
         self._text = text
-        self._parts = parts
-        self._depth = depth
+        self._shown = shown
         self._branches = branches
         self._level = level
-        self._used = _used_in(branches)
+        self._used = used
 
     @property
     def text(self):
@@ -42,7 +42,7 @@ class Tree:
         return self._used
 
     def __len__(self):
-        return len(self._parts)
+        return len(range(self._shown[1]))
 
     def __contains__(self, name):
         return isinstance(name, str) and name in self._used
@@ -78,10 +78,10 @@ class Tree:
         """The folded tree, and the value of this one, None without one."""
         raise NotImplementedError("a tree is a Number, a Named, a Signed or a Joined")
 
-    def _shown(self, in_brackets):
-        if not in_brackets:
-            return self._text, self._parts, self._depth
-        return f"({self._text})", ("(", *self._parts, ")"), self._depth + 1
+    def _in_brackets(self):
+        """The text in brackets, the number of its tokens, and its depth."""
+        text, many, depth = self._shown
+        return f"({text})", many + 2, depth + 1
 
 
 class Number(Tree):
@@ -90,7 +90,7 @@ class Number(Tree):
     def __init__(self, number):
         if not is_value(number) or number < 0:
             raise BadNumber(number)
-        super().__init__(str(number), (str(number),), 0, (), UNJOINED)
+        super().__init__((str(number), 1, 0), (), UNJOINED, ())
         self._number = number
 
     @property
@@ -115,9 +115,8 @@ class Named(Tree):
     def __init__(self, name):
         if not is_used(name) or name == "mod":
             raise BadName(name)
-        super().__init__(name, (name,), 0, (), UNJOINED)
+        super().__init__((name, 1, 0), (), UNJOINED, (name,))
         self._name = name
-        self._used = (name,)
 
     @property
     def name(self):
@@ -143,8 +142,8 @@ class Signed(Tree):
             raise BadTree(sign)
         if not isinstance(inner, Tree):
             raise BadTree(inner)
-        text, parts, depth = inner._shown(inner._level < UNJOINED)
-        super().__init__(sign + text, (sign, *parts), depth + 1, (inner,), UNJOINED)
+        text, many, depth = inner._in_brackets() if inner._level < UNJOINED else inner._shown
+        super().__init__((sign + text, many + 1, depth + 1), (inner,), UNJOINED, inner._used)
         self._sign = sign
         self._inner = inner
 
@@ -184,10 +183,11 @@ class Joined(Tree):
         if not isinstance(right, Tree):
             raise BadTree(right)
         level = LEVELS[sign]
-        one, parts, depth = left._shown(left._level < level or left._level == level == COMPARING)
-        other, more_parts, more_depth = right._shown(right._level <= level)
-        text = f"{one} {sign} {other}"
-        super().__init__(text, (*parts, sign, *more_parts), max(depth, more_depth), (left, right), level)
+        is_weak = left._level < level or left._level == level == COMPARING
+        one, many, depth = left._in_brackets() if is_weak else left._shown
+        other, more, deeper = right._in_brackets() if right._level <= level else right._shown
+        shown = (f"{one} {sign} {other}", many + more + 1, max(depth, deeper))
+        super().__init__(shown, (left, right), level, _used_by_both(left._used, right._used))
         self._left = left
         self._sign = sign
         self._right = right
@@ -229,11 +229,11 @@ class Joined(Tree):
         return Joined(left, self._sign, right), value
 
 
-def _used_in(branches):
-    names = []
-    for branch in branches:
-        names.extend([name for name in branch.used if name not in names])
-    return tuple(names)
+def _used_by_both(names, others):
+    """The names, and behind them those of others that are not among them."""
+    if others == ():
+        return names
+    return names + tuple([name for name in others if name not in names])
 
 
 def _value_or_none(action, given):

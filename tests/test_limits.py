@@ -111,6 +111,15 @@ class Steps(Case):
         self.in_trouble("text:2<text:1", TooLarge, (10000,), "repeat 2\nrepeat 4998\n\nendrepeat\nendrepeat")
         self.in_trouble("text:2<text:1", TooLarge, (10000,), "repeat 1\nrepeat 9998\nendrepeat\nendrepeat")
 
+    def test_rounds_without_lines(self):
+        expander = Expander("x\nrepeat 5, i\nendrepeat\nrepeat 1, j\nendrepeat\nrepeat 0, k\nendrepeat\ny")
+        self.assertEqual([line for line, _ in expander.rest()], ["x", "y"])
+        self.assertEqual((expander.steps_done, expander.variables()), (2 + 6 + 2 + 1, {"i": 4, "j": 0}))
+        self.assertEqual(self.steps("repeat 4998, i\nendrepeat\nrepeat 4999\nendrepeat\nset i = i"), 10000)
+        self.in_trouble("text:3", TooLarge, (10000,), "repeat 4999, i\nendrepeat\nrepeat 5000\nendrepeat")
+        self.in_trouble("text:1", TooLarge, (10000,), f"repeat {2 ** 64}, i\nendrepeat\n$x")
+        self.in_trouble("text:2<text:1", TooLarge, (10000,), "repeat 10000, i\n; nothing, but a line\nendrepeat")
+
     def test_calls(self):
         text = "macro m\nendmacro\nrepeat 3333\nm\nendrepeat"
         self.assertEqual(self.steps(text), 10000)
