@@ -85,6 +85,12 @@ def number_cells(number, many):
     return tuple([number >> 8 * place & LAST_CELL for place in range(many)])
 
 
+def is_in_field(value, many):
+    """Whether a value can be written in a number of cells, with a sign or without one."""
+    most = 1 << 8 * many
+    return -most // 2 <= value < most
+
+
 def operand_cells(field, operand, behind):
     """The cells of an operand that fits a field."""
     return number_cells(operand - start_of(field, behind), width_of(field))

@@ -2,7 +2,7 @@
 
 from macroasm.arithmetic import is_number
 from macroasm.errors import BadName, BadNumber, BadObject, BadOperands, NoName, OutOfRange, TooLarge
-from macroasm.fields import number_cells
+from macroasm.fields import is_in_field, number_cells
 from macroasm.fragments import PATCHES, Choice, Data, Section
 from macroasm.linear import is_unknown
 from macroasm.placing import Ground, Standing
@@ -165,12 +165,6 @@ class Layout:
             else:
                 cells.append(item)
         return tuple(cells)
-
-
-def is_in_field(value, many):
-    """Whether a value can be written in a number of cells, with a sign or without one."""
-    most = 1 << 8 * many
-    return -most // 2 <= value < most
 
 
 def _check_sections(sections):

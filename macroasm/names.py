@@ -99,6 +99,20 @@ class Names:
 
     def resolved(self):
         """The Resolved of all labels, equations and imports."""
+        found, forms, refused = self._resolving()
+        if refused:
+            least = min(refused)
+            # It is worked out once more, so that its error is the one that is raised.
+            forms[least] = self._form_of(least, found[least], forms)
+        return Resolved(forms)
+
+    def least_refused(self):
+        """The equation whose error resolved raises behind those of rings, None without one."""
+        _, _, refused = self._resolving()
+        return min(refused) if refused else None
+
+    def _resolving(self):
+        """What is found in the equations, the forms of all names that have one, and the equations that are refused."""
         found = self._all_found()
         uses = _among_equations(found)
         ring = least_ring_in(uses)
@@ -109,11 +123,7 @@ class Names:
         for full in inner_first(uses):
             if all([name in forms for name in uses[full]]):
                 self._resolve(full, found[full], forms, refused)
-        if refused:
-            least = min(refused)
-            # It is worked out once more, so that its error is the one that is raised.
-            forms[least] = self._form_of(least, found[least], forms)
-        return Resolved(forms)
+        return found, forms, refused
 
     def _full_name(self, name):
         return ".".join([*self._scopes, name])
