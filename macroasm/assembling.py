@@ -151,8 +151,8 @@ class Assembly:
         """The Resolved of all names."""
         try:
             return self._names.resolved()
-        except Cycle as cause:
-            raise Trouble(self._equation_origins[cause.names[0]], cause) from cause
+        except Cycle as ring:
+            raise Trouble(self._equation_origins[ring.names[0]], ring) from ring
         except (ValueTrouble, LimitTrouble) as cause:
             raise Trouble(self._equation_origins[self._names.least_refused()], cause) from cause
 

@@ -31,10 +31,10 @@ class Layout:
         self._choice_numbers = {
             chooser.place_of_choice: number for number, chooser in enumerate(self._ground.choosers)
         }
+        self._growth_rows = []
         self._all_forms = self._forms_by_passes()
         self._standing = Standing(self._ground, self._all_forms[-1])
-        self._check_choices()
-        self._check_patches()
+        self._check_ranges()
 
     @property
     def sections(self):
@@ -71,6 +71,10 @@ class Layout:
     def cells_of(self, name, index):
         """The tuple of the cells of a fragment."""
         return self._cells_at((self._section_number(name), index))
+
+    def growth_rows(self):
+        """A list of tuples (pass, section, index, old form, new form, operand, value) for all forms that followed."""
+        return list(self._growth_rows)
 
     def passes(self):
         """Yield the tuple of all forms at the beginning of each pass."""
@@ -117,13 +121,29 @@ class Layout:
             if standing.total() > self.MOST_CELLS:
                 raise TooLarge(self.MOST_CELLS)
             forms = standing.next_forms()
+            self._note_growths(len(found), standing, forms)
         return found
 
-    def _check_choices(self):
+    def _note_growths(self, number_of_pass, standing, forms):
+        old = standing.forms_now
+        for number, form in enumerate(forms):
+            if form != old[number]:
+                operand, value = standing.unfit_value(number)
+                name, index = self._place_of_choice(number)
+                self._growth_rows.append((number_of_pass, name, index, old[number], form, operand, value))
+
+    def _place_of_choice(self, number):
+        """The name of the section of a choice, and its index there."""
+        section, index = self._ground.choosers[number].place_of_choice
+        return self._sections[section].name, index
+
+    def _check_ranges(self):
+        """OutOfRange for the first choice that does not fit, or else the first patch."""
         number = self._standing.first_unfit()
         if number is not None:
-            section, index = self._ground.choosers[number].place_of_choice
-            raise OutOfRange(self._sections[section].name, index)
+            name, index = self._place_of_choice(number)
+            raise OutOfRange(name, index)
+        self._check_patches()
 
     def _check_patches(self):
         for number, section in enumerate(self._sections):
@@ -165,6 +185,49 @@ class Layout:
             else:
                 cells.append(item)
         return tuple(cells)
+
+
+class GrowingLayout(Layout):
+    """A layout that is asked how its choices grow one at a time; what does not fit in the end is let in."""
+
+    def steps_one_by_one(self):
+        """Yield triples (section, index, form): each time the first choice that does not fit and has a later form."""
+        forms = [0] * len(self._ground.choosers)
+        order = list(range(len(forms)))
+        standing = Standing(self._ground, forms)
+        number = standing.first_growing(order)
+        while number is not None:
+            forms[number] = standing.next_form(number)
+            name, index = self._place_of_choice(number)
+            yield name, index, forms[number]
+            standing = Standing(self._ground, forms)
+            number = standing.first_growing(order)
+
+    def is_explained_by(self, rows):
+        """Whether a value is a tuple of steps that are enough."""
+        if not isinstance(rows, tuple):
+            return False
+        forms = [0] * len(self._ground.choosers)
+        standing = Standing(self._ground, forms)
+        for row in rows:
+            number = self._number_in_step(row)
+            if number is None or row[2] == forms[number] or row[2] != standing.next_form(number):
+                return False
+            forms[number] = row[2]
+            standing = Standing(self._ground, forms)
+        return standing.first_growing(list(range(len(forms)))) is None
+
+    def _number_in_step(self, row):
+        """The number of the choice of a step, None for what is no step."""
+        if not isinstance(row, tuple) or len(row) != 3:
+            return None
+        name, index, form = row
+        if not isinstance(name, str) or not is_number(index) or not is_number(form):
+            return None
+        return self._choice_numbers.get((self._numbers.get(name), index))
+
+    def _check_ranges(self):
+        """Nothing is refused for its range."""
 
 
 def _check_sections(sections):

@@ -2,7 +2,7 @@
 
 from itertools import accumulate
 
-from macroasm.fields import unfit_index
+from macroasm.fields import start_of, unfit_index
 from macroasm.fragments import PATCHES, Alignment, Choice, Data, Gap
 from macroasm.tables import form_cells, length_of
 
@@ -54,6 +54,10 @@ class Chooser:
     def unfit_operand(self, number, address, values):
         """The index of the first operand that does not fit a form, None without one."""
         return unfit_index(self._fields[number], values, address + self._lengths[number], self._moving)
+
+    def start_of_operand(self, operand, number, address):
+        """What is taken off an operand when it is written in a form."""
+        return start_of(self._fields[number][operand], address + self._lengths[number])
 
     def fitting_form(self, number, address, labels):
         """The form that follows in a pass: this one, or the first later one that fits, or the last one."""
@@ -148,8 +152,8 @@ class Standing:
 
     def __init__(self, ground, forms):
         self.addresses_now = ground.addresses(forms)
+        self.forms_now = forms
         self._choosers = ground.choosers
-        self._forms = forms
         self._labels = ground.label_values(self.addresses_now)
 
     def total(self):
@@ -159,13 +163,13 @@ class Standing:
     def next_form(self, number):
         """The form that a choice has behind a pass at these addresses."""
         chooser = self._choosers[number]
-        if self._forms[number] == chooser.last_form:
+        if self.forms_now[number] == chooser.last_form:
             return chooser.last_form
-        return chooser.fitting_form(self._forms[number], self.address_of(number), self._labels)
+        return chooser.fitting_form(self.forms_now[number], self.address_of(number), self._labels)
 
     def next_forms(self):
         """The forms of all choices behind a pass at these addresses."""
-        found = list(self._forms)
+        found = list(self.forms_now)
         for number, chooser in enumerate(self._choosers):
             if found[number] < chooser.last_form:
                 found[number] = chooser.fitting_form(found[number], self.address_of(number), self._labels)
@@ -181,12 +185,19 @@ class Standing:
     def unfit_operand(self, number):
         """The index of the first operand of a choice that does not fit, None without one."""
         chooser = self._choosers[number]
-        return chooser.unfit_operand(self._forms[number], self.address_of(number), self.values_of(number))
+        return chooser.unfit_operand(self.forms_now[number], self.address_of(number), self.values_of(number))
+
+    def unfit_value(self, number):
+        """The index and the value of the first operand of a choice that does not fit, under r less the end."""
+        operand = self.unfit_operand(number)
+        chooser = self._choosers[number]
+        start = chooser.start_of_operand(operand, self.forms_now[number], self.address_of(number))
+        return operand, self.values_of(number)[operand] - start
 
     def first_growing(self, order):
         """The first choice in an order that does not fit and has a later form, None without one."""
         for number in order:
-            if self.next_form(number) != self._forms[number]:
+            if self.next_form(number) != self.forms_now[number]:
                 return number
         return None
 
@@ -201,4 +212,4 @@ class Standing:
 
     def choice_cells(self, number):
         """The cells of a choice that fits."""
-        return self._choosers[number].cells(self._forms[number], self.address_of(number), self.values_of(number))
+        return self._choosers[number].cells(self.forms_now[number], self.address_of(number), self.values_of(number))
