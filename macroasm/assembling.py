@@ -185,7 +185,8 @@ def _fragment_of(statement, place, resolved):
     if operation in ("export", "="):
         return None
     if operation == "text":
-        return Data(*[ord(sign) for sign in string_in(statement.operands[0])])
+        cells = [ord(sign) for sign in string_in(statement.operands[0])]
+        return Data(*cells)
     if operation in FILLING:
         return _filling_of(operation, trees, place, resolved)
     if operation in DATA_FIELDS:

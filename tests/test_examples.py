@@ -8,7 +8,9 @@ from macroasm.fragments import Choice, Gap, Section
 from macroasm.layout import Layout
 from macroasm.linear import Linear
 from macroasm.lines import tokens
+from macroasm.linking import assembled, link
 from macroasm.names import Names
+from macroasm.session import Session
 from macroasm.tables import Table
 
 
@@ -47,3 +49,27 @@ class Examples(unittest.TestCase):
         layout = Layout((section,), {"far": ("main", 2)}, table, base=16)
         self.assertEqual((layout("far"), layout.form_of("main", 0)), (149, 1))
         self.assertEqual((layout.cells_of("main", 0), list(layout.passes())), ((2, 128, 0, 0, 0), [(0,), (1,)]))
+
+    def test_listings(self):
+        table = Table(("jump", (((1,), ("r1",)),)))
+        whole = assembled("f: jump f\nbyte 7, f", table)
+        self.assertEqual(link((whole,), table, base=16).listing(), "section main 16\n16: 1 254 ; main:1\n18: 7 16 ; main:2")
+
+
+class Readme(unittest.TestCase):
+    """What README.md shows."""
+
+    TABLE = Table(("jump", (((1,), ("r1",)), ((2,), ("r4",)))))
+
+    def test_linking(self):
+        one = assembled("f: jump far\nbyte 7, f\nexport f\nimport far", self.TABLE, name="one")
+        two = assembled("space 2, 255\nfar: byte 1\nexport far", self.TABLE, name="two")
+        image = link((one, two), self.TABLE, base=16)
+        self.assertEqual(image.listing().split("\n"), [
+            "section main 16", "16: 1 4 ; one:1", "18: 7 16 ; one:2", "20: 255 255 ; two:1", "22: 1 ; two:2",
+        ])
+        self.assertEqual((image.value("far"), image.uses_of("f")), (22, (18,)))
+
+    def test_sessions(self):
+        commands = ("text one\nf: jump f\nexport f", "base 16", "value f", "origin 17", "undo", "value f")
+        self.assertEqual(Session(self.TABLE).run(commands), ["ok", "ok", "16", "one:1", "ok", "0"])

@@ -251,3 +251,82 @@ class Statements(unittest.TestCase):
                 self.assertIn(one.id, defined_in("errors"), (name, node.lineno))
         for name, node in nodes(ast.Raise):
             self.assertIsInstance(node.exc, ast.Call, (name, node.lineno))
+
+
+TAKING = ("list", "tuple", "dict", "sorted", "sum", "any", "all", "enumerate", "zip", "min", "max")
+
+
+def parents():
+    """A dict from the ids of nodes to the nodes around them."""
+    return {id(inner): node for tree in TREES.values() for node in ast.walk(tree) for inner in ast.iter_child_nodes(node)}
+
+
+def is_iterated(node, around):
+    """Whether a node is gone over on the spot."""
+    outer = around[id(node)]
+    if isinstance(outer, (ast.For, ast.comprehension)):
+        return outer.iter is node
+    if isinstance(outer, ast.Call) and isinstance(outer.func, ast.Name):
+        return outer.func.id in TAKING and node in outer.args
+    return isinstance(outer, ast.Call) and isinstance(outer.func, ast.Attribute) and outer.func.attr == "join"
+
+
+def called(node):
+    """The name of the function or the method that is called."""
+    return getattr(node.func, "id", None) or getattr(node.func, "attr", None)
+
+
+class Iterating(unittest.TestCase):
+    def setUp(self):
+        self.around = parents()
+
+    def test_views_and_ranges_are_iterated_at_once(self):
+        for name, node in nodes(ast.Call):
+            word = called(node)
+            outer = self.around[id(node)]
+            is_measured = word == "range" and isinstance(outer, ast.Call) and called(outer) in ("len", "reversed")
+            if word in ("range", "zip", "enumerate", "reversed", "items", "keys", "values") and not is_measured:
+                self.assertTrue(is_iterated(node, self.around), (name, node.lineno))
+
+    def test_generators_are_iterated_at_once(self):
+        found = [node for _, node in functions() if any(isinstance(part, (ast.Yield, ast.YieldFrom)) for part in ast.walk(node))]
+        names = [node.name for node in found]
+        for name, node in nodes(ast.Call):
+            if called(node) in names:
+                is_yielded = isinstance(self.around[id(node)], ast.YieldFrom)
+                self.assertTrue(is_yielded or is_iterated(node, self.around), (name, node.lineno))
+                for given in [*node.args, *[word.value for word in node.keywords]]:
+                    self.assertIsInstance(given, (ast.Name, ast.Attribute, ast.Constant), (name, node.lineno))
+        for node in found:
+            self.assertFalse([part for part in ast.walk(node) if isinstance(part, (ast.Try, ast.With))], node.name)
+            self.assertNotIn(node.name, METHODS)
+            self.assertEqual(decorators(node), [])
+
+    def test_stars_in_calls(self):
+        for name, node in nodes(ast.Call):
+            starred = [at for at, given in enumerate(node.args) if isinstance(given, ast.Starred)]
+            for at in starred:
+                self.assertIsInstance(node.args[at].value, (ast.Name, ast.Attribute), (name, node.lineno))
+                for given in node.args[at + 1:]:
+                    self.assertIsInstance(given, (ast.Name, ast.Constant, ast.Tuple), (name, node.lineno))
+
+    def test_sets(self):
+        for name, node in nodes(ast.Call):
+            if called(node) == "set":
+                outer = self.around[id(node)]
+                self.assertTrue(isinstance(outer, ast.Call) and called(outer) in ("sorted", "len"), (name, node.lineno))
+
+    def test_what_is_caught_has_a_name_of_its_own(self):
+        for name, function in functions():
+            told = [node.name for node in ast.walk(function) if isinstance(node, ast.ExceptHandler) and node.name]
+            self.assertEqual(len(told), len(set(told)), (name, function.name))
+
+    def test_what_lies_at_module_level_is_only_read(self):
+        for name, tree in TREES.items():
+            told = [node.targets[0].id for node in tree.body if isinstance(node, ast.Assign) and isinstance(node.value, (ast.List, ast.Dict))]
+            for node in ast.walk(tree):
+                if isinstance(node, ast.Name) and node.id in told and isinstance(node.ctx, ast.Load):
+                    outer = self.around[id(node)]
+                    is_read = isinstance(outer, (ast.Subscript, ast.Compare, ast.comprehension, ast.For))
+                    is_asked = isinstance(outer, ast.Attribute) and outer.attr in ("get", "items", "index")
+                    self.assertTrue(is_read or is_asked, (name, node.lineno))
