@@ -199,6 +199,14 @@ def _form_of(constant, sums):
     return form
 
 
+def _moved(constant, pairs):
+    """The form of a constant and the pairs of another form."""
+    form = Linear()
+    form._constant = bounded(constant)
+    form._pairs = pairs
+    return form
+
+
 def _summed(pairs):
     """A dict from the unknowns of pairs to the sums of their multiples."""
     sums = {}
@@ -232,10 +240,14 @@ def _times(side, number):
 
 def _sum(one, other, number):
     """The sum of one side and a number of times the other one."""
+    constant = _constant_of(one) + number * _constant_of(other)
+    added = _pairs_of(other)
+    if added == ():
+        return _moved(constant, _pairs_of(one))
     sums = dict(_pairs_of(one))
-    for unknown, multiple in _pairs_of(other):
+    for unknown, multiple in added:
         sums[unknown] = sums.get(unknown, 0) + number * multiple
-    return _form_of(_constant_of(one) + number * _constant_of(other), sums)
+    return _form_of(constant, sums)
 
 
 def _product(one, other):

@@ -3,7 +3,7 @@
 from macroasm.brackets import bracket_ends, split_operands
 from macroasm.errors import BadLine
 from macroasm.scanning import (
-    DIGITS, MOST_IN_MADE, MOST_IN_NAME, MOST_IN_PATH, blanks_end, check_line, comment_column, head_parts, quoted_end,
+    DIGITS, MOST_IN_MADE, MOST_IN_NAME, MOST_IN_PATH, check_line, comment_column, head_parts, quoted_end,
     row_end, token_at,
 )
 
@@ -56,11 +56,14 @@ def _is_part(text):
 def tokens(line, *, made=False):
     """Yield a tuple (sort, value, column) for each token of a line; made: whether it is a plain line."""
     check_line(line)
-    at = blanks_end(line, 0)
+    at = 0
     while at < len(line) and line[at] != ";":
+        if line[at] == " ":
+            at += 1
+            continue
         sort, value, end = token_at(line, at, made)
         yield sort, value, at
-        at = blanks_end(line, end)
+        at = end
 
 
 def line_of(pairs):

@@ -115,12 +115,12 @@ class Names:
         """What is found in the equations, the forms of all names that have one, and the equations that are refused."""
         found = self._all_found()
         uses = _among_equations(found)
-        ring = least_ring_in(uses)
-        if ring != ():
-            raise Cycle(ring)
+        ordered = inner_first(uses)
+        if len(ordered) < len(uses):
+            raise Cycle(least_ring_in(uses))
         forms = {full: Linear.single(full) for full in self._known if full not in found}
         refused = []
-        for full in inner_first(uses):
+        for full in ordered:
             if all([name in forms for name in uses[full]]):
                 self._resolve(full, found[full], forms, refused)
         return found, forms, refused

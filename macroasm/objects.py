@@ -185,12 +185,12 @@ class Joining:
             name: [unknown for unknown in form.unknowns if unknown in self._forms]
             for name, form in self._forms.items()
         }
-        ring = least_ring_in(uses)
-        if ring != ():
-            raise Cycle(ring)
+        ordered = inner_first(uses)
+        if len(ordered) < len(uses):
+            raise Cycle(least_ring_in(uses))
         found = {}
         refused = []
-        for name in inner_first(uses):
+        for name in ordered:
             if all([used in found for used in uses[name]]):
                 self._resolve(name, found, refused)
         if refused:

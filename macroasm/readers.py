@@ -1,9 +1,10 @@
 """What is read from the lines of an expansion, kept for lines that are reached again."""
 
+from macroasm.brackets import split_operands
 from macroasm.errors import BadLine
 from macroasm.expressions import plain_of, tree_of, value_of
 from macroasm.filling import value_pieces
-from macroasm.lines import operands_of, uncommented
+from macroasm.lines import uncommented
 from macroasm.scanning import head_parts
 
 
@@ -31,9 +32,9 @@ class Reader:
         return self._heads[line]
 
     def operands_of_line(self, line):
-        """As operands_of."""
+        """As operands_of, for a line that is not too long."""
         if line not in self._operands:
-            self._operands[line] = operands_of(line)
+            self._operands[line] = split_operands(line, self.head_of_line(line)[2])
         return self._operands[line]
 
     def value_of_text(self, text, variables):

@@ -12,8 +12,11 @@ HEX_DIGITS = "0123456789abcdefABCDEF"
 BINARY_DIGITS = "01"
 NAME_SIGNS = "abcdefghijklmnopqrstuvwxyzABCDEFGHIJKLMNOPQRSTUVWXYZ_0123456789"
 BARRED_BEHIND = "abcdefghijklmnopqrstuvwxyzABCDEFGHIJKLMNOPQRSTUVWXYZ_0123456789@"
-LONG_SIGNS = ("||", "&&", "==", "!=", "<=", ">=", "<<", ">>", "..")
-SHORT_SIGNS = ("|", "^", "&", "<", ">", "+", "-", "*", "/", "~", "!", "(", ")", "{", "}", ",", ":", "=")
+# The signs of two characters, and those of one in a row.
+LONG_SIGNS = {
+    "||": True, "&&": True, "==": True, "!=": True, "<=": True, ">=": True, "<<": True, ">>": True, "..": True,
+}
+SHORT_SIGNS = "|^&<>+-*/~!(){},:="
 ESCAPED = ("\\", "\"", "'", "n")
 MOST_IN_LINE = 400
 MOST_IN_NAME = 40

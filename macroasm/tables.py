@@ -25,6 +25,7 @@ class Table:
         _check_rows(rows)
         self._rows = rows
         self._forms = {name: forms for name, forms in rows}
+        self._lengths = {name: [length_of(form) for form in forms] for name, forms in rows}
         self._opcodes = _opcodes_of(rows)
         self._short = {opcode[0]: found for opcode, found in self._opcodes.items() if len(opcode) == 1}
         self._longer_sizes = sorted(set([len(opcode) for opcode in self._opcodes if len(opcode) > 1]))
@@ -83,9 +84,9 @@ class Table:
     def first_fitting(self, name, operands, address, first=0, moving=()):
         """As fitting, of values that are known to be right, but for an address that may be above the last one."""
         forms = self._forms[name]
+        lengths = self._lengths[name]
         for number in range(first, len(forms)):
-            behind = address + length_of(forms[number])
-            if unfit_index(forms[number][1], operands, behind, moving) is None:
+            if unfit_index(forms[number][1], operands, address + lengths[number], moving) is None:
                 return number
         return None
 
