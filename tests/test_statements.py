@@ -40,7 +40,7 @@ class Kinds(Case):
             self.assertEqual(told, (None, "=", (name, "a + 1"), name + " = a + 1"))
 
     def test_parts_of_operands(self):
-        self.assertEqual(statement_of("byte (a , 1) ; x".replace(" , 1", "")).operands, ("a",))
+        self.assertEqual(statement_of("byte ( a )*(b) , (c) ; x").operands, ("a * b", "c"))
         self.assertEqual(statement_of("byte ';', ',' ; 'c").operands, ("59", "44"))
         self.assertEqual(statement_of("text \"a;b,c)\" ; d").operands, ("\"a;b,c)\"",))
         self.assertEqual(statement_of("byte'a'").text, "byte 97")
@@ -100,7 +100,7 @@ class Refused(Case):
 class NormalTexts(Case):
     def test_read_again(self):
         for line in (
-            *[line for line, _, _ in KINDS], "f:byte 0x10,(a)+((b)),'\\''", "x=-(-(3))", ".x:", "a@1 : byte 1".replace(" :", ":"),
+            *[line for line, _, _ in KINDS], "f:byte 0x10,(a)+((b)),'\\''", "x=-(-(3))", ".x:", " a@1: byte 1",
             "text  \"\\'a\\\"\\\\\\n\"", "jump   f,( .x )", "export a ,b", " space 0b11 , 07 ; c",
         ):
             statement = statement_of(line)
