@@ -18,7 +18,10 @@ class Image:
         self._many_ahead = []
         # For each label the addresses of the ranges that use it.
         self._users = {label: [] for label in whole.labels}
-        self._sections = tuple([self._section_of(name, whole, layout) for name in whole.sections])
+        sections = []
+        for name in whole.sections:
+            sections.append(self._section_of(name, whole, layout))
+        self._sections = tuple(sections)
         self._labels = [name for name in whole.exports if name in layout]
         self._exports = whole.exports
         addresses = {label: layout(label) for label in whole.labels}

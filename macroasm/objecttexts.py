@@ -277,7 +277,7 @@ def form_in(text):
 
 def is_path_outside(text):
     """Whether a text may be the name of an export or an import: a path without made or reserved names."""
-    return is_used(text) and "@" not in text and not text.startswith(".") and _has_free_parts(text)
+    return is_used(text) and "@" not in text and _has_free_parts(text)
 
 
 def is_label_name(text, pieces):

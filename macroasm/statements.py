@@ -88,7 +88,7 @@ def read_statement(parts, counts):
         if index == most:
             raise BadOperands(index)
         operands.append(_read_operand(operation, index, text))
-    if operation != "" and len(operands) < least:
+    if len(operands) < least:
         raise BadOperands(len(operands))
     return Statement(_or_none(parts.label), _or_none(operation), operands)
 

@@ -3,6 +3,7 @@
 from assembling_helpers import TABLE, ObjectCase, form, lines_of, made, told
 from macroasm.assembling import object_of
 from macroasm.errors import NoName
+from macroasm.objecttexts import read_object
 from macroasm.origins import Origin
 
 
@@ -164,6 +165,8 @@ class Properties(ObjectCase):
             text + "\nb = 1", text + "\ng:",
         ):
             self.assertFalse(one == made(other) or one.is_like(made(other)) or made(other) == one, other)
+        twice = read_object("pieces 2")
+        self.assertFalse(twice == read_object("pieces 1") or twice.is_like(read_object("pieces 1")))
         for value in (None, 5, "main", text, (), [], {}, one["main"], one.sections):
             self.assertFalse(one == value or one.is_like(value))
 

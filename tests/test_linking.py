@@ -108,6 +108,13 @@ class Steps(ObjectCase):
         self.assertEqual(enough("f: jump f\nload 0"), [])
         self.assertEqual(enough("section s\nload 5\nsection main\nload 300\nsection s\nload 256"), [("s", 0, 1), ("s", 1, 2), ("main", 0, 2)])
 
+    def test_the_base_is_0_at_first(self):
+        whole = made("space 255\nf: load f")
+        self.assertEqual(list(steps((whole,), TABLE)), [("main", 1, 1)])
+        self.assertEqual(list(steps((whole,), TABLE, base=1)), [("main", 1, 2)])
+        self.assertIs(explains((whole,), TABLE, (("main", 1, 1),)), True)
+        self.assertIs(explains((whole,), TABLE, (("main", 1, 1),), base=1), False)
+
     def test_what_does_not_fit_in_the_end(self):
         self.assertEqual(enough("load 40000\nhalt\nf: byte f + 300"), [("main", 0, 2)])
         self.assertEqual(enough("f: move 1, 70000\nmove 1, 300"), [("main", 0, 1), ("main", 1, 1)])

@@ -97,6 +97,7 @@ class Refused(ObjectCase):
             ("", 0), ("piece 1", 0), (" pieces 1", 0), ("Pieces 1", 0), ("section main", 0), ("import a", 0), ("pieces", 1), ("pieces ", 1),
             ("pieces 0", 1), ("pieces 01", 1), ("pieces -1", 1), ("pieces +1", 1), ("pieces 1000001", 1), ("pieces one", 1), ("pieces  1", 1),
             ("pieces 1 ", 2), ("pieces 1 1", 2), ("pieces 99999999999999999999999", 1), ("pieces 1.0", 1), ("pieces 1_0", 1), ("pieces 0x1", 1),
+            ("pieces " + "9" * 5000, 1), ("pieces " + "0" * 5000, 1),
         ):
             self.at(1, word, text)
 
@@ -109,6 +110,7 @@ class Refused(ObjectCase):
             self.at(5, word, lines(line, "nothing"))
         self.at(5, 0, lines(""))
         self.at(2, 0, "pieces 1\n")
+        self.at(2, 0, "pieces 1\npieces 1")
 
     def test_without_a_section(self):
         for line in ("data a:1 1", "do a:1 halt", "align a:1 1 0", "space a:1 1 0", "label f main 0", "data", "label"):
@@ -124,7 +126,7 @@ class Refused(ObjectCase):
             ("do a:1 go 1 2 3 4 5", 7), ("do a:1 go 1 2 3 4 x", 7), ("do a:1 go b1:1", 3), ("do a:x go x", 1),
             ("align a:1", 2), ("align a:1 4", 3), ("align a:1 3 0", 2), ("align a:1 0 0", 2), ("align a:1 128 0", 2), ("align a:1 -4 0", 2), ("align a:1 04 0", 2),
             ("align a:1 4 256", 3), ("align a:1 4 -1", 3), ("align a:1 4 0 0", 4), ("align a:1 4 0 ", 4),
-            ("space a:1", 2), ("space a:1 65537 0", 2), ("space a:1 -1 0", 2), ("space a:1 1", 3), ("space a:1 1 x", 3), ("space a:1 1 1 1", 4),
+            ("space a:1", 2), ("space a:1 65537 0", 2), ("space a:1 -1 0", 2), ("space a:1 1", 3), ("space a:1 1 x", 3), ("space a:1 1 -1", 3), ("space a:1 1 256", 3), ("space a:1 1 1 1", 4),
         ):
             self.at(5, word, lines(line, "nothing"))
 
@@ -135,9 +137,11 @@ class Refused(ObjectCase):
             "5+1*", "5+1*f/g", "5+1*f+1*f", "5+1*f+1*e", "5+1*f*g", "5*f", f"{big}", f"-{big}", f"0+{big}*f", f"0-{big}*f", "5+1*f+", "1+1*",
             "0" + "".join([f"+1*f{number:02}" for number in range(17)]), "0+1*" + "f" * 501, "5+1.0*f", "5+_1*f", "1e5",
         ):
-            self.at(5, 3, lines("do a:1 go " + text))
-            self.at(5, 2, lines("data a:1 b1:" + text))
-            self.at(5, 2, lines("equation e " + text))
+            self.at(5, 3, lines("do a:1 go " + text, "import e", "import f"))
+            self.at(5, 2, lines("data a:1 b1:" + text, "import e", "import f"))
+            self.at(5, 2, lines("equation d " + text, "import e", "import f"))
+        for text in ("5+1*e+1*f", "-5-1*e", "0", f"{LIMIT}-{LIMIT}*f"):
+            self.assertEqual(len(read_object(lines("do a:1 go " + text, "import e", "import f"))), 3)
         text = lines("do a:1 go 0" + "".join([f"+1*f{number:02}" for number in range(16)]), *[f"import f{number:02}" for number in range(16)])
         self.assertEqual(object_text(read_object(text)), text)
 
