@@ -13,7 +13,7 @@ JUMP = ("jump", (((4,), ("r1",)), ((5,), ("r4",))))
 HALT = ("halt", (((6,), ()),))
 MOVE = ("move", (((7, 1, 1), (("n", 5), "r1", "u2")), ((7, 1, 2), ("s4", "r2", "u4"))))
 TABLE = Table(LOAD, JUMP, HALT, MOVE)
-WRONG_ROWS = (None, 5, [1], "ab", {}, (256,), (-1,), (1, None), (True,), ("1",), ((1,),), (0,) * 65537)
+WRONG_ROWS = (None, 5, [1], "ab", {}, (256,), (-1,), (1, None), (True,), (0, False), ("1",), ((1,),), (0,) * 65537)
 
 
 class Decoding(Case):
