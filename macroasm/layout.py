@@ -104,13 +104,20 @@ class Layout:
         if not isinstance(order, tuple) or not _is_order(order, many):
             raise BadNumber(order)
         forms = [0] * many
+        for number, form in self._single_growths(order):
+            forms[number] = form
+        return tuple(forms)
+
+    def _single_growths(self, order):
+        """Yield the number and the next form of the first choice in an order that has to grow, until none has to."""
+        forms = [0] * len(self._ground.choosers)
         standing = Standing(self._ground, forms)
         number = standing.first_growing(order)
         while number is not None:
             forms[number] = standing.next_form(number)
+            yield number, forms[number]
             standing = Standing(self._ground, forms)
             number = standing.first_growing(order)
-        return tuple(forms)
 
     def _forms_by_passes(self):
         found = []
@@ -192,16 +199,10 @@ class GrowingLayout(Layout):
 
     def steps_one_by_one(self):
         """Yield triples (section, index, form): each time the first choice that does not fit and has a later form."""
-        forms = [0] * len(self._ground.choosers)
-        order = list(range(len(forms)))
-        standing = Standing(self._ground, forms)
-        number = standing.first_growing(order)
-        while number is not None:
-            forms[number] = standing.next_form(number)
+        order = list(range(len(self._ground.choosers)))
+        for number, form in self._single_growths(order):
             name, index = self._place_of_choice(number)
-            yield name, index, forms[number]
-            standing = Standing(self._ground, forms)
-            number = standing.first_growing(order)
+            yield name, index, form
 
     def is_explained_by(self, rows):
         """Whether a value is a tuple of steps that are enough."""
