@@ -25,7 +25,7 @@ def object_of(lines, table):
 
 
 class Written:
-    """A statement with its origin, the place in which its names are searched, and where its fragment stands."""
+    """A statement with its origin, the place at which its names are searched, and the fragment that it makes."""
 
     def __init__(self, statement, origin, place):
         self.statement = statement

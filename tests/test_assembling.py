@@ -91,7 +91,8 @@ class FullNames(ObjectCase):
 
     def test_forward_names_are_searched_outwards(self):
         whole = made("scope s\nscope t\nbyte x, t.x, s.x\nendscope\nx:\nendscope\nx:\nscope s\nscope t\nx:\nendscope\nendscope")
-        self.has(whole, {"main": [[("b1", (0, ("1!s.t.x", 1))), ("b1", (0, ("1!s.t.x", 1))), ("b1", (0, ("1!s.x", 1)))]]})
+        self.has(whole, {"main": [[("b1", (0, ("1!s.t.x", 1))), ("b1", (0, ("1!s.t.x", 1))), ("b1", (0, ("1!s.x",
+            1)))]]})
 
     def test_exports_and_imports_from_within_scopes(self):
         text = "scope s\nexport s.f, e\nimport q.r, m\nf: byte q.r, m\nendscope\ne = q.r + s.f\nbyte e, q.r"
@@ -99,15 +100,18 @@ class FullNames(ObjectCase):
         self.assertEqual((whole.exports, whole.imports), (("e", "s.f"), ("m", "q.r")))
         self.assertEqual((whole.labels, whole.equations), (("s.f",), ("e",)))
         self.has(whole, {"main": [
-            [("b1", (0, ("q.r", 1))), ("b1", (0, ("m", 1)))], [("b1", (0, ("q.r", 1), ("s.f", 1))), ("b1", (0, ("q.r", 1)))],
+            [("b1", (0, ("q.r", 1))), ("b1", (0, ("m", 1)))],
+            [("b1", (0, ("q.r", 1), ("s.f", 1))), ("b1", (0, ("q.r", 1)))],
         ]})
         self.assertTrue(whole.form_of("e") == form("q.r+s.f"))
-        turned = "\n".join([line for line in text.split("\n") if "port" not in line] + ["import q.r, m", "export s.f, e"])
+        turned = "\n".join([line for line in text.split("\n") if "port" not in line] + ["import q.r, m",
+            "export s.f, e"])
         self.assertTrue(made(turned).is_like(whole))
 
     def test_private_names(self):
         whole = made("x: byte x\n.y:\ne = x - .y\nz@1 = e + 1\nword z@1\nexport x\na:")
-        self.assertEqual((whole.labels, whole.equations, whole.exports), (("1!a", "1!x.y", "x"), ("1!e", "1!z@1"), ("x",)))
+        self.assertEqual((whole.labels, whole.equations, whole.exports),
+            (("1!a", "1!x.y", "x"), ("1!e", "1!z@1"), ("x",)))
         self.assertTrue(whole.form_of("1!e") == form("x-1!x.y") and whole.form_of("1!z@1") == form("x-1!x.y+1"))
         self.has(whole, {"main": [[("b1", (0, ("x", 1)))], [("b2", (1, ("1!x.y", -1), ("x", 1)))]]})
 
@@ -160,7 +164,8 @@ class Properties(ObjectCase):
         self.assertTrue(one.is_like(moved) and moved.is_like(one))
         self.assertFalse(one == moved)
         for other in (
-            text.replace("f, 1", "f, 2"), text.replace("halt", "halt\nhalt"), text.replace("section s", "section t"), text + "\nsection u",
+            text.replace("f, 1", "f, 2"), text.replace("halt", "halt\nhalt"), text.replace("section s", "section t"),
+                text + "\nsection u",
             text.replace("= f", "= f + 1"), text.replace("import z", "import y"), text.replace("export e", "export f"),
             text + "\nb = 1", text + "\ng:",
         ):

@@ -24,7 +24,8 @@ def random_lines(chance, many, moving, aligned):
     lines = []
     for number in range(many):
         name = f"l{chance.randrange(5)}"
-        line = chance.choice((f"jump {name}", f"jump {name}", f"space {chance.choice(GAPS)}", "byte 1", "halt", f"load {chance.choice((0, 5, 300))}"))
+        line = chance.choice((f"jump {name}", f"jump {name}", f"space {chance.choice(GAPS)}", "byte 1", "halt",
+            f"load {chance.choice((0, 5, 300))}"))
         if not moving and chance.random() < 0.3:
             line = chance.choice((f"load {name} - l0", f"move 3, {name} - l1", f"word {name} - l2"))
         if aligned and chance.random() < 0.2:
@@ -59,7 +60,9 @@ class Leastness(ObjectCase):
 
     def choices(self, whole):
         """The places of the choices."""
-        return [(name, index) for name in whole.sections for index in range(len(whole[name])) if hasattr(whole[name][index], "operands")]
+        return [(name,
+            index) for name in whole.sections for index in range(len(whole[name])) if hasattr(whole[name][index],
+                "operands")]
 
     def random_steps(self, chance, whole, base):
         """Steps that are enough, each time a choice by chance, found by trying."""
@@ -71,7 +74,8 @@ class Leastness(ObjectCase):
 
     def possible(self, whole):
         """All rows that name a choice and a form."""
-        return [(name, index, form) for name, index in self.choices(whole) for form in range(1, len(TABLE[whole[name][index].name]))]
+        return [(name, index, form) for name, index in self.choices(whole) for form in range(1,
+            len(TABLE[whole[name][index].name]))]
 
     def counts(self, whole, base, rows):
         """Whether all rows count: with further steps they are enough, or they are so already."""
@@ -92,7 +96,8 @@ class Leastness(ObjectCase):
             opcode, fields = TABLE[choice.name][form]
             end = addresses[place] + self.length(choice.name, form)
             values = [operand(labels) for operand in choice.operands]
-            if all([self.fits(field, value, end, operand.is_plain) for field, value, operand in zip(fields, values, choice.operands)]):
+            if all([self.fits(field, value, end, operand.is_plain) for field, value,
+                operand in zip(fields, values, choice.operands)]):
                 return form
         return many - 1
 
@@ -142,7 +147,8 @@ class Bases(ObjectCase):
     def test_another_base_moves_all_addresses(self):
         chance = random.Random(64)
         for _ in range(60):
-            whole = object_of(lines_of("\n".join(random_lines(chance, 12, chance.random() < 0.5, True)) + "\nlong l0\nexport l0, l1, l2, l3, l4"), TABLE)
+            whole = object_of(lines_of("\n".join(random_lines(chance, 12, chance.random() < 0.5,
+                True)) + "\nlong l0\nexport l0, l1, l2, l3, l4"), TABLE)
             base, more = chance.randrange(100), 64 * chance.randrange(1, 20)
             try:
                 one = link((whole,), TABLE, base=base)
@@ -150,12 +156,15 @@ class Bases(ObjectCase):
                 self.refused(OutOfRange, (cause.section, cause.index), link, (whole,), TABLE, base=base + more)
                 continue
             other = link((whole,), TABLE, base=base + more)
-            self.assertEqual([(row[0], row[1], row[2] + more, row[3]) for row in one.ranges()], [row[:4] for row in other.ranges()])
-            self.assertEqual([one.value(name) + more for name in one.exports], [other.value(name) for name in other.exports])
+            self.assertEqual([(row[0], row[1], row[2] + more, row[3]) for row in one.ranges()],
+                [row[:4] for row in other.ranges()])
+            self.assertEqual([one.value(name) + more for name in one.exports],
+                [other.value(name) for name in other.exports])
             self.assertEqual(one.growths, other.growths)
             for name, index, address, count, _ in one.ranges():
                 if not hasattr(whole[name][index], "contents"):
-                    cells = [[image[at + place] for place in range(count)] for image, at in ((one, address), (other, address + more))]
+                    cells = [[image[at + place] for place in range(count)] for image,
+                        at in ((one, address), (other, address + more))]
                     self.assertEqual(cells[0], cells[1])
 
     def test_data_alone_may_be_out_of_range_then(self):
@@ -189,7 +198,8 @@ class Pieces(ObjectCase):
                 names = [f"p{number}", f"q{number}"]
                 for name in names:
                     used = f"{chance.choice('pqe')}{chance.randrange(3)}"
-                    part.append(f"{name}: " + chance.choice((f"jump {used}", f"word {used} - p0", f"load {used} - q1", "halt")))
+                    part.append(f"{name}: " + chance.choice((f"jump {used}", f"word {used} - p0", f"load {used} - q1",
+                        "halt")))
                     part.append(chance.choice((f"space {chance.choice(GAPS)}", "align 4", "byte 1, 2", "section a")))
                 uses = f"{chance.choice('pq')}{chance.randrange(3)}"
                 part.append(f"e{number} = {chance.randrange(9)} + {uses} - p1" + (f" + e{number + 1}" if number < 2 and chance.random() < 0.5 else ""))
@@ -216,7 +226,8 @@ class Pieces(ObjectCase):
             return 0
         other = link(tuple(objects), TABLE)
         self.assertTrue(image == other)
-        self.assertEqual((image.sections, image.exports, image.listing()), (other.sections, other.exports, other.listing()))
+        self.assertEqual((image.sections, image.exports, image.listing()),
+            (other.sections, other.exports, other.listing()))
         self.assertEqual([row[:4] for row in image.ranges()], [row[:4] for row in other.ranges()])
         self.assertTrue(joined((whole,)).is_like(whole) and joined(tuple(objects)).pieces == 3)
         return 1
@@ -239,7 +250,8 @@ class Sections(ObjectCase):
             lines = []
             for name in "abcde":
                 lines.append(f"section {name}")
-                lines += random.Random(chance.random()).choices(("byte 1", "space 3", "align 8", "align 2, 9", "halt", "space 0"), k=3)
+                lines += random.Random(chance.random()).choices(("byte 1", "space 3", "align 8", "align 2, 9", "halt",
+                    "space 0"), k=3)
             whole = object_of(lines_of("\n".join(lines)), TABLE)
             base = chance.randrange(50)
             image = link((whole,), TABLE, base=base)

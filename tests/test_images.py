@@ -16,19 +16,22 @@ def image(*texts, base=0):
 class Sections(ObjectCase):
     def test_addresses_and_cells(self):
         found = image("byte 1, 2, 3\nsection a\nf: align 4, 9\nbyte 4\nspace 2, 7\nsection empty\nsection b\nhalt\nword f", base=2)
-        self.assertEqual(found.sections, (("main", 2, (1, 2, 3)), ("a", 8, (4, 7, 7)), ("empty", 11, ()), ("b", 11, (8, 8, 0))))
+        self.assertEqual(found.sections, (("main", 2, (1, 2, 3)), ("a", 8, (4, 7, 7)), ("empty", 11, ()), ("b", 11,
+            (8, 8, 0))))
         self.assertEqual((found.base, len(found), found.exports, found.growths), (2, 9, (), ()))
 
     def test_nothing(self):
         found = image("x = 1")
-        self.assertEqual((found.sections, len(found), list(found.ranges()), found.listing(), 0 in found), ((), 0, [], "", False))
+        self.assertEqual((found.sections, len(found), list(found.ranges()), found.listing(), 0 in found),
+            ((), 0, [], "", False))
         found = image("section s", base=5)
         self.assertEqual((found.sections, len(found), found.listing()), ((("s", 5, ()),), 0, "section s 5"))
 
     def test_several_objects(self):
         found = image("byte 1\nsection a\nbyte 2\nf:\nexport f", "section b\nbyte 3, f\nsection a\nbyte 4\nimport f")
         self.assertEqual(found.sections, (("main", 0, (1,)), ("a", 1, (2, 4)), ("b", 3, (3, 2))))
-        self.assertEqual([(name, index, address, count, str(origin)) for name, index, address, count, origin in found.ranges()], [
+        self.assertEqual([(name, index, address, count, str(origin)) for name, index, address, count,
+            origin in found.ranges()], [
             ("main", 0, 0, 1, "t0:1"), ("a", 0, 1, 1, "t0:3"), ("a", 1, 2, 1, "t1:4"), ("b", 0, 3, 2, "t1:2"),
         ])
 
@@ -40,11 +43,14 @@ class Ranges(ObjectCase):
         found = image(self.TEXT, base=6)
         told = list(found.ranges())
         self.assertEqual([row[:4] for row in told], [
-            ("main", 1, 8, 1), ("main", 4, 9, 3), ("main", 5, 12, 2), ("main", 6, 14, 3), ("s", 0, 24, 1), ("s", 1, 25, 7), ("t", 0, 32, 4),
+            ("main", 1, 8, 1), ("main", 4, 9, 3), ("main", 5, 12, 2), ("main", 6, 14, 3), ("s", 0, 24, 1),
+            ("s", 1, 25, 7), ("t", 0, 32, 4),
         ])
         covered = [address + place for _, _, address, count, _ in told for place in range(count)]
-        self.assertEqual(covered, [address + place for _, address, cells in found.sections for place in range(len(cells))])
-        self.assertEqual([found[address] for address in covered], [cell for _, _, cells in found.sections for cell in cells])
+        self.assertEqual(covered, [address + place for _, address,
+            cells in found.sections for place in range(len(cells))])
+        self.assertEqual([found[address] for address in covered],
+            [cell for _, _, cells in found.sections for cell in cells])
         for name, index, address, count, origin in told:
             for place in range(count):
                 self.assertTrue(found.origin_at(address + place) == origin)
@@ -66,14 +72,16 @@ class Ranges(ObjectCase):
         found = image(text)
         self.assertEqual(found.sections, (("main", 0, (8, 7, 1, 2, 7, 1, 2)),))
         one, two = "t0:2<t0:5<t0:12<t0:11", "t0:2<t0:7<t0:6<t0:12<t0:11"
-        self.assertEqual([str(found.origin_at(address)) for address in range(7)], ["t0:10", one, two, two, one, two, two])
+        self.assertEqual([str(found.origin_at(address)) for address in range(7)],
+            ["t0:10", one, two, two, one, two, two])
         self.assertTrue(found.origin_at(2) == found.origin_at(3))
         self.assertEqual([count for _, _, _, count, _ in found.ranges()], [1] * 7)
 
 
 class Values(ObjectCase):
     def test_labels_and_equations(self):
-        found = image("f: byte 1\ng: halt\ne = 2 * g - f + h\nc = -5\nexport f, e, c\nimport h", "section s\nh:\nexport h\nz = h\nexport z", base=16)
+        found = image("f: byte 1\ng: halt\ne = 2 * g - f + h\nc = -5\nexport f, e, c\nimport h",
+            "section s\nh:\nexport h\nz = h\nexport z", base=16)
         self.assertEqual(found.exports, ("c", "e", "f", "h", "z"))
         self.assertEqual([found.value(name) for name in found.exports], [-5, 36, 16, 18, 18])
         for wrong in ("g", "1!g", "x", "s", "", None, 5, True, ("f",), [], {}):
@@ -89,7 +97,8 @@ class Values(ObjectCase):
 
     def test_uses(self):
         text = "f: jump f\nbyte 1, e, f\nmove f - f, g\ng: load e - f + 1\nspace 1\nword d\ne = f + g\nd = 2 * e - g\nexport f, g, e, d"
-        found = image(text, "long f\nimport f, q\nsection s\nword q - f", "import d\nbyte d\nexport q\nq = d - f - f\nimport f", base=4)
+        found = image(text, "long f\nimport f, q\nsection s\nword q - f",
+            "import d\nbyte d\nexport q\nq = d - f - f\nimport f", base=4)
         self.assertEqual([row[2] for row in found.ranges()], [4, 6, 9, 12, 14, 15, 17, 21, 22])
         self.assertEqual(found.uses_of("f"), (4, 6, 15, 17, 21, 22))
         self.assertEqual(found.uses_of("g"), (6, 9, 12, 15, 21, 22))
@@ -108,7 +117,9 @@ class Values(ObjectCase):
         self.assertTrue(one == image(text) and one == image("\n" + text.replace("byte 1", "byte 2 - 1")))
         self.assertTrue(one == image("byte 1\nsection s\nhalt\nf = 0\nexport f"))
         self.assertTrue(one == image("f: byte 1\nsection s\nexport f", "section s\nhalt"))
-        for other in (text.replace("byte 1", "byte 2"), text.replace("section s", "section t"), text.replace("export f", ""), text + "\nsection u", text.replace("f: byte 1", "byte 1\nf:"), text + "\ng:\nexport g"):
+        for other in (text.replace("byte 1", "byte 2"), text.replace("section s", "section t"),
+            text.replace("export f", ""), text + "\nsection u", text.replace("f: byte 1", "byte 1\nf:"),
+                text + "\ng:\nexport g"):
             self.assertFalse(one == image(other))
         self.assertFalse(one == image(text, base=1))
         for value in (None, 5, one.sections, one.listing(), (), [], {}, made(text)):
@@ -128,18 +139,21 @@ class Growths(ObjectCase):
         text = "jump far\nspace 124\nnear: jump far2\nload 0\nfar: section s\na: jump near\nspace 127\nfar2: move 300, 1\nload -1"
         found = image(text, base=64)
         self.assertEqual(found.growths, (
-            (1, "main", 2, 0, 1, 0, 130), (1, "s", 2, 0, 1, 0, 300), (1, "s", 3, 0, 2, 0, -1), (2, "main", 0, 0, 1, 0, 130),
+            (1, "main", 2, 0, 1, 0, 130), (1, "s", 2, 0, 1, 0, 300), (1, "s", 3, 0, 2, 0, -1),
+            (2, "main", 0, 0, 1, 0, 130),
         ))
 
     def test_a_chain_of_passes(self):
         found = image("jump b\nspace 124\njump c\nb: space 123\njump d\nc: space 128\nd:")
-        self.assertEqual(found.growths, ((1, "main", 4, 0, 1, 0, 128), (2, "main", 2, 0, 1, 0, 128), (3, "main", 0, 0, 1, 0, 129)))
+        self.assertEqual(found.growths, ((1, "main", 4, 0, 1, 0, 128), (2, "main", 2, 0, 1, 0, 128), (3, "main", 0, 0,
+            1, 0, 129)))
         found = image("f: space 127\njump f\nmove 1, f", base=129)
         self.assertEqual(found.growths, ((1, "main", 1, 0, 1, 0, -129),))
 
     def test_the_first_operand_that_does_not_fit(self):
         found = image("f: space 256\ng: move 255, g\nmove 300, g\nmove g, 1")
-        self.assertEqual(found.growths, ((1, "main", 1, 0, 1, 1, 256), (1, "main", 2, 0, 1, 0, 300), (1, "main", 3, 0, 1, 0, 256)))
+        self.assertEqual(found.growths, ((1, "main", 1, 0, 1, 1, 256), (1, "main", 2, 0, 1, 0, 300), (1, "main", 3, 0,
+            1, 0, 256)))
 
     def test_numbers_and_labels(self):
         found = image("f: load f\nload g - g\ng:", base=0)
@@ -159,4 +173,5 @@ class Listings(ObjectCase):
         self.assertEqual(image(text, base=5).listing(), "\n".join([
             "section e 5", "section a 5", "5: 1 ; t0:4<t0:3", "6: 1 ; t0:4<t0:3", "7: 8 ; t0:10", "section main 8",
         ]))
-        self.assertEqual(image("byte 1\nalign 4, 3\ntext \"ab\"").listing(), "section main 0\n0: 1 ; t0:1\n1: 3 3 3 ; t0:2\n4: 97 98 ; t0:3")
+        self.assertEqual(image("byte 1\nalign 4, 3\ntext \"ab\"").listing(),
+            "section main 0\n0: 1 ; t0:1\n1: 3 3 3 ; t0:2\n4: 97 98 ; t0:3")

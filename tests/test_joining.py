@@ -32,7 +32,8 @@ class Joined(ObjectCase):
             "t": [[("b1", (0, ("2!x", 1)))]],
         })
         self.assertEqual((whole.pieces, len(whole)), (2, 6))
-        self.assertEqual((whole.labels, whole.exports, whole.imports), (("1!a", "2!a", "2!b", "2!x", "f", "g"), ("f", "g"), ("h",)))
+        self.assertEqual((whole.labels, whole.exports, whole.imports),
+            (("1!a", "2!a", "2!b", "2!x", "f", "g"), ("f", "g"), ("h",)))
         places = [whole.place_of(name) for name in whole.labels]
         self.assertEqual(places, [("s", 1), ("s", 2), ("main", 1), ("t", 0), ("main", 0), ("s", 1)])
         self.assertEqual([str(one) for one in whole.origins_of("s")], ["t0:3", "t1:4", "t1:5"])
@@ -55,7 +56,8 @@ class Joined(ObjectCase):
         self.assertTrue(right.form_of("e") == form("1!a"))
 
     def test_sections_by_their_first_mention(self):
-        whole = joined(pieces("section b\nsection c\nhalt", "section a\nsection c\nbyte 1\nsection main", "byte 2\nsection b\nbyte 3"))
+        whole = joined(pieces("section b\nsection c\nhalt", "section a\nsection c\nbyte 1\nsection main",
+            "byte 2\nsection b\nbyte 3"))
         self.has(whole, {"b": [[3]], "c": [("halt",), [1]], "a": [], "main": [[2]]})
 
 
@@ -80,10 +82,12 @@ class Imports(ObjectCase):
         self.has(whole, {"main": [[("b1", (300,)), ("b1", (0,))]]})
 
     def test_through_several_objects(self):
-        texts = ("import e\nlong e", "import d\nexport e\ne = 2 * d + 1", "import c\nexport d\nd = c - 3", "export c\nc: halt", "import q, e\nbyte q - e")
+        texts = ("import e\nlong e", "import d\nexport e\ne = 2 * d + 1", "import c\nexport d\nd = c - 3",
+            "export c\nc: halt", "import q, e\nbyte q - e")
         for order in itertools.permutations(range(5)):
             whole = joined(pieces(*[texts[number] for number in order]))
-            self.assertEqual((whole.imports, told(whole.form_of("e")), told(whole.form_of("d"))), (("q",), (-5, ("c", 2)), (-3, ("c", 1))))
+            self.assertEqual((whole.imports, told(whole.form_of("e")), told(whole.form_of("d"))),
+                (("q",), (-5, ("c", 2)), (-3, ("c", 1))))
             first = [fragments for fragments in whole["main"].fragments if isinstance(fragments, Data)]
             forms = sorted([told(data.contents[0][1]) for data in first])
             self.assertEqual(forms, [(-5, ("c", 2)), (5, ("c", -2), ("q", 1))])
@@ -111,7 +115,8 @@ class Refused(ObjectCase):
         self.assertEqual(joined((one, three)).exports, ("a", "b", "z"))
 
     def test_rings(self):
-        texts = ("import d, f\nexport e\ne = d + 1\nx = 1", "import e\nexport d\nd = 2 * e", "import f2\nexport f\nf = f2", "import f\nexport f2\nf2 = f")
+        texts = ("import d, f\nexport e\ne = d + 1\nx = 1", "import e\nexport d\nd = 2 * e",
+            "import f2\nexport f\nf = f2", "import f\nexport f2\nf2 = f")
         self.refused(Cycle, (("d", "e"),), joined, pieces(*texts))
         self.refused(Cycle, (("f", "f2"),), joined, pieces(*texts[2:]))
         self.refused(Taken, ("x",), joined, pieces(*texts, "x:\nexport x", "x:\nexport x"))
@@ -119,7 +124,8 @@ class Refused(ObjectCase):
     def test_rings_by_forms(self):
         whole = joined(pieces("import d\nexport e\ne = d - d + 4", "import e\nexport d\nd = e"))
         self.assertEqual((told(whole.form_of("d")), told(whole.form_of("e"))), ((4,), (4,)))
-        self.refused(Cycle, (("d1", "e"),), joined, pieces("import d1, d2\nexport e\ne = d1 - d2", "import e\nexport d1, d2\nd1 = e\nd2 = e"))
+        self.refused(Cycle, (("d1", "e"),), joined, pieces("import d1, d2\nexport e\ne = d1 - d2",
+            "import e\nexport d1, d2\nd1 = e\nd2 = e"))
 
     def test_forms(self):
         big = f"export e\ne = {LIMIT}"
@@ -135,8 +141,10 @@ class Refused(ObjectCase):
         half = Object(500000, [], {}, {}, ())
         self.assertEqual(joined((half, half)).pieces, 1000000)
         self.refused(TooLarge, (1000000,), joined, (half, half, made("halt")))
-        self.refused(Cycle, (("a", "b"),), joined, (half, half, *pieces("import a\nexport b\nb = a", "import b\nexport a\na = b")))
-        self.refused(TooLarge, (LIMIT,), joined, (half, half, *pieces("import e\nbyte e + 1", f"export e\ne = {LIMIT}")))
+        self.refused(Cycle, (("a", "b"),), joined, (half, half, *pieces("import a\nexport b\nb = a",
+            "import b\nexport a\na = b")))
+        self.refused(TooLarge, (LIMIT,), joined, (half, half, *pieces("import e\nbyte e + 1",
+            f"export e\ne = {LIMIT}")))
         last = joined((Object(999999, [], {}, {}, ()), made("a: byte a")))
         self.assertEqual(last.labels, ("1000000!a",))
 
@@ -152,7 +160,8 @@ class Neighbors(ObjectCase):
             for number in range(4):
                 own = shuffled[number]
                 others = [name for name in names if name != own]
-                lines = [f"import {', '.join(others)}", f"export {own}", f"section {chance.choice('xyz')}", f"p: byte p, {chance.choice(others)}"]
+                lines = [f"import {', '.join(others)}", f"export {own}", f"section {chance.choice('xyz')}",
+                    f"p: byte p, {chance.choice(others)}"]
                 later = [name for name in names if name > own]
                 is_label = not later or chance.random() < 0.4
                 lines.append(f"{own}:" if is_label else f"{own} = {chance.choice(later)} * 3 - p")
@@ -162,7 +171,8 @@ class Neighbors(ObjectCase):
             whole = joined(tuple(objects))
             for other in (
                 (joined((one, two)), three, four), (one, joined((two, three)), four), (one, two, joined((three, four))),
-                (joined((one, two)), joined((three, four))), (joined((joined((one, two, three)), four)),), (one, joined((two, three, four))),
+                (joined((one, two)), joined((three, four))), (joined((joined((one, two, three)), four)),),
+                (one, joined((two, three, four))),
             ):
                 self.assertTrue(joined(other) == whole)
             self.assertEqual(whole.pieces, 4)

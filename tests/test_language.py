@@ -289,7 +289,8 @@ class Iterating(unittest.TestCase):
                 self.assertTrue(is_iterated(node, self.around), (name, node.lineno))
 
     def test_generators_are_iterated_at_once(self):
-        found = [node for _, node in functions() if any(isinstance(part, (ast.Yield, ast.YieldFrom)) for part in ast.walk(node))]
+        found = [node for _, node in functions() if any(isinstance(part, (ast.Yield,
+            ast.YieldFrom)) for part in ast.walk(node))]
         names = [node.name for node in found]
         for name, node in nodes(ast.Call):
             if called(node) in names:
@@ -323,7 +324,8 @@ class Iterating(unittest.TestCase):
 
     def test_what_lies_at_module_level_is_only_read(self):
         for name, tree in TREES.items():
-            told = [node.targets[0].id for node in tree.body if isinstance(node, ast.Assign) and isinstance(node.value, (ast.List, ast.Dict))]
+            told = [node.targets[0].id for node in tree.body if isinstance(node,
+                ast.Assign) and isinstance(node.value, (ast.List, ast.Dict))]
             for node in ast.walk(tree):
                 if isinstance(node, ast.Name) and node.id in told and isinstance(node.ctx, ast.Load):
                     outer = self.around[id(node)]

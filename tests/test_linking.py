@@ -3,7 +3,8 @@
 from assembling_helpers import TABLE, ObjectCase, made
 from macroasm.assembling import object_of
 from macroasm.errors import (
-    BadBlock, BadName, BadNumber, BadObject, BadOperands, Cycle, NoInstruction, NoName, OutOfRange, Taken, TooLarge, Trouble,
+    BadBlock, BadName, BadNumber, BadObject, BadOperands, Cycle, NoInstruction, NoName, OutOfRange, Taken, TooLarge,
+        Trouble,
     Unresolved,
 )
 from macroasm.expanding import expanded
@@ -24,7 +25,8 @@ class Assembled(ObjectCase):
         whole = assembled(text, TABLE, name="here")
         self.assertTrue(whole == object_of(expanded(text, source="here"), TABLE))
         self.assertEqual(whole.labels, ("1!x@1", "1!x@2", "1!x@3", "f"))
-        self.assertEqual([str(one) for one in whole.origins_of("main")][:3], ["here:2<here:5", "here:3<here:5", "here:2<here:7<here:6"])
+        self.assertEqual([str(one) for one in whole.origins_of("main")][:3],
+            ["here:2<here:5", "here:3<here:5", "here:2<here:7<here:6"])
         self.assertEqual(str(assembled("halt", TABLE).origins_of("main")[0]), "main:1")
         self.assertTrue(assembled("f: halt\nbyte f", TABLE) == made("f: halt\nbyte f"))
 
@@ -36,7 +38,8 @@ class Assembled(ObjectCase):
         self.refused(BadBlock, (2,), assembled, "halt\nendif", TABLE)
         for text, origin, error in (
             ("macro m p\nbyte $p\nendmacro\nq\nm", "here:5", BadOperands), ("q\nset a = x", "here:2", NoName),
-            ("repeat 2\nq\nendrepeat", "here:2<here:1", NoInstruction), ("macro m\nbyte 1,\nendmacro\n\nm", "here:2<here:5", BadOperands),
+            ("repeat 2\nq\nendrepeat", "here:2<here:1", NoInstruction),
+            ("macro m\nbyte 1,\nendmacro\n\nm", "here:2<here:5", BadOperands),
             ("halt\nbyte x", "here:2", NoName),
         ):
             with self.assertRaises(Trouble) as caught:
@@ -59,7 +62,8 @@ class Linked(ObjectCase):
         whole = made("f: jump f\ng: halt\nexport g")
         for base in (0, 1, 255, 2 ** 32):
             found = link((whole,), TABLE, base=base)
-            self.assertEqual((found.base, found.sections, found.value("g")), (base, (("main", base, (1, 254, 8)),), base + 2))
+            self.assertEqual((found.base, found.sections, found.value("g")),
+                (base, (("main", base, (1, 254, 8)),), base + 2))
         self.assertEqual(link((whole,), TABLE).base, 0)
         for wrong in (-1, 2 ** 32 + 1, None, True, "0", (), []):
             self.refused(BadNumber, (wrong,), link, (whole,), TABLE, base=wrong)
@@ -106,7 +110,8 @@ class Steps(ObjectCase):
         found = enough(FAR)
         self.assertEqual(found, [("main", 4, 1), ("main", 2, 1), ("main", 0, 1), ("main", 6, 2), ("main", 7, 2)])
         self.assertEqual(enough("f: jump f\nload 0"), [])
-        self.assertEqual(enough("section s\nload 5\nsection main\nload 300\nsection s\nload 256"), [("s", 0, 1), ("s", 1, 2), ("main", 0, 2)])
+        self.assertEqual(enough("section s\nload 5\nsection main\nload 300\nsection s\nload 256"),
+            [("s", 0, 1), ("s", 1, 2), ("main", 0, 2)])
 
     def test_the_base_is_0_at_first(self):
         whole = made("space 255\nf: load f")
@@ -130,10 +135,14 @@ class Steps(ObjectCase):
         whole = made(FAR)
         rows = tuple(enough(FAR))
         for wrong in (
-            (), rows[:4], rows[1:], (*rows, rows[0]), (*rows, ("main", 1, 1)), (*rows, ("main", 6, 2)), (rows[1], rows[0], *rows[2:]),
-            (("main", 4, 0), *rows), (*rows[:3], ("main", 6, 1), *rows[3:]), (*rows[:4], ("main", 7, 3)), (*rows[:4], ("s", 7, 2)),
-            (*rows[:4], ("main", 7, 2, 0)), (*rows[:4], ("main", 7)), (*rows[:4], ["main", 7, 2]), (*rows[:4], (None, 7, 2)), (*rows[:4], ("main", "7", 2)),
-            (*rows[:4], ("main", 7, None)), (*rows[:4], None), (*rows[:4], (["main"], 7, 2)), (*rows[:4], ("main", [7], 2)), (*rows[:4], ("main", 9, 2)),
+            (), rows[:4], rows[1:], (*rows, rows[0]), (*rows, ("main", 1, 1)), (*rows, ("main", 6, 2)),
+            (rows[1], rows[0], *rows[2:]),
+            (("main", 4, 0), *rows), (*rows[:3], ("main", 6, 1), *rows[3:]), (*rows[:4], ("main", 7, 3)),
+            (*rows[:4], ("s", 7, 2)),
+            (*rows[:4], ("main", 7, 2, 0)), (*rows[:4], ("main", 7)), (*rows[:4], ["main", 7, 2]),
+            (*rows[:4], (None, 7, 2)), (*rows[:4], ("main", "7", 2)),
+            (*rows[:4], ("main", 7, None)), (*rows[:4], None), (*rows[:4], (["main"], 7, 2)),
+            (*rows[:4], ("main", [7], 2)), (*rows[:4], ("main", 9, 2)),
             (("main", 4, True), *rows[1:]), (*rows[:2], ("main", False, 1), *rows[3:]), (*rows[:4], ("main", -1, 2)),
             list(rows), None, 5, True, "", {}, [], rows[0],
         ):
@@ -155,7 +164,8 @@ class Steps(ObjectCase):
         self.assertIs(explains((made("jump 500"),), Table(("jump", (((1,), ("u1",)),))), ()), True)
 
     def test_several_objects_and_bases(self):
-        objects = (made("import f\nload f\nload e\nimport e"), made("section s\nload 256\nf:\ne = f + 100\nexport f, e"))
+        objects = (made("import f\nload f\nload e\nimport e"),
+            made("section s\nload 256\nf:\ne = f + 100\nexport f, e"))
         self.assertEqual(list(steps(objects, TABLE)), [("main", 0, 1), ("main", 1, 1), ("s", 0, 2)])
         self.assertEqual(list(steps(objects, TABLE, base=200)), [("main", 0, 1), ("main", 1, 2), ("s", 0, 2)])
         self.assertIs(explains(objects, TABLE, (("main", 0, 1), ("main", 1, 2), ("s", 0, 2)), base=200), True)

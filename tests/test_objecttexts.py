@@ -7,9 +7,12 @@ from macroasm.objects import joined
 from macroasm.objecttexts import object_text, read_object
 
 WHOLE = "\n".join([
-    "pieces 3", "section main", "data a:1 1 255 b1:-4+1*1!a-2*x 0", "data a:2<b:100000", "do a:3 jump 0+1*f", "do a:4 halt",
-    "do a:5 move 5 -18446744073709551616", "section byte", "align c:7 64 255", "space c:8 65536 0", "data c:9 b2:0 b4:1+18446744073709551616*f",
-    "section empty", "label 1!a main 0", "label 2!s.t@12.f.x byte 3", "label 3!x@1 main 5", "label f empty 0", "label g.h main 2",
+    "pieces 3", "section main", "data a:1 1 255 b1:-4+1*1!a-2*x 0", "data a:2<b:100000", "do a:3 jump 0+1*f",
+    "do a:4 halt",
+    "do a:5 move 5 -18446744073709551616", "section byte", "align c:7 64 255", "space c:8 65536 0",
+    "data c:9 b2:0 b4:1+18446744073709551616*f",
+    "section empty", "label 1!a main 0", "label 2!s.t@12.f.x byte 3", "label 3!x@1 main 5", "label f empty 0",
+    "label g.h main 2",
     "equation 1!e -7", "equation d 0-1*1!a+3*x", "import x", "import y.z",
 ])
 
@@ -23,8 +26,10 @@ class Written(ObjectCase):
     def test_each_kind_of_line(self):
         one = made("f: byte 1, f, 255\nsection s\n.x: jump f - f.x + g\nhalt\nalign 4, 7\nspace 9\ne = f - 4\nexport f, e\nimport g, b\nd = 2\ntext \"\"", "a")
         self.assertEqual(object_text(one), "\n".join([
-            "pieces 1", "section main", "data a:1 1 b1:0+1*f 255", "section s", "do a:3 jump 0-1*1!f.x+1*f+1*g", "do a:4 halt",
-            "align a:5 4 7", "space a:6 9 0", "data a:11", "label 1!f.x s 0", "label f main 0", "equation 1!d 2", "equation e -4+1*f",
+            "pieces 1", "section main", "data a:1 1 b1:0+1*f 255", "section s", "do a:3 jump 0-1*1!f.x+1*f+1*g",
+            "do a:4 halt",
+            "align a:5 4 7", "space a:6 9 0", "data a:11", "label 1!f.x s 0", "label f main 0", "equation 1!d 2",
+            "equation e -4+1*f",
             "import b", "import g",
         ]))
 
@@ -50,26 +55,31 @@ class Read(ObjectCase):
         whole = read_object(WHOLE)
         self.has(whole, {
             "main": [
-                [1, 255, ("b1", (-4, ("1!a", 1), ("x", -2))), 0], [], ("jump", (0, ("f", 1))), ("halt",), ("move", (5,), (-LIMIT,)),
+                [1, 255, ("b1", (-4, ("1!a", 1), ("x", -2))), 0], [], ("jump", (0, ("f", 1))), ("halt",),
+                ("move", (5,), (-LIMIT,)),
             ],
             "byte": [("align", 64, 255), ("space", 65536, 0), [("b2", (0,)), ("b4", (1, ("f", LIMIT)))]],
             "empty": [],
         })
         self.assertEqual((whole.pieces, whole.labels), (3, ("1!a", "2!s.t@12.f.x", "3!x@1", "f", "g.h")))
-        self.assertEqual((whole.equations, whole.exports, whole.imports), (("1!e", "d"), ("d", "f", "g.h"), ("x", "y.z")))
+        self.assertEqual((whole.equations, whole.exports, whole.imports),
+            (("1!e", "d"), ("d", "f", "g.h"), ("x", "y.z")))
         self.assertEqual((whole.place_of("g.h"), whole.place_of("2!s.t@12.f.x")), (("main", 2), ("byte", 3)))
         self.assertTrue(whole.form_of("d") == form("3*x-1!a"))
         self.assertEqual([str(one) for one in whole.origins_of("main")][:2], ["a:1", "a:2<b:100000"])
 
     def test_written_again(self):
         self.assertEqual(object_text(read_object(WHOLE)), WHOLE)
-        for text in ("x = 1", "section s\nf: jump f\ntext \"a b\\n\"\ne = 2 * f\nexport e\nimport q\nlong q, f - q", "scope s\nf: byte f\n.x: endscope\nword s.f.x"):
+        for text in ("x = 1", "section s\nf: jump f\ntext \"a b\\n\"\ne = 2 * f\nexport e\nimport q\nlong q, f - q",
+            "scope s\nf: byte f\n.x: endscope\nword s.f.x"):
             one = made(text)
             self.assertTrue(read_object(object_text(one)) == one)
-            self.assertTrue(joined((made("a: byte a"), read_object(object_text(one)))) == joined((made("a: byte a"), one)))
+            self.assertTrue(joined((made("a: byte a"), read_object(object_text(one)))) == joined((made("a: byte a"),
+                one)))
 
     def test_least_ones(self):
-        for text in ("pieces 1", "pieces 1000000", "pieces 1\nequation e 5", "pieces 1\nimport a", "pieces 7\nsection a\nsection b\nlabel 7!a b 0"):
+        for text in ("pieces 1", "pieces 1000000", "pieces 1\nequation e 5", "pieces 1\nimport a",
+            "pieces 7\nsection a\nsection b\nlabel 7!a b 0"):
             self.assertEqual(object_text(read_object(text)), text)
 
 
@@ -94,17 +104,22 @@ class Refused(ObjectCase):
 
     def test_pieces(self):
         for text, word in (
-            ("", 0), ("piece 1", 0), (" pieces 1", 0), ("Pieces 1", 0), ("section main", 0), ("import a", 0), ("pieces", 1), ("pieces ", 1),
-            ("pieces 0", 1), ("pieces 01", 1), ("pieces -1", 1), ("pieces +1", 1), ("pieces 1000001", 1), ("pieces one", 1), ("pieces  1", 1),
-            ("pieces 1 ", 2), ("pieces 1 1", 2), ("pieces 99999999999999999999999", 1), ("pieces 1.0", 1), ("pieces 1_0", 1), ("pieces 0x1", 1),
+            ("", 0), ("piece 1", 0), (" pieces 1", 0), ("Pieces 1", 0), ("section main", 0), ("import a", 0),
+            ("pieces", 1), ("pieces ", 1),
+            ("pieces 0", 1), ("pieces 01", 1), ("pieces -1", 1), ("pieces +1", 1), ("pieces 1000001", 1),
+            ("pieces one", 1), ("pieces  1", 1),
+            ("pieces 1 ", 2), ("pieces 1 1", 2), ("pieces 99999999999999999999999", 1), ("pieces 1.0", 1),
+            ("pieces 1_0", 1), ("pieces 0x1", 1),
             ("pieces " + "9" * 5000, 1), ("pieces " + "0" * 5000, 1),
         ):
             self.at(1, word, text)
 
     def test_lines(self):
         for line, word in (
-            ("", 0), (" ", 0), ("pieces 2", 0), ("sections a", 0), ("halt", 0), (" section a", 0), ("section", 1), ("section ", 1),
-            ("section 1a", 1), ("section a.b", 1), ("section a@1", 1), ("section main", 1), ("section a b", 2), ("section a ", 2), ("section  a", 1),
+            ("", 0), (" ", 0), ("pieces 2", 0), ("sections a", 0), ("halt", 0), (" section a", 0), ("section", 1),
+            ("section ", 1),
+            ("section 1a", 1), ("section a.b", 1), ("section a@1", 1), ("section main", 1), ("section a b", 2),
+            ("section a ", 2), ("section  a", 1),
             ("section " + "a" * 41, 1),
         ):
             self.at(5, word, lines(line, "nothing"))
@@ -118,23 +133,31 @@ class Refused(ObjectCase):
 
     def test_fragments(self):
         for line, word in (
-            ("data", 1), ("data ", 1), ("data a", 1), ("data a:0", 1), ("data a:01", 1), ("data a:1<", 1), ("data a:100001", 1), ("data 1:1", 1),
-            ("data " + "<".join(["a:1"] * 201), 1), ("data a:1 ", 2), ("data a:1 256", 2), ("data a:1 -1", 2), ("data a:1 00", 2), ("data a:1 -0", 2),
-            ("data a:1 1 2 x", 4), ("data a:1 b3:1", 2), ("data a:1 b1:", 2), ("data a:1 b1", 2), ("data a:1 :1", 2), ("data a:1 u1:1", 2), ("data a:1  1", 2),
+            ("data", 1), ("data ", 1), ("data a", 1), ("data a:0", 1), ("data a:01", 1), ("data a:1<", 1),
+            ("data a:100001", 1), ("data 1:1", 1),
+            ("data " + "<".join(["a:1"] * 201), 1), ("data a:1 ", 2), ("data a:1 256", 2), ("data a:1 -1", 2),
+            ("data a:1 00", 2), ("data a:1 -0", 2),
+            ("data a:1 1 2 x", 4), ("data a:1 b3:1", 2), ("data a:1 b1:", 2), ("data a:1 b1", 2), ("data a:1 :1", 2),
+            ("data a:1 u1:1", 2), ("data a:1  1", 2),
             ("data a:1 b1:01", 2), ("data a:1 B1:1", 2), ("data a:1 b1:1:2", 2),
-            ("do", 1), ("do a:1", 2), ("do a:1 ", 2), ("do a:1 1a", 2), ("do a:1 a.b", 2), ("do a:1 byte", 2), ("do a:1 go ", 3), ("do a:1 go 1 x", 4),
+            ("do", 1), ("do a:1", 2), ("do a:1 ", 2), ("do a:1 1a", 2), ("do a:1 a.b", 2), ("do a:1 byte", 2),
+            ("do a:1 go ", 3), ("do a:1 go 1 x", 4),
             ("do a:1 go 1 2 3 4 5", 7), ("do a:1 go 1 2 3 4 x", 7), ("do a:1 go b1:1", 3), ("do a:x go x", 1),
-            ("align a:1", 2), ("align a:1 4", 3), ("align a:1 3 0", 2), ("align a:1 0 0", 2), ("align a:1 128 0", 2), ("align a:1 -4 0", 2), ("align a:1 04 0", 2),
+            ("align a:1", 2), ("align a:1 4", 3), ("align a:1 3 0", 2), ("align a:1 0 0", 2), ("align a:1 128 0", 2),
+            ("align a:1 -4 0", 2), ("align a:1 04 0", 2),
             ("align a:1 4 256", 3), ("align a:1 4 -1", 3), ("align a:1 4 0 0", 4), ("align a:1 4 0 ", 4),
-            ("space a:1", 2), ("space a:1 65537 0", 2), ("space a:1 -1 0", 2), ("space a:1 1", 3), ("space a:1 1 x", 3), ("space a:1 1 -1", 3), ("space a:1 1 256", 3), ("space a:1 1 1 1", 4),
+            ("space a:1", 2), ("space a:1 65537 0", 2), ("space a:1 -1 0", 2), ("space a:1 1", 3),
+            ("space a:1 1 x", 3), ("space a:1 1 -1", 3), ("space a:1 1 256", 3), ("space a:1 1 1 1", 4),
         ):
             self.at(5, word, lines(line, "nothing"))
 
     def test_forms(self):
         big = LIMIT + 1
         for text in (
-            "", "x", "+5", "--5", "5x", "05", "-05", "-0", "5+", "5-", "5+x", "5+x*1", "5+*x", "5+0*f", "5-0*f", "5+01*f", "5+-1*f", "5--1*f", "5++1*f",
-            "5+1*", "5+1*f/g", "5+1*f+1*f", "5+1*f+1*e", "5+1*f*g", "5*f", f"{big}", f"-{big}", f"0+{big}*f", f"0-{big}*f", "5+1*f+", "1+1*",
+            "", "x", "+5", "--5", "5x", "05", "-05", "-0", "5+", "5-", "5+x", "5+x*1", "5+*x", "5+0*f", "5-0*f",
+            "5+01*f", "5+-1*f", "5--1*f", "5++1*f",
+            "5+1*", "5+1*f/g", "5+1*f+1*f", "5+1*f+1*e", "5+1*f*g", "5*f", f"{big}", f"-{big}", f"0+{big}*f",
+            f"0-{big}*f", "5+1*f+", "1+1*",
             "0" + "".join([f"+1*f{number:02}" for number in range(17)]), "0+1*" + "f" * 501, "5+1.0*f", "5+_1*f", "1e5",
         ):
             self.at(5, 3, lines("do a:1 go " + text, "import e", "import f"))
@@ -142,14 +165,18 @@ class Refused(ObjectCase):
             self.at(5, 2, lines("equation d " + text, "import e", "import f"))
         for text in ("5+1*e+1*f", "-5-1*e", "0", f"{LIMIT}-{LIMIT}*f"):
             self.assertEqual(len(read_object(lines("do a:1 go " + text, "import e", "import f"))), 3)
-        text = lines("do a:1 go 0" + "".join([f"+1*f{number:02}" for number in range(16)]), *[f"import f{number:02}" for number in range(16)])
+        text = lines("do a:1 go 0" + "".join([f"+1*f{number:02}" for number in range(16)]),
+            *[f"import f{number:02}" for number in range(16)])
         self.assertEqual(object_text(read_object(text)), text)
 
     def test_labels(self):
         for line, word in (
-            ("label", 1), ("label ", 1), ("label f", 2), ("label f ", 2), ("label f s", 2), ("label f main", 3), ("label f main ", 3), ("label f main 3", 3),
-            ("label f main -1", 3), ("label f main 00", 3), ("label f main x", 3), ("label f main 2 0", 4), ("label f main 2 ", 4), ("label f 0 0", 2),
-            ("equation", 1), ("equation e", 2), ("equation e ", 2), ("equation e 5 5", 3), ("equation e main 5", 2), ("import", 1), ("import ", 1), ("import a b", 2),
+            ("label", 1), ("label ", 1), ("label f", 2), ("label f ", 2), ("label f s", 2), ("label f main", 3),
+            ("label f main ", 3), ("label f main 3", 3),
+            ("label f main -1", 3), ("label f main 00", 3), ("label f main x", 3), ("label f main 2 0", 4),
+            ("label f main 2 ", 4), ("label f 0 0", 2),
+            ("equation", 1), ("equation e", 2), ("equation e ", 2), ("equation e 5 5", 3), ("equation e main 5", 2),
+            ("import", 1), ("import ", 1), ("import a b", 2),
         ):
             self.at(5, word, lines(line, "nothing"))
         for index in range(3):
@@ -158,8 +185,10 @@ class Refused(ObjectCase):
     def test_names(self):
         full = "a.b.c.d.e.f.g.h"
         for name in (
-            "", "1", ".x", "f.", "f..g", "f@1", "a.f@1", "a@1.f", "byte", "a.byte", "byte.a", "mod", "1!", "!f", "0!f", "01!f", "3!f", "-1!f", "x!f", "1!1!f",
-            "1!byte", "1!a.set", "1!.x", "1!f@0", "1!f@", "1!f@1234567890", "1!" + "a" * 41, full + ".i", "1!" + full + ".i.j.k", "1!" + full + ".i.j@1", "1!" + full + ".i@1.j",
+            "", "1", ".x", "f.", "f..g", "f@1", "a.f@1", "a@1.f", "byte", "a.byte", "byte.a", "mod", "1!", "!f",
+            "0!f", "01!f", "3!f", "-1!f", "x!f", "1!1!f",
+            "1!byte", "1!a.set", "1!.x", "1!f@0", "1!f@", "1!f@1234567890", "1!" + "a" * 41, full + ".i",
+            "1!" + full + ".i.j.k", "1!" + full + ".i.j@1", "1!" + full + ".i@1.j",
             "2!1", "f!", "f!1", "@f", "a+b",
         ):
             self.at(5, 1, lines(f"label {name} main 0"))
@@ -167,7 +196,8 @@ class Refused(ObjectCase):
                 self.at(5, 1, lines(f"equation {name} 0"))
         for name in ("1!f", "2!f", "", "f@1", "a@1.f", "byte", "a.byte", ".x", full + ".i", "1"):
             self.at(5, 1, lines(f"import {name}"))
-        for name in (full, "1!" + full + ".i", "2!" + full + ".i.j", "1!a@1.f@2", "2!byte@3", "bytes", "1!" + full + ".i@1", "a" * 40, "1!a@123456789.f.x"):
+        for name in (full, "1!" + full + ".i", "2!" + full + ".i.j", "1!a@1.f@2", "2!byte@3", "bytes",
+            "1!" + full + ".i@1", "a" * 40, "1!a@123456789.f.x"):
             self.assertEqual(read_object(lines(f"label {name} main 0")).labels, (name,))
         self.assertEqual(read_object(lines(f"import {full}")).imports, (full,))
 
@@ -180,7 +210,8 @@ class Refused(ObjectCase):
         self.at(6, 0, lines("import f", "equation g 0"))
 
     def test_order_of_names(self):
-        for one, other in (("f", "f"), ("g", "f"), ("f", "2!f"), ("1!f", "1!f"), ("1!g", "1!f"), ("f", "F"), ("f.a", "f"), ("2!f", "1!g")):
+        for one, other in (("f", "f"), ("g", "f"), ("f", "2!f"), ("1!f", "1!f"), ("1!g", "1!f"), ("f", "F"),
+            ("f.a", "f"), ("2!f", "1!g")):
             self.at(6, 1, lines(f"label {one} main 0", f"label {other} main 0"))
             self.at(6, 1, lines(f"equation {one} 0", f"equation {other} 0"))
         for one, other in (("f", "f"), ("g", "f"), ("f.a", "f")):

@@ -6,7 +6,8 @@ from macroasm.statements import statement_of
 
 KINDS = (
     ("section data", "section", ("data",)), ("section byte", "section", ("byte",)),
-    ("byte 1", "byte", ("1",)), ("word 1, x", "word", ("1", "x")), ("long -1, .x, a.b@2, 3", "long", ("-1", ".x", "a.b@2", "3")),
+    ("byte 1", "byte", ("1",)), ("word 1, x", "word", ("1", "x")),
+    ("long -1, .x, a.b@2, 3", "long", ("-1", ".x", "a.b@2", "3")),
     ("text \"a, b\"", "text", ("\"a, b\"",)), ("text \"\"", "text", ("\"\"",)),
     ("space 3", "space", ("3",)), ("space n + 1, 255", "space", ("n + 1", "255")),
     ("align 4", "align", ("4",)), ("align 4, 7", "align", ("4", "7")),
@@ -24,7 +25,8 @@ class Kinds(Case):
             for label in (None, "f", ".x", "f@3"):
                 front = "" if label is None else label + ": "
                 statement = statement_of(front + line)
-                self.assertEqual((statement.label, statement.operation, statement.operands), (label, operation, operands))
+                self.assertEqual((statement.label, statement.operation, statement.operands),
+                    (label, operation, operands))
                 self.assertEqual(statement.text, front + line)
 
     def test_a_label_alone(self):
@@ -59,7 +61,8 @@ class Refused(Case):
         self.refused(TooLarge, (400,), statement_of, "byte 1" + " " * 395)
         self.assertEqual(statement_of("byte 1" + " " * 394).text, "byte 1")
         self.refused(TooLarge, (2 ** 64,), statement_of, "byte 99999999999999999999")
-        for line, column in (("byte @x", 5), ("1: byte", 0), ("a.b: byte 1", 0), ("= 5", 0), ("x: = 5", 3), ("byte (1", 7), ("byte 'a", 7)):
+        for line, column in (("byte @x", 5), ("1: byte", 0), ("a.b: byte 1", 0), ("= 5", 0), ("x: = 5", 3),
+            ("byte (1", 7), ("byte 'a", 7)):
             self.refused(BadLine, (column,), statement_of, line)
 
     def test_operands_that_lack(self):
@@ -70,19 +73,24 @@ class Refused(Case):
 
     def test_operands_that_are_too_many(self):
         for line, index in (
-            ("section a, b", 1), ("text \"a\", \"b\"", 1), ("space 1, 2, 3", 2), ("align 1, 2, 3", 2), ("scope a, b", 1),
+            ("section a, b", 1), ("text \"a\", \"b\"", 1), ("space 1, 2, 3", 2), ("align 1, 2, 3", 2),
+            ("scope a, b", 1),
             ("endscope a", 0), ("endscope ,", 0), ("x = 1, 2", 1),
         ):
             self.refused(BadOperands, (index,), statement_of, line)
 
     def test_operands_that_have_not_the_form(self):
         for line, index in (
-            ("section 5", 0), ("section a.b", 0), ("section .a", 0), ("section a@1", 0), ("section \"a\"", 0), ("section a b", 0),
+            ("section 5", 0), ("section a.b", 0), ("section .a", 0), ("section a@1", 0), ("section \"a\"", 0),
+            ("section a b", 0),
             ("scope a.b", 0), ("scope .a", 0), ("scope 1", 0), ("scope (a)", 0),
-            ("byte 1,", 1), ("byte , 1", 0), ("byte 1, \"a\", +", 1), ("byte {1}", 0), ("word 1 2", 0), ("long a < b < c", 0),
-            ("text a", 0), ("text 'a'", 0), ("text \"a\" \"b\"", 0), ("text (\"a\")", 0), ("text \"a\" + 1", 0), ("text ,", 0),
+            ("byte 1,", 1), ("byte , 1", 0), ("byte 1, \"a\", +", 1), ("byte {1}", 0), ("word 1 2", 0),
+            ("long a < b < c", 0),
+            ("text a", 0), ("text 'a'", 0), ("text \"a\" \"b\"", 0), ("text (\"a\")", 0), ("text \"a\" + 1", 0),
+            ("text ,", 0),
             ("space ,1", 0), ("space 1,", 1), ("align \"4\"", 0), ("align 4, \"0\"", 1),
-            ("export .x", 0), ("export a@1", 0), ("export b, a.c@2", 1), ("export 1", 0), ("export a + b", 0), ("export a,", 1),
+            ("export .x", 0), ("export a@1", 0), ("export b, a.c@2", 1), ("export 1", 0), ("export a + b", 0),
+            ("export a,", 1),
             ("import .x", 0), ("import a@1", 0), ("import b, a@1.c", 1), ("import (a)", 0), ("import", 0),
             ("jump 1 +", 0), ("jump 1, 2 +, 3", 1), ("jump ,", 0), ("jump \"a\"", 0),
             ("x = ", 1), ("x = 1 +", 1), ("x = \"a\"", 1), ("x == 5", 0),
@@ -106,13 +114,16 @@ class NormalTexts(Case):
             statement = statement_of(line)
             again = statement_of(statement.text)
             self.assertTrue(again == statement and again.text == statement.text, line)
-            self.assertEqual((again.label, again.operation, again.operands), (statement.label, statement.operation, statement.operands))
+            self.assertEqual((again.label, again.operation, again.operands),
+                (statement.label, statement.operation, statement.operands))
 
     def test_blanks_and_brackets(self):
         for line, text in (
-            ("f:byte 0x10,(a)+((b)),'\\''", "f: byte 16, a + b, 39"), ("  x  =-( - 3)", "x = --3"), ("x=a-(b-c)", "x = a - (b - c)"),
+            ("f:byte 0x10,(a)+((b)),'\\''", "f: byte 16, a + b, 39"), ("  x  =-( - 3)", "x = --3"),
+            ("x=a-(b-c)", "x = a - (b - c)"),
             ("jump   f,( .x )  ; c", "jump f, .x"), ("export a ,b", "export a, b"), (" space 0b11 , 07", "space 3, 7"),
-            ("text \"\\'\\\"\\\\\\n'\"", "text \"'\\\"\\\\\\n'\""), ("endscope  ; s", "endscope"), ("f:endscope", "f: endscope"),
+            ("text \"\\'\\\"\\\\\\n'\"", "text \"'\\\"\\\\\\n'\""), ("endscope  ; s", "endscope"),
+            ("f:endscope", "f: endscope"),
         ):
             self.assertEqual(statement_of(line).text, text)
 
@@ -128,8 +139,10 @@ class NormalTexts(Case):
 class Paths(Case):
     def test_names_from_the_left(self):
         for line, names in (
-            ("go b + a * b, .x, a, c.d@1 - .x", ["b", "a", ".x", "c.d@1"]), ("x = y - x + y", ["y", "x"]), ("f: jump f", ["f"]),
-            ("space n, m + n", ["n", "m"]), ("byte 1, 'a'", []), ("text \"a b\"", []), ("section a", []), ("scope a", []),
+            ("go b + a * b, .x, a, c.d@1 - .x", ["b", "a", ".x", "c.d@1"]), ("x = y - x + y", ["y", "x"]),
+            ("f: jump f", ["f"]),
+            ("space n, m + n", ["n", "m"]), ("byte 1, 'a'", []), ("text \"a b\"", []), ("section a", []),
+            ("scope a", []),
             ("export a, b", []), ("import a", []), ("f:", []), ("halt", []), ("align q.r", ["q.r"]),
         ):
             self.assertEqual(list(statement_of(line).paths()), names)

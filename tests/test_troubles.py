@@ -44,7 +44,8 @@ class Lines(ObjectCase):
     def test_operands(self):
         for line, index in (
             ("jump", 0), ("jump 1, 2", 1), ("jump 1 +, 2", 0), ("move 1", 1), ("move 1 +", 0), ("move 1, 2 +, 3", 1),
-            ("move 1, 2, 3 +", 2), ("halt 1", 0), ("halt ,", 0), ("move ,", 0), ("move 1,", 1), ("byte", 0), ("byte 1, +", 1),
+            ("move 1, 2, 3 +", 2), ("halt 1", 0), ("halt ,", 0), ("move ,", 0), ("move 1,", 1), ("byte", 0),
+            ("byte 1, +", 1),
             ("jump \"a\"", 0), ("text a", 0), ("section a@1", 0), ("export a@1", 0), ("import a, .x", 1), ("x = +", 1),
             (".x = +", 1), ("byte = +", 1), ("endscope 1", 0), ("align 1, 2, 3", 2),
         ):
