@@ -42,7 +42,8 @@ class Tree:
         return self._used
 
     def __len__(self):
-        return len(range(self._shown[1]))
+        # The rules let a length be given back by len alone, and not of a range.
+        return len(list(range(self._shown[1])))
 
     def __contains__(self, name):
         return isinstance(name, str) and name in self._used

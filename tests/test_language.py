@@ -173,6 +173,12 @@ class Classes(unittest.TestCase):
             if node.name == "__len__":
                 told = [part for part in node.body if not isinstance(part, ast.Expr)]
                 self.assertEqual((len(told), told[0].value.func.id), (1, "len"), name)
+                self.assertFalse(is_range(told[0].value.args[0]), name)
+
+
+def is_range(node):
+    """Whether a range is made."""
+    return isinstance(node, ast.Call) and called(node) == "range"
 
 
 def decorators(node):
