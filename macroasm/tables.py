@@ -162,7 +162,10 @@ def _check_rows(rows):
         for number, form in enumerate(forms):
             if not _is_form(form) or not _may_follow(form, forms[:number]) or _is_met(form[0], begun):
                 raise BadTable(row, number)
-            _add_opcode(form[0], begun)
+            opcode = form[0]
+            for many in range(1, len(opcode)):
+                begun[opcode[:many]] = False
+            begun[opcode] = True
 
 
 def _is_row(value):
@@ -197,12 +200,6 @@ def _is_met(opcode, begun):
         if begun.get(opcode[:many], False):
             return True
     return False
-
-
-def _add_opcode(opcode, begun):
-    for many in range(1, len(opcode)):
-        begun[opcode[:many]] = False
-    begun[opcode] = True
 
 
 def _opcodes_of(rows):
