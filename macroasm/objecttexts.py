@@ -5,7 +5,7 @@ from macroasm.errors import BadObject, BadText, TooLarge
 from macroasm.fields import LAST_CELL, is_cell
 from macroasm.fragments import ALIGNMENTS, MOST_IN_GAP, MOST_OPERANDS, PATCHES, Alignment, Choice, Data, Gap, Section
 from macroasm.linear import MOST_UNKNOWNS, Linear, is_unknown
-from macroasm.lines import is_free_name, is_name, is_reserved, is_used
+from macroasm.lines import is_name, is_reserved, is_used
 from macroasm.names import MOST_SCOPES
 from macroasm.objects import MOST_PIECES, PRIVATE, Object
 from macroasm.origins import Origin
@@ -208,7 +208,7 @@ class ObjectReading:
 
     def _read_choice(self, words):
         name = words.next_word()
-        words.require(is_free_name(name))
+        words.require(is_name(name))
         operands = []
         while words.has_more():
             word = words.next_word()

@@ -9,6 +9,7 @@ from macroasm.errors import (
 )
 from macroasm.expanding import expanded
 from macroasm.linking import assembled, explains, link, steps
+from macroasm.objecttexts import read_object
 from macroasm.tables import Table
 
 FAR = "jump b\nspace 124\njump c\nb: space 123\njump d\nc: space 128\nd: load 300\nload 300"
@@ -90,6 +91,7 @@ class Linked(ObjectCase):
         self.refused(NoInstruction, ("jump",), link, (whole,), other)
         self.refused(BadOperands, (1,), link, (whole,), Table(("jump", (((1,), ()),))))
         self.refused(NoInstruction, ("jump",), link, (made("space 65536\nhalt\njump 1"),), other)
+        self.refused(NoInstruction, ("if",), link, (read_object("pieces 1\nsection main\ndo t:1 if"),), TABLE)
 
     def test_errors_of_the_layout(self):
         self.refused(TooLarge, (300,), link, (made("\n".join(["halt"] * 301)),), TABLE)

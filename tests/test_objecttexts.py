@@ -3,6 +3,7 @@
 from assembling_helpers import ObjectCase, form, made
 from helpers import LIMIT
 from macroasm.errors import BadObject, BadText, TooLarge
+from macroasm.lines import RESERVED
 from macroasm.objects import joined
 from macroasm.objecttexts import object_text, read_object
 
@@ -77,6 +78,13 @@ class Read(ObjectCase):
             self.assertTrue(joined((made("a: byte a"), read_object(object_text(one)))) == joined((made("a: byte a"),
                 one)))
 
+    def test_choices_may_have_any_name(self):
+        for name in (*RESERVED, "mods", "_", "a" * 40):
+            text = f"pieces 1\nsection main\ndo a:1 {name}\ndo a:2 {name} 5"
+            whole = read_object(text)
+            self.has(whole, {"main": [(name,), (name, (5,))]})
+            self.assertEqual(object_text(whole), text)
+
     def test_least_ones(self):
         for text in ("pieces 1", "pieces 1000000", "pieces 1\nequation e 5", "pieces 1\nimport a",
             "pieces 7\nsection a\nsection b\nlabel 7!a b 0"):
@@ -140,8 +148,9 @@ class Refused(ObjectCase):
             ("data a:1 1 2 x", 4), ("data a:1 b3:1", 2), ("data a:1 b1:", 2), ("data a:1 b1", 2), ("data a:1 :1", 2),
             ("data a:1 u1:1", 2), ("data a:1  1", 2),
             ("data a:1 b1:01", 2), ("data a:1 B1:1", 2), ("data a:1 b1:1:2", 2),
-            ("do", 1), ("do a:1", 2), ("do a:1 ", 2), ("do a:1 1a", 2), ("do a:1 a.b", 2), ("do a:1 byte", 2),
-            ("do a:1 go ", 3), ("do a:1 go 1 x", 4),
+            ("do", 1), ("do a:1", 2), ("do a:1 ", 2), ("do a:1 1a", 2), ("do a:1 a.b", 2), ("do a:1 a@1", 2),
+            ("do a:1 " + "a" * 41, 2), ("do a:1 byte go", 3), ("do a:1 mod ", 3), ("do a:1 go ", 3),
+            ("do a:1 go 1 x", 4),
             ("do a:1 go 1 2 3 4 5", 7), ("do a:1 go 1 2 3 4 x", 7), ("do a:1 go b1:1", 3), ("do a:x go x", 1),
             ("align a:1", 2), ("align a:1 4", 3), ("align a:1 3 0", 2), ("align a:1 0 0", 2), ("align a:1 128 0", 2),
             ("align a:1 -4 0", 2), ("align a:1 04 0", 2),
